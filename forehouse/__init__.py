@@ -1,0 +1,1 @@
+"""Forehouse: shares of forecasts, one relation of two seen from eight sides."""

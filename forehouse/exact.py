@@ -1,0 +1,108 @@
+"""Reckoning with FRACTIONS that are known to be such."""
+
+from math import gcd
+
+NOUGHT = (0, 1)
+ONE = (1, 1)
+
+
+def made(top, bottom):
+    if bottom < 0:
+        top, bottom = -top, -bottom
+    shared = gcd(top, bottom)
+    return (top // shared, bottom // shared)
+
+
+def added(one, other):
+    return made(one[0] * other[1] + other[0] * one[1], one[1] * other[1])
+
+
+def taken(one, other):
+    """The first one less the second one."""
+    return made(one[0] * other[1] - other[0] * one[1], one[1] * other[1])
+
+
+def multiplied(one, other):
+    return made(one[0] * other[0], one[1] * other[1])
+
+
+def divided(one, other):
+    return made(one[0] * other[1], one[1] * other[0])
+
+
+def contrary(one):
+    return (-one[0], one[1])
+
+
+def is_under(one, other):
+    return one[0] * other[1] < other[0] * one[1]
+
+
+def is_strictly_between(low, middle, high):
+    return is_under(low, middle) and is_under(middle, high)
+
+
+def lesser(one, other):
+    return other if is_under(other, one) else one
+
+
+def greater(one, other):
+    return other if is_under(one, other) else one
+
+
+def excess(one, other):
+    """What the first one is more than the second one, nought if it is not."""
+    return taken(one, other) if is_under(other, one) else NOUGHT
+
+
+def half_square(one):
+    return made(one[0] * one[0], 2 * one[1] * one[1])
+
+
+def added_up(some):
+    whole = NOUGHT
+    for part in some:
+        whole = added(whole, part)
+    return whole
+
+
+def summed_products(some, others):
+    """The sum of the products of each two at the same place."""
+    return added_up([multiplied(one, other) for one, other in zip(some, others)])
+
+
+def do_ascend(some):
+    """Whether each is greater than the one ahead."""
+    return all([is_under(some[at], some[at + 1]) for at in range(len(some) - 1)])
+
+
+def merged(some, others):
+    """Both ordered lists as one."""
+    out = []
+    at = 0
+    for one in some:
+        while at < len(others) and is_under(others[at], one):
+            out.append(others[at])
+            at += 1
+        out.append(one)
+    return out + others[at:]
+
+
+def in_order(some):
+    """The list of all of them, the least first."""
+    # Merging needs no common denominator, which may be immense for many of them.
+    runs = [[one] for one in some]
+    while len(runs) > 1:
+        pairs = [merged(runs[at], runs[at + 1]) for at in range(0, len(runs) - 1, 2)]
+        runs = pairs + runs[2 * len(pairs):]
+    return runs[0] if runs else []
+
+
+def unlike_in_order(some):
+    """The list of all unlike ones, the least first."""
+    return in_order(list({one: True for one in some}))
+
+
+def ranks(some):
+    """For each of them how many unlike ones are less, in a dict."""
+    return {one: rank for rank, one in enumerate(unlike_in_order(some))}

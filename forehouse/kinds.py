@@ -1,0 +1,70 @@
+"""Of what kind a thing is, asked so that any thing at all may be asked about."""
+
+from math import gcd
+
+
+def is_integer(thing):
+    # True and False are integers to Python, but not here.
+    return isinstance(thing, int) and not isinstance(thing, bool)
+
+
+def is_place(thing, many):
+    """Whether it is the number of one of so many things."""
+    return is_integer(thing) and 0 <= thing < many
+
+
+def is_row(thing, many):
+    """Whether it is a tuple of so many things."""
+    return isinstance(thing, tuple) and len(thing) == many
+
+
+def is_row_within(thing, least, most):
+    """Whether it is a tuple of at least and at most so many things."""
+    return isinstance(thing, tuple) and least <= len(thing) <= most
+
+
+def is_called(thing, word, many):
+    """Whether it is a tuple of so many things, with this word first."""
+    # An object of a foreign class may claim to be equal to every word.
+    return is_row(thing, many) and isinstance(thing[0], str) and thing[0] == word
+
+
+def is_fraction(thing):
+    if not is_row(thing, 2):
+        return False
+    top, bottom = thing
+    if not is_integer(top) or not is_integer(bottom):
+        return False
+    return bottom > 0 and gcd(top, bottom) == 1
+
+
+def is_weight(thing):
+    return is_fraction(thing) and thing[0] > 0
+
+
+def is_price(thing):
+    """Whether it is a FRACTION from nought on."""
+    return is_fraction(thing) and thing[0] >= 0
+
+
+def are_fractions(thing, many):
+    """Whether it is a tuple of so many FRACTIONS."""
+    return is_row(thing, many) and all([is_fraction(part) for part in thing])
+
+
+def is_same(thing, told):
+    """Whether a thing of any kind is just this: integers, or tuples of such."""
+    if isinstance(told, tuple):
+        if not is_row(thing, len(told)):
+            return False
+        return all([is_same(part, other) for part, other in zip(thing, told)])
+    return is_integer(thing) and thing == told
+
+
+def copied(thing):
+    """A copy in which tuples and integers are plain ones, whatever was passed."""
+    if isinstance(thing, tuple):
+        return tuple([copied(part) for part in thing])
+    if is_integer(thing):
+        return int(thing)
+    return thing

@@ -1,0 +1,99 @@
+"""MOVES of the REPORT of a house with a LADDER, and what they earn."""
+
+from forehouse.errors import BadBounds
+from forehouse.exact import added_up, contrary, excess, greater, is_under, multiplied, taken
+from forehouse.ladders import sure_ladder
+from forehouse.ratios import sure_fraction
+from forehouse.relation import is_rest_less, rest_of
+from forehouse.shares import moment_of, sure_share, total_of
+
+
+def passed(ladder, low, high):
+    """The pairs with MARKS greater than low, and no greater than high."""
+    return [rung for rung in ladder if is_under(low, rung[0]) and not is_under(high, rung[0])]
+
+
+def position_of(ladder, report, later):
+    if is_under(later, report):
+        return contrary(position_of(ladder, later, report))
+    return added_up([units for _, units in passed(ladder, report, later)])
+
+
+def paid_of(ladder, report, later):
+    if is_under(later, report):
+        return contrary(paid_of(ladder, later, report))
+    return added_up([multiplied(mark, units) for mark, units in passed(ladder, report, later)])
+
+
+def position(ladder, report, later):
+    ladder = sure_ladder(ladder)
+    report = sure_fraction(report)
+    later = sure_fraction(later)
+    return position_of(ladder, report, later)
+
+
+def paid(ladder, report, later):
+    ladder = sure_ladder(ladder)
+    report = sure_fraction(report)
+    later = sure_fraction(later)
+    return paid_of(ladder, report, later)
+
+
+def earned(ladder, report, later, worth):
+    ladder = sure_ladder(ladder)
+    report = sure_fraction(report)
+    later = sure_fraction(later)
+    worth = sure_fraction(worth)
+    got = multiplied(worth, position_of(ladder, report, later))
+    return taken(got, paid_of(ladder, report, later))
+
+
+def line_of(ladder, report, worth):
+    """The LOSS LINE at a worth."""
+    out = []
+    for mark, units in ladder:
+        # Below the REPORT the house buys, so it loses where the worth is less.
+        gap = excess(worth, mark) if is_under(report, mark) else excess(mark, worth)
+        out.append(multiplied(units, gap))
+    return added_up(out)
+
+
+def loss_at(ladder, report, worth):
+    ladder = sure_ladder(ladder)
+    report = sure_fraction(report)
+    worth = sure_fraction(worth)
+    return line_of(ladder, report, worth)
+
+
+def greatest_loss(ladder, report, low, high):
+    ladder = sure_ladder(ladder)
+    report = sure_fraction(report)
+    low = sure_fraction(low)
+    high = sure_fraction(high)
+    if is_under(high, low):
+        raise BadBounds((low, high))
+    return greater(line_of(ladder, report, low), line_of(ladder, report, high))
+
+
+def earns(ladder, report, share):
+    ladder = sure_ladder(ladder)
+    report = sure_fraction(report)
+    share = sure_share(share)
+    out = []
+    for mark, units in ladder:
+        rest = rest_of(share, mark)
+        if not is_under(report, mark):
+            held = taken(moment_of(share), multiplied(mark, total_of(share)))
+            rest = taken(rest, held)
+        out.append(multiplied(units, rest))
+    return added_up(out)
+
+
+def mark_by(ladder, one, other):
+    ladder = sure_ladder(ladder)
+    one = sure_share(one)
+    other = sure_share(other)
+    for mark, _ in ladder:
+        if is_rest_less(one, other, mark):
+            return mark
+    return None

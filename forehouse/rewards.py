@@ -1,0 +1,159 @@
+"""REWARDS of two times, and the VALUES that TABLES give them."""
+
+from forehouse.errors import BadPaper, BadReward, BadTable
+from forehouse.exact import NOUGHT, added, added_up, divided, is_under, multiplied, summed_products
+from forehouse.exact import taken
+from forehouse.extremes import greatest_four, least_four
+from forehouse.kinds import are_fractions, copied, is_integer, is_row
+from forehouse.relation import need_wider
+from forehouse.shares import numbers_of, sure_share, weights_of
+from forehouse.tables import is_between, sure_table
+
+MOST_PAID = 1000
+
+
+def is_paid(thing):
+    return is_integer(thing) and -MOST_PAID <= thing <= MOST_PAID
+
+
+def sure_reward(one, other, thing):
+    """A plain copy of a REWARD for two SHARES."""
+    if not is_row(thing, len(one)):
+        raise BadReward(thing)
+    for row in thing:
+        if not is_row(row, len(other)) or not all([is_paid(paid) for paid in row]):
+            raise BadReward(thing)
+    return copied(thing)
+
+
+def value_by(one, other, reward, table):
+    paid = {}
+    for at, near in enumerate(numbers_of(one)):
+        for to, far in enumerate(numbers_of(other)):
+            paid[(near, far)] = (reward[at][to], 1)
+    return added_up([multiplied(weight, paid[(near, far)]) for near, far, weight in table])
+
+
+def value_of(one, other, reward, table):
+    one = sure_share(one)
+    other = sure_share(other)
+    reward = sure_reward(one, other, reward)
+    steps = sure_table(table)
+    if not is_between(one, other, steps):
+        raise BadTable(table)
+    return value_by(one, other, reward, steps)
+
+
+def least_paper(one, other, reward):
+    one = sure_share(one)
+    other = sure_share(other)
+    reward = sure_reward(one, other, reward)
+    need_wider(one, other)
+    return least_four(one, other, reward)
+
+
+def greatest_paper(one, other, reward):
+    one = sure_share(one)
+    other = sure_share(other)
+    reward = sure_reward(one, other, reward)
+    need_wider(one, other)
+    return greatest_four(one, other, reward)
+
+
+def least_value(one, other, reward):
+    one = sure_share(one)
+    other = sure_share(other)
+    reward = sure_reward(one, other, reward)
+    need_wider(one, other)
+    return value_by(one, other, reward, least_four(one, other, reward)[0])
+
+
+def greatest_value(one, other, reward):
+    one = sure_share(one)
+    other = sure_share(other)
+    reward = sure_reward(one, other, reward)
+    need_wider(one, other)
+    return value_by(one, other, reward, greatest_four(one, other, reward)[0])
+
+
+def need_prices(one, other, paper):
+    """Raises the error of a PAPER whose form, TABLE or prices are not as told."""
+    if not is_row(paper, 4):
+        raise BadPaper("form")
+    if not is_between(one, other, paper[0]):
+        raise BadPaper("table")
+    lengths = (len(one), len(other), len(one))
+    if not all([are_fractions(part, many) for part, many in zip(paper[1:], lengths)]):
+        raise BadPaper("prices")
+
+
+def spare(one, other, reward, paper):
+    """The list of what is paid at each X and Y beyond what U, V and H are together."""
+    _, near, far, drift = paper
+    out = []
+    for at, number in enumerate(numbers_of(one)):
+        for to, later in enumerate(numbers_of(other)):
+            moved = multiplied(drift[at], taken(later, number))
+            asked = added(added(near[at], far[to]), moved)
+            out.append(taken((reward[at][to], 1), asked))
+    return out
+
+
+def need_sum(one, other, paper, value):
+    """Raises the error of a PAPER with U and V that are not worth the VALUE."""
+    near = summed_products(weights_of(one), paper[1])
+    far = summed_products(weights_of(other), paper[2])
+    if added(near, far) != value:
+        raise BadPaper("sum")
+
+
+def check_least(one, other, reward, paper):
+    one = sure_share(one)
+    other = sure_share(other)
+    reward = sure_reward(one, other, reward)
+    need_wider(one, other)
+    need_prices(one, other, paper)
+    paper = copied(paper)
+    if any([is_under(part, NOUGHT) for part in spare(one, other, reward, paper)]):
+        raise BadPaper("bound")
+    value = value_by(one, other, reward, paper[0])
+    need_sum(one, other, paper, value)
+    return value
+
+
+def check_greatest(one, other, reward, paper):
+    one = sure_share(one)
+    other = sure_share(other)
+    reward = sure_reward(one, other, reward)
+    need_wider(one, other)
+    need_prices(one, other, paper)
+    paper = copied(paper)
+    if any([is_under(NOUGHT, part) for part in spare(one, other, reward, paper)]):
+        raise BadPaper("bound")
+    value = value_by(one, other, reward, paper[0])
+    need_sum(one, other, paper, value)
+    return value
+
+
+def slopes(numbers, rises):
+    """What the RISE grows by, divided by what the NUMBER grows by, for all neighbours."""
+    return [divided((rises[at + 1] - rises[at], 1), taken(numbers[at + 1], numbers[at]))
+            for at in range(len(rises) - 1)]
+
+
+def bend_of(one, other, reward):
+    one = sure_share(one)
+    other = sure_share(other)
+    reward = sure_reward(one, other, reward)
+    down = up = True
+    for at in range(len(reward) - 1):
+        rises = [later - paid for paid, later in zip(reward[at], reward[at + 1])]
+        grown = slopes(numbers_of(other), rises)
+        for to in range(len(grown) - 1):
+            down = down and not is_under(grown[to], grown[to + 1])
+            up = up and not is_under(grown[to + 1], grown[to])
+    if down and up:
+        return "straight"
+    if down or up:
+        return "down" if down else "up"
+    return None

@@ -1,0 +1,348 @@
+"""Of every function: each wrong argument, two wrong ones at once, the same call twice."""
+
+import copy
+import inspect
+import unittest
+
+from forehouse import (agree, coarser, errors, knows, ladders, lefts, moves, ratios, rests, rewards,
+                       scores, shares, spans, tables, talks, tellers, views, worths)
+from tests import wrongs
+from tests.makers import share_of_integers, whole, world_of_integers
+from tests.wrongs import ODD
+
+# Each kind of an argument: its error, and what is wrong of this kind beside what is always wrong.
+KINDS = {
+    "world": ("BadWorld", wrongs.WORLDS), "view": ("BadView", wrongs.VIEWS),
+    "views": ("BadViews", wrongs.SOME_VIEWS), "event": ("BadEvent", wrongs.LOTS),
+    "cell": ("BadEvent", wrongs.LOTS + ((),)), "state": ("BadState", wrongs.STATES),
+    "bet": ("BadBet", wrongs.BETS), "guesses": ("BadGuesses", wrongs.BETS),
+    "share": ("BadShare", wrongs.SHARES), "table": ("BadTable", wrongs.TABLES),
+    "fraction": ("BadFraction", wrongs.FRACTIONS), "score": ("BadScore", wrongs.SCORES),
+    "ladder": ("BadLadder", wrongs.LADDERS), "reward": ("BadReward", ((), ((0,),), 0)),
+    "near": ("BadNumber", wrongs.FRACTIONS + ((7, 1), (1, 2))),
+    "far": ("BadNumber", wrongs.FRACTIONS + ((7, 1), (1, 2))),
+    "times": ("BadNumber", (-1, (1,), -10 ** 30)), "integer": ("BadNumber", ((1, 1), "1")),
+    "bottom": ("BadNumber", ((1, 1), 0)), "fractions": ("BadFractions", ((1, 1), 1)),
+    "paper": ("BadPaper", (7, [()])), "any": (None, ())}
+
+WORLD = world_of_integers((1, 0), (1, 1), (2, 2))
+VIEW, OTHER = ((0, 1), (2,)), ((0,), (1, 2))
+VIEWS = (VIEW, OTHER)
+BET = (whole(1), whole(-1), whole(0))
+ONE = share_of_integers((-1, 4), (1, 4))
+WIDE = share_of_integers((-2, 3), (0, 2), (2, 3))
+REWARD = ((0, 1, 0), (0, 0, 2))
+TABLE = lefts.left_table(ONE, WIDE)
+LATER = tuple((number, number, weight) for number, weight in WIDE)
+MARK = (1, 2)
+SCORE = (("mark", (0, 1), (1, 1)), ("stretch", (0, 1), (1, 1), (1, 2)))
+LADDER = (((0, 1), (1, 1)), ((1, 1), (2, 1)))
+
+GOOD = {"world": WORLD, "view": VIEW, "views": VIEWS, "event": (0, 1), "cell": (0, 2), "state": 0,
+        "bet": BET, "guesses": BET, "share": ONE, "table": TABLE, "fraction": MARK, "score": SCORE,
+        "ladder": LADDER, "reward": REWARD, "near": whole(1), "far": whole(0), "times": 2,
+        "integer": 3, "bottom": -2, "fractions": (MARK, MARK), "any": None}
+
+
+class Call:
+    """A function with the kinds of its arguments, and arguments that are right."""
+
+    def __init__(self, function, kinds, names, **given):
+        self.function = function
+        self.kinds = kinds.split()
+        self.names = names.split()
+        self.given = {**GOOD, **given}
+        self.args = [self.given.get(name, self.given[kind])
+                     for kind, name in zip(self.kinds, self.names)]
+
+
+PAIR = {"other": WIDE}
+TWO = {"other": OTHER}
+STEP = {"number": whole(1), "other": WIDE}
+
+CALLS = (
+    Call(ratios.need_fraction, "fraction", "thing"),
+    Call(ratios.ratio, "integer bottom", "top bottom"),
+    Call(ratios.plus, "fraction fraction", "one other"),
+    Call(ratios.less, "fraction fraction", "one other"),
+    Call(ratios.times, "fraction fraction", "one other"),
+    Call(ratios.over, "fraction fraction", "one other"),
+    Call(ratios.is_less, "fraction fraction", "one other"),
+    Call(ratios.ordered, "fractions", "some"),
+    Call(views.need_world, "world", "thing"),
+    Call(views.need_view, "world view", "world thing"),
+    Call(views.mean_of, "world cell", "world lot"),
+    Call(views.forecasts, "world view", "world view"),
+    Call(views.share_of, "world view", "world view"),
+    Call(views.join_of, "world views", "world views"),
+    Call(views.meet_of, "world views", "world views"),
+    Call(views.core, "world view", "world view"),
+    Call(views.is_finer, "world view view", "world view other", **TWO),
+    Call(views.finer_paper, "world view view", "world view other", **TWO),
+    Call(views.check_finer, "world view view paper", "world view other paper", **TWO,
+         paper=("apart", 0, 1)),
+    Call(views.view_by, "world bet", "world things"),
+    Call(knows.does_know, "world view event state", "world view event state"),
+    Call(knows.known_times, "world views event times", "world views event times"),
+    Call(knows.common, "world views event", "world views event"),
+    Call(knows.depth, "world views event state", "world views event state"),
+    Call(knows.common_paper, "world views event state", "world views event state"),
+    Call(knows.check_common, "world views event state paper", "world views event state paper",
+         paper=("way", (0, 1, 2), (0, 1))),
+    Call(agree.agreed, "world views state", "world views state"),
+    Call(agree.takes, "world view bet state", "world view bet state"),
+    Call(agree.gives, "world view bet state", "world view bet state"),
+    Call(agree.bet_way, "world view view bet state", "world view other bet state", **TWO),
+    Call(agree.check_bet, "world view view bet state paper", "world view other bet state paper",
+         **TWO, paper=((0,), ())),
+    Call(talks.round_talk, "world views", "world views"),
+    Call(talks.last_public, "world views", "world views"),
+    Call(talks.check_talk, "world views paper", "world views paper",
+         paper=talks.round_talk(WORLD, VIEWS)),
+    Call(talks.Talk, "world views", "world views"),
+    Call(coarser.coarser_views, "world view", "world view"),
+    Call(coarser.coarser_shares, "world view", "world view"),
+    Call(coarser.coarser_with, "world view share", "world view share"),
+    Call(shares.need_share, "share", "thing"),
+    Call(shares.total, "share", "share"),
+    Call(shares.moment, "share", "share"),
+    Call(shares.put_together, "share share", "one other", **PAIR),
+    Call(rests.rest_at, "share fraction", "share mark"),
+    Call(rests.is_wider, "share share", "one other", **PAIR),
+    Call(rests.wider_paper, "share share", "one other", **PAIR),
+    Call(rests.check_wider, "share share paper", "one other paper", **PAIR,
+         paper=("table", TABLE)),
+    Call(tables.need_table, "table", "thing"),
+    Call(tables.left_share, "table", "table"),
+    Call(tables.right_share, "table", "table"),
+    Call(tables.goes_between, "share share any", "one other value", **PAIR),
+    Call(tables.behind, "table table", "table later", later=LATER),
+    Call(lefts.crossings, "table", "table"),
+    Call(lefts.crossings_back, "table", "table"),
+    Call(lefts.left_table, "share share", "one other", **PAIR),
+    Call(lefts.right_table, "share share", "one other", **PAIR),
+    Call(rewards.value_of, "share share reward table", "one other reward table", **PAIR),
+    Call(rewards.least_value, "share share reward", "one other reward", **PAIR),
+    Call(rewards.greatest_value, "share share reward", "one other reward", **PAIR),
+    Call(rewards.least_paper, "share share reward", "one other reward", **PAIR),
+    Call(rewards.greatest_paper, "share share reward", "one other reward", **PAIR),
+    Call(rewards.check_least, "share share reward paper", "one other reward paper", **PAIR,
+         paper=rewards.least_paper(ONE, WIDE, REWARD)),
+    Call(rewards.check_greatest, "share share reward paper", "one other reward paper", **PAIR,
+         paper=rewards.greatest_paper(ONE, WIDE, REWARD)),
+    Call(rewards.bend_of, "share share reward", "one other reward", **PAIR),
+    Call(spans.stretches, "share share", "one other", **PAIR),
+    Call(spans.span, "share share near", "one other number", **STEP),
+    Call(spans.can_go, "share share near far", "one other number far", **STEP),
+    Call(spans.go_paper, "share share near far", "one other number far", **STEP),
+    Call(spans.check_go, "share share near far paper", "one other number far paper", **STEP,
+         paper=spans.go_paper(ONE, WIDE, whole(1), whole(0))),
+    Call(spans.pieces, "share share", "one other", **PAIR),
+    Call(spans.fixed_share, "share share", "one other", **PAIR),
+    Call(scores.need_score, "score", "thing"),
+    Call(scores.plain, "score", "score"),
+    Call(scores.are_like, "score score", "score far", far=SCORE[::-1]),
+    Call(scores.squares, "fraction fraction", "low high", high=(2, 1)),
+    Call(scores.bend_at, "score fraction", "score number"),
+    Call(worths.weighed_rest, "score share", "score share"),
+    Call(worths.sees, "score share", "score share"),
+    Call(worths.world_rest, "world fraction", "world mark"),
+    Call(worths.weighed_world, "score world", "score world"),
+    Call(worths.step_cost, "score table", "score table"),
+    Call(worths.mark_of, "score share share", "score one other", **PAIR),
+    Call(tellers.need_guesses, "world guesses", "world thing"),
+    Call(tellers.charge, "world guesses fraction", "world guesses mark"),
+    Call(tellers.loss, "world guesses score", "world guesses score"),
+    Call(tellers.own_guesses, "world guesses", "world guesses"),
+    Call(tellers.is_own, "world guesses", "world guesses"),
+    Call(tellers.parts, "world guesses score", "world guesses score"),
+    Call(ladders.need_ladder, "ladder", "thing"),
+    Call(ladders.as_score, "ladder", "ladder"),
+    Call(ladders.ladder_of, "score", "score"),
+    Call(moves.position, "ladder fraction fraction", "ladder report later"),
+    Call(moves.paid, "ladder fraction fraction", "ladder report later"),
+    Call(moves.earned, "ladder fraction fraction fraction", "ladder report later worth"),
+    Call(moves.loss_at, "ladder fraction fraction", "ladder report worth"),
+    Call(moves.greatest_loss, "ladder fraction fraction fraction", "ladder report low high",
+         high=(2, 1)),
+    Call(moves.earns, "ladder fraction share", "ladder report share"),
+    Call(moves.mark_by, "ladder share share", "ladder one other", **PAIR),
+)
+
+# What the interface lists under each file.
+LISTED = {
+    ratios: "need_fraction ratio plus less times over is_less ordered",
+    views: "need_world need_view mean_of forecasts share_of join_of meet_of core is_finer "
+           "finer_paper check_finer view_by",
+    knows: "does_know known_times common depth common_paper check_common",
+    agree: "agreed takes gives bet_way check_bet",
+    talks: "round_talk last_public check_talk Talk under",
+    coarser: "coarser_views coarser_shares coarser_with",
+    shares: "need_share total moment put_together",
+    rests: "rest_at is_wider wider_paper check_wider",
+    tables: "need_table left_share right_share goes_between behind",
+    lefts: "crossings crossings_back left_table right_table",
+    rewards: "value_of least_value greatest_value least_paper greatest_paper check_least "
+             "check_greatest bend_of",
+    spans: "stretches span can_go go_paper check_go pieces fixed_share",
+    scores: "need_score plain are_like squares bend_at",
+    worths: "weighed_rest sees world_rest weighed_world step_cost mark_of",
+    tellers: "need_guesses charge loss own_guesses is_own parts",
+    ladders: "need_ladder as_score ladder_of",
+    moves: "position paid earned loss_at greatest_loss earns mark_by"}
+
+
+def wanted_part(kind, thing):
+    """The field of the errors that do not tell the thing itself."""
+    if kind == "paper":
+        return "form"
+    most = {"world": 36, "score": 10, "ladder": 10}[kind]
+    if not isinstance(thing, tuple) or len(thing) > most or (kind == "world" and not thing):
+        return "form" if kind == "world" else None
+    return next(at for at in range(len(thing)) if not is_right(kind, thing, at))
+
+
+def is_right(kind, thing, at):
+    """Whether a WORLD, a SCORE, a LADDER is right up to that place."""
+    need = {"world": views.need_world, "score": scores.need_score,
+            "ladder": ladders.need_ladder}[kind]
+    try:
+        need(thing[:at + 1])
+    except errors.ForeError:
+        return False
+    return True
+
+
+class RefusalsTest(unittest.TestCase):
+
+    def refuse(self, call, at, thing, args):
+        kind = call.kinds[at]
+        wanted = getattr(errors, KINDS[kind][0])
+        try:
+            call.function(*args)
+        except errors.ForeError as error:
+            self.assertIs(type(error), wanted, (call.function, at, thing))
+            if kind in ("world", "score", "ladder", "paper"):
+                part = error.number if kind in ("score", "ladder") else error.part
+                self.assertEqual(part, wanted_part(kind, thing), (call.function, at, thing))
+            else:
+                self.assertIs(error.given, thing)
+        else:
+            self.fail((call.function, at, thing))
+
+    def wrong(self, call, at):
+        """What is wrong as this argument."""
+        kind = call.kinds[at]
+        if kind == "any":
+            return ()
+        things = ODD + KINDS[kind][1]
+        if call.function is agree.check_bet and kind == "paper":
+            return [thing for thing in things if not isinstance(thing, tuple)]
+        if call.function is talks.check_talk and kind == "paper":
+            return [thing for thing in things if not (
+                isinstance(thing, tuple) and all(isinstance(part, tuple) for part in thing))]
+        return things
+
+    def test_each_wrong_argument_is_told(self):
+        for call in CALLS:
+            for at in range(len(call.kinds)):
+                for thing in self.wrong(call, at):
+                    args = list(call.args)
+                    args[at] = thing
+                    self.refuse(call, at, thing, args)
+
+    def test_of_two_wrong_ones_the_first_is_told(self):
+        for call in CALLS:
+            for at in range(len(call.kinds)):
+                for later in range(at + 1, len(call.kinds)):
+                    if call.kinds[at] == "any":
+                        continue
+                    for thing in self.wrong(call, at)[::3]:
+                        args = list(call.args)
+                        args[at] = thing
+                        args[later] = None
+                        self.refuse(call, at, thing, args)
+
+    def test_the_same_call_twice_tells_the_same(self):
+        for call in CALLS:
+            before = copy.deepcopy(call.args)
+            first = call.function(*call.args)
+            second = call.function(*copy.deepcopy(call.args))
+            self.assertTrue(first == second, call.function)
+            self.assertEqual(call.args, before)
+
+    def test_the_same_wrong_call_raises_the_same(self):
+        for call in CALLS:
+            for at in range(len(call.kinds)):
+                for thing in self.wrong(call, at):
+                    if not isinstance(thing, (list, dict, set, tuple)):
+                        continue
+                    args = list(call.args)
+                    args[at] = thing
+                    before = repr(thing)
+                    told = []
+                    for _ in range(2):
+                        with self.assertRaises(errors.ForeError) as caught:
+                            call.function(*args)
+                        told.append((type(caught.exception), repr(vars(caught.exception))))
+                    self.assertEqual(told[0], told[1])
+                    self.assertEqual(repr(thing), before)
+
+    def test_results_are_plain(self):
+        class Row(tuple):
+            pass
+
+        class Whole(int):
+            pass
+
+        def odd(thing):
+            if isinstance(thing, tuple):
+                return Row(odd(part) for part in thing)
+            if isinstance(thing, int) and not isinstance(thing, bool):
+                return Whole(thing)
+            return thing
+
+        def is_plain(thing):
+            if type(thing) is tuple:
+                return all(is_plain(part) for part in thing)
+            return type(thing) in (int, str, bool, type(None), talks.Talk)
+
+        for call in CALLS:
+            args = [odd(arg) for arg in call.args]
+            told = call.function(*args)
+            self.assertTrue(told == call.function(*call.args))
+            if not call.function.__name__.startswith("need_"):
+                self.assertTrue(is_plain(told), call.function)
+
+
+class InterfaceTest(unittest.TestCase):
+
+    def test_each_call_is_named_and_takes_what_is_listed(self):
+        for call in CALLS:
+            names = list(inspect.signature(call.function).parameters)
+            self.assertEqual(names, call.names, call.function)
+
+    def test_each_is_defined_in_its_own_file(self):
+        asked = {call.function for call in CALLS}
+        for module, names in LISTED.items():
+            for name in names.split():
+                thing = vars(module)[name]
+                self.assertEqual(thing.__module__, module.__name__, name)
+                self.assertTrue(thing in asked or name == "under", name)
+
+    def test_the_methods_of_talk(self):
+        wanted = {"tell": "self number", "public": "self", "rests": "self", "heard": "self state",
+                  "undo": "self many", "copy": "self", "trial": "self", "__len__": "self",
+                  "__eq__": "self other", "__init__": "self world views"}
+        for name, names in wanted.items():
+            method = vars(talks.Talk)[name]
+            self.assertEqual(list(inspect.signature(method).parameters), names.split())
+        self.assertEqual(list(inspect.signature(talks.under).parameters), ["manager", "deed"])
+        talk = talks.Talk(WORLD, VIEWS)
+        talk.tell(0)
+        talk.undo(many=1)
+        self.assertEqual(len(talk), 0)
+
+
+if __name__ == "__main__":
+    unittest.main()
