@@ -33,19 +33,21 @@ def does_give(world, view, bet, state):
     return is_under(mean_pay(world, view, bet, state), NOUGHT)
 
 
-def takes(world, view, bet, state):
+def sure_taker(world, view, bet, state):
+    """Plain copies of a WORLD, and of a VIEW, a BET and a STATE of it."""
     world = sure_world(world)
     view = sure_view(world, view)
     bet = sure_bet(world, bet)
-    state = sure_state(world, state)
+    return (world, view, bet, sure_state(world, state))
+
+
+def takes(world, view, bet, state):
+    world, view, bet, state = sure_taker(world, view, bet, state)
     return does_take(world, view, bet, state)
 
 
 def gives(world, view, bet, state):
-    world = sure_world(world)
-    view = sure_view(world, view)
-    bet = sure_bet(world, bet)
-    state = sure_state(world, state)
+    world, view, bet, state = sure_taker(world, view, bet, state)
     return does_give(world, view, bet, state)
 
 
@@ -55,21 +57,22 @@ def unlike_states(world, view, other, bet):
             if not does_take(world, view, bet, state) or not does_give(world, other, bet, state)]
 
 
-def bet_way(world, view, other, bet, state):
+def sure_two(world, view, other, bet, state):
+    """Likewise of two VIEWS."""
     world = sure_world(world)
     view = sure_view(world, view)
     other = sure_view(world, other)
     bet = sure_bet(world, bet)
-    state = sure_state(world, state)
+    return (world, view, other, bet, sure_state(world, state))
+
+
+def bet_way(world, view, other, bet, state):
+    world, view, other, bet, state = sure_two(world, view, other, bet, state)
     return shortest_way((view, other), state, unlike_states(world, view, other, bet))
 
 
 def check_bet(world, view, other, bet, state, paper):
-    world = sure_world(world)
-    view = sure_view(world, view)
-    other = sure_view(world, other)
-    bet = sure_bet(world, bet)
-    state = sure_state(world, state)
+    world, view, other, bet, state = sure_two(world, view, other, bet, state)
     if not is_row(paper, 2):
         raise BadPaper("form")
     states, numbers = paper

@@ -3,7 +3,6 @@
 from math import gcd
 
 NOUGHT = (0, 1)
-ONE = (1, 1)
 
 
 def made(top, bottom):

@@ -25,10 +25,15 @@ def known_once(views, event, many):
                   if all([knows_at(view, event, state) for view in views])])
 
 
-def known_times(world, views, event, times):
+def sure_known(world, views, event):
+    """Plain copies of a WORLD, and of VIEWS and an EVENT of it."""
     world = sure_world(world)
     views = sure_views(world, views)
-    event = sure_event(world, event)
+    return (world, views, sure_event(world, event))
+
+
+def known_times(world, views, event, times):
+    world, views, event = sure_known(world, views, event)
     if not is_integer(times) or times < 0:
         raise BadNumber(times)
     # Each time loses a STATE or is the last one that changes anything.
@@ -43,9 +48,7 @@ def common_of(views, event, many):
 
 
 def common(world, views, event):
-    world = sure_world(world)
-    views = sure_views(world, views)
-    event = sure_event(world, event)
+    world, views, event = sure_known(world, views, event)
     return tuple(sorted(common_of(views, event, len(world))))
 
 
@@ -56,18 +59,14 @@ def way_out(views, event, many, state):
 
 
 def depth(world, views, event, state):
-    world = sure_world(world)
-    views = sure_views(world, views)
-    event = sure_event(world, event)
+    world, views, event = sure_known(world, views, event)
     state = sure_state(world, state)
     way = way_out(views, event, len(world), state)
     return None if way is None else len(way[1])
 
 
 def common_paper(world, views, event, state):
-    world = sure_world(world)
-    views = sure_views(world, views)
-    event = sure_event(world, event)
+    world, views, event = sure_known(world, views, event)
     state = sure_state(world, state)
     way = way_out(views, event, len(world), state)
     if way is None:
@@ -76,9 +75,7 @@ def common_paper(world, views, event, state):
 
 
 def check_common(world, views, event, state, paper):
-    world = sure_world(world)
-    views = sure_views(world, views)
-    event = sure_event(world, event)
+    world, views, event = sure_known(world, views, event)
     state = sure_state(world, state)
     if is_called(paper, "common", 2):
         cell = cell_with(met(views, len(world)), state)

@@ -25,24 +25,25 @@ def paid_of(ladder, report, later):
     return added_up([multiplied(mark, units) for mark, units in passed(ladder, report, later)])
 
 
-def position(ladder, report, later):
+def sure_move(ladder, report, later):
+    """Plain copies of a LADDER and of two FRACTIONS."""
     ladder = sure_ladder(ladder)
     report = sure_fraction(report)
-    later = sure_fraction(later)
+    return (ladder, report, sure_fraction(later))
+
+
+def position(ladder, report, later):
+    ladder, report, later = sure_move(ladder, report, later)
     return position_of(ladder, report, later)
 
 
 def paid(ladder, report, later):
-    ladder = sure_ladder(ladder)
-    report = sure_fraction(report)
-    later = sure_fraction(later)
+    ladder, report, later = sure_move(ladder, report, later)
     return paid_of(ladder, report, later)
 
 
 def earned(ladder, report, later, worth):
-    ladder = sure_ladder(ladder)
-    report = sure_fraction(report)
-    later = sure_fraction(later)
+    ladder, report, later = sure_move(ladder, report, later)
     worth = sure_fraction(worth)
     got = multiplied(worth, position_of(ladder, report, later))
     return taken(got, paid_of(ladder, report, later))
@@ -59,16 +60,12 @@ def line_of(ladder, report, worth):
 
 
 def loss_at(ladder, report, worth):
-    ladder = sure_ladder(ladder)
-    report = sure_fraction(report)
-    worth = sure_fraction(worth)
+    ladder, report, worth = sure_move(ladder, report, worth)
     return line_of(ladder, report, worth)
 
 
 def greatest_loss(ladder, report, low, high):
-    ladder = sure_ladder(ladder)
-    report = sure_fraction(report)
-    low = sure_fraction(low)
+    ladder, report, low = sure_move(ladder, report, low)
     high = sure_fraction(high)
     if is_under(high, low):
         raise BadBounds((low, high))

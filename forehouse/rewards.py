@@ -1,8 +1,7 @@
 """REWARDS of two times, and the VALUES that TABLES give them."""
 
 from forehouse.errors import BadPaper, BadReward, BadTable
-from forehouse.exact import NOUGHT, added, added_up, divided, is_under, multiplied, summed_products
-from forehouse.exact import taken
+from forehouse.exact import added, added_up, divided, is_under, multiplied, summed_products, taken
 from forehouse.extremes import greatest_four, least_four
 from forehouse.kinds import are_fractions, copied, is_integer, is_row
 from forehouse.relation import need_wider
@@ -34,10 +33,22 @@ def value_by(one, other, reward, table):
     return added_up([multiplied(weight, paid[(near, far)]) for near, far, weight in table])
 
 
-def value_of(one, other, reward, table):
+def sure_three(one, other, reward):
+    """Plain copies of two SHARES and a REWARD for them."""
     one = sure_share(one)
     other = sure_share(other)
-    reward = sure_reward(one, other, reward)
+    return (one, other, sure_reward(one, other, reward))
+
+
+def sure_wide(one, other, reward):
+    """Likewise, the second SHARE being WIDER."""
+    three = sure_three(one, other, reward)
+    need_wider(three[0], three[1])
+    return three
+
+
+def value_of(one, other, reward, table):
+    one, other, reward = sure_three(one, other, reward)
     steps = sure_table(table)
     if not is_between(one, other, steps):
         raise BadTable(table)
@@ -45,34 +56,22 @@ def value_of(one, other, reward, table):
 
 
 def least_paper(one, other, reward):
-    one = sure_share(one)
-    other = sure_share(other)
-    reward = sure_reward(one, other, reward)
-    need_wider(one, other)
+    one, other, reward = sure_wide(one, other, reward)
     return least_four(one, other, reward)
 
 
 def greatest_paper(one, other, reward):
-    one = sure_share(one)
-    other = sure_share(other)
-    reward = sure_reward(one, other, reward)
-    need_wider(one, other)
+    one, other, reward = sure_wide(one, other, reward)
     return greatest_four(one, other, reward)
 
 
 def least_value(one, other, reward):
-    one = sure_share(one)
-    other = sure_share(other)
-    reward = sure_reward(one, other, reward)
-    need_wider(one, other)
+    one, other, reward = sure_wide(one, other, reward)
     return value_by(one, other, reward, least_four(one, other, reward)[0])
 
 
 def greatest_value(one, other, reward):
-    one = sure_share(one)
-    other = sure_share(other)
-    reward = sure_reward(one, other, reward)
-    need_wider(one, other)
+    one, other, reward = sure_wide(one, other, reward)
     return value_by(one, other, reward, greatest_four(one, other, reward)[0])
 
 
@@ -99,40 +98,31 @@ def spare(one, other, reward, paper):
     return out
 
 
-def need_sum(one, other, paper, value):
-    """Raises the error of a PAPER with U and V that are not worth the VALUE."""
-    near = summed_products(weights_of(one), paper[1])
-    far = summed_products(weights_of(other), paper[2])
-    if added(near, far) != value:
+def prices_sum(one, other, paper):
+    """The sum of all WEIGHTS times U and V."""
+    return added(summed_products(weights_of(one), paper[1]),
+                 summed_products(weights_of(other), paper[2]))
+
+
+def checked(one, other, reward, paper, side):
+    """The VALUE by a PAPER whose prices are on one side of what is paid: 1 below, -1 above."""
+    one, other, reward = sure_wide(one, other, reward)
+    need_prices(one, other, paper)
+    paper = copied(paper)
+    if any([part[0] * side < 0 for part in spare(one, other, reward, paper)]):
+        raise BadPaper("bound")
+    value = value_by(one, other, reward, paper[0])
+    if prices_sum(one, other, paper) != value:
         raise BadPaper("sum")
+    return value
 
 
 def check_least(one, other, reward, paper):
-    one = sure_share(one)
-    other = sure_share(other)
-    reward = sure_reward(one, other, reward)
-    need_wider(one, other)
-    need_prices(one, other, paper)
-    paper = copied(paper)
-    if any([is_under(part, NOUGHT) for part in spare(one, other, reward, paper)]):
-        raise BadPaper("bound")
-    value = value_by(one, other, reward, paper[0])
-    need_sum(one, other, paper, value)
-    return value
+    return checked(one, other, reward, paper, 1)
 
 
 def check_greatest(one, other, reward, paper):
-    one = sure_share(one)
-    other = sure_share(other)
-    reward = sure_reward(one, other, reward)
-    need_wider(one, other)
-    need_prices(one, other, paper)
-    paper = copied(paper)
-    if any([is_under(NOUGHT, part) for part in spare(one, other, reward, paper)]):
-        raise BadPaper("bound")
-    value = value_by(one, other, reward, paper[0])
-    need_sum(one, other, paper, value)
-    return value
+    return checked(one, other, reward, paper, -1)
 
 
 def slopes(numbers, rises):
@@ -142,9 +132,7 @@ def slopes(numbers, rises):
 
 
 def bend_of(one, other, reward):
-    one = sure_share(one)
-    other = sure_share(other)
-    reward = sure_reward(one, other, reward)
+    one, other, reward = sure_three(one, other, reward)
     down = up = True
     for at in range(len(reward) - 1):
         rises = [later - paid for paid, later in zip(reward[at], reward[at + 1])]

@@ -45,15 +45,31 @@ def sure_number(share, thing):
     return copied(thing)
 
 
+def sure_pair(one, other):
+    """Plain copies of a SHARE and a WIDER one."""
+    one = sure_share(one)
+    other = sure_share(other)
+    need_wider(one, other)
+    return (one, other)
+
+
+def sure_step(one, other, number, far):
+    """Likewise, with a NUMBER of each."""
+    one = sure_share(one)
+    other = sure_share(other)
+    number = sure_number(one, number)
+    far = sure_number(other, far)
+    need_wider(one, other)
+    return (one, other, number, far)
+
+
 def does_reach(one, other, number, far):
     low, high = span_of(one, other, number)
     return not is_under(far, low) and not is_under(high, far)
 
 
 def stretches(one, other):
-    one = sure_share(one)
-    other = sure_share(other)
-    need_wider(one, other)
+    one, other = sure_pair(one, other)
     return all_stretches(one, other)
 
 
@@ -66,11 +82,7 @@ def span(one, other, number):
 
 
 def can_go(one, other, number, far):
-    one = sure_share(one)
-    other = sure_share(other)
-    number = sure_number(one, number)
-    far = sure_number(other, far)
-    need_wider(one, other)
+    one, other, number, far = sure_step(one, other, number, far)
     return does_reach(one, other, number, far)
 
 
@@ -88,11 +100,7 @@ def closed_mark(one, other, number, far):
 
 
 def go_paper(one, other, number, far):
-    one = sure_share(one)
-    other = sure_share(other)
-    number = sure_number(one, number)
-    far = sure_number(other, far)
-    need_wider(one, other)
+    one, other, number, far = sure_step(one, other, number, far)
     if does_reach(one, other, number, far):
         return ("table", table_with(one, other, number, far))
     return ("mark", closed_mark(one, other, number, far))
@@ -114,11 +122,7 @@ def does_bar(one, other, number, far, mark):
 
 
 def check_go(one, other, number, far, paper):
-    one = sure_share(one)
-    other = sure_share(other)
-    number = sure_number(one, number)
-    far = sure_number(other, far)
-    need_wider(one, other)
+    one, other, number, far = sure_step(one, other, number, far)
     if is_called(paper, "table", 2):
         if not is_between(one, other, paper[1]) or not has_step(paper[1], number, far):
             raise BadPaper("table")
@@ -131,9 +135,7 @@ def check_go(one, other, number, far, paper):
 
 
 def pieces(one, other):
-    one = sure_share(one)
-    other = sure_share(other)
-    need_wider(one, other)
+    one, other = sure_pair(one, other)
     table = left_curtain(one, other)
     out = []
     for low, high in all_stretches(one, other):
@@ -143,7 +145,5 @@ def pieces(one, other):
 
 
 def fixed_share(one, other):
-    one = sure_share(one)
-    other = sure_share(other)
-    need_wider(one, other)
+    one, other = sure_pair(one, other)
     return tuple([pair for pair in one if is_closed(one, other, pair[0])])

@@ -108,6 +108,30 @@ class PapersTest(unittest.TestCase):
             self.refuse(((0, thing), (0,)), "way")
             self.refuse(((0, 1), (thing,)), "way")
 
+    def test_as_long_as_needed_but_from_or_to_elsewhere(self):
+        # Four STATES in a row, the last one alone not to be given.
+        world = world_of_integers((1, 0), (1, 0), (1, 0), (1, 0))
+        view, other = ((0, 1), (2, 3)), ((0,), (1, 2), (3,))
+        bet = tuple(whole(part) for part in (-1, 3, -4, 5))
+        self.assertEqual([at for at in range(4) if agree.takes(world, view, bet, at)
+                          and agree.gives(world, other, bet, at)], [0, 1, 2])
+        paper = agree.bet_way(world, view, other, bet, 1)
+        self.assertEqual(paper, ((1, 2, 3), (1, 0)))
+        self.assertIsNone(agree.check_bet(world, view, other, bet, 1, paper))
+        for wrong in (((3, 2, 1), (0, 1)), ((0, 1, 2), (0, 1)), ((2, 1, 0), (1, 0))):
+            self.assertRaises(BadPaper, agree.check_bet, world, view, other, bet, 1, wrong)
+        one_on = ((1, 2), (1,))
+        self.assertRaises(BadPaper, agree.check_bet, world, view, other, bet, 2, one_on)
+        self.assertRaises(BadPaper, agree.check_bet, world, view, other, bet, 2, ((2, 1), (1,)))
+        self.assertRaises(BadPaper, agree.check_bet, world, view, other, bet, 1, ((2, 3), (0,)))
+        # From another STATE to the right one, and from the right one to a wrong one.
+        blind, parted = ((0, 1, 2, 3),), ((0, 1, 2), (3,))
+        wide = (whole(-1), whole(-1), whole(-1), whole(9))
+        self.assertEqual(agree.bet_way(world, blind, parted, wide, 0), ((0, 3), (0,)))
+        self.assertIsNone(agree.check_bet(world, blind, parted, wide, 0, ((0, 3), (0,))))
+        for wrong in (((1, 3), (0,)), ((0, 1), (0,)), ((0, 1), (1,))):
+            self.assertRaises(BadPaper, agree.check_bet, world, blind, parted, wide, 0, wrong)
+
     def test_forms(self):
         for paper in ODD + ((), ((0, 1),), ((0, 1), (0,), ()), [(0, 1), (0,)], 7):
             part = "way" if isinstance(paper, tuple) and len(paper) == 2 else "form"

@@ -132,6 +132,12 @@ class PapersTest(unittest.TestCase):
         self.hold(("way", (2, 4), (2,)), views=views)
         self.refuse(("way", (2, 3, 4), (0, 1)), "way", views=views)
 
+    def test_as_long_as_needed_but_from_or_to_elsewhere(self):
+        views = (((0, 1, 2, 3, 4),),)
+        self.hold(("way", (0, 4), (0,)), event=(0, 1), state=0, views=views)
+        self.refuse(("way", (1, 4), (0,)), "way", event=(0, 1), state=0, views=views)
+        self.refuse(("way", (0, 1), (0,)), "way", event=(0, 1), state=0, views=views)
+
     def test_common_papers(self):
         self.hold(("common", (2, 3)), views=(LEFT,))
         self.assertEqual(knows.common_paper(WORLD, (LEFT,), EVENT, 2), ("common", (2, 3)))
