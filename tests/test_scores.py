@@ -240,6 +240,11 @@ class WorthsTest(unittest.TestCase):
         self.assertEqual(worths.mark_of(score, one, other), (2, 1))
         self.assertIsNone(worths.mark_of(score, other, one))
         self.assertIsNone(worths.mark_of((), one, other))
+        # Only within the stretch, though the RESTS are further apart beyond it.
+        self.assertEqual(worths.mark_of((("stretch", (-1, 1), (1, 1), (1, 1)),), one, other),
+                         (1, 1))
+        self.assertEqual(worths.mark_of((("stretch", (3, 1), (5, 1), (1, 1)),), one, other),
+                         (3, 1))
 
 
 class OrderTest(unittest.TestCase):

@@ -39,6 +39,8 @@ class TablesTest(unittest.TestCase):
         full = tuple((whole(0), whole(far), whole(1)) for far in fars)
         for table in (CROSSED, six, full, (((1, 2), (1, 2), (1, 3)),)):
             self.assertIs(tables.need_table(table), table)
+        # The last of the wrong ones has seven X; six of them are a TABLE.
+        self.assertEqual(len(tables.left_share(TABLES[-1][2:])), 6)
         for thing in ODD + TABLES:
             with self.assertRaises(BadTable) as caught:
                 tables.need_table(thing)
@@ -72,6 +74,10 @@ class TablesTest(unittest.TestCase):
         self.assertIs(tables.goes_between(ONE, OTHER, CROSSED), True)
         self.assertIs(tables.goes_between(OTHER, ONE, CROSSED), False)
         self.assertIs(tables.goes_between(ONE, ONE, CROSSED), False)
+        standing = tuple((number, number, weight) for number, weight in OTHER)
+        self.assertIs(tables.goes_between(ONE, OTHER, standing), False)
+        standing = tuple((number, number, weight) for number, weight in ONE)
+        self.assertIs(tables.goes_between(ONE, OTHER, standing), False)
         for thing in ODD + TABLES:
             self.assertIs(tables.goes_between(ONE, OTHER, thing), False)
         self.assertIs(tables.goes_between(ONE, OTHER, list(CROSSED)), False)

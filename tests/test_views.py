@@ -209,6 +209,9 @@ class FinerTest(unittest.TestCase):
                     self.assertEqual(views.check_finer(WORLD, HALVES, CROSS, paper), "apart")
                 else:
                     self.refuse(HALVES, CROSS, paper, "apart")
+        self.refuse(HALVES, HALVES, ("apart", 0, 1), "apart")
+        self.refuse(ALL, HALVES, ("apart", 2, 3), "apart")
+        self.assertEqual(views.check_finer(WORLD, ALL, HALVES, ("apart", 1, 2)), "apart")
         self.refuse(HALVES, CROSS, ("finer",), "finer")
         self.refuse(EACH, CROSS, ("apart", 0, 1), "apart")
         for thing in ODD:
