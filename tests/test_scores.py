@@ -4,7 +4,7 @@ import unittest
 from fractions import Fraction
 
 from forehouse import scores, worths
-from forehouse.errors import BadBounds, BadFraction, BadScore, BadWorld
+from forehouse.errors import BadBounds, BadFraction, BadScore, BadShare, BadWorld
 from forehouse.lefts import left_table, right_table
 from forehouse.rests import is_wider, rest_at
 from forehouse.tellers import loss
@@ -259,7 +259,7 @@ class OrderTest(unittest.TestCase):
             self.assertRaises(BadWorld, worths.weighed_world, (MARK,), bad)
             self.assertRaises(BadWorld, worths.world_rest, bad, None)
         for bad in SHARES:
-            self.assertRaises(Exception, worths.sees, (MARK,), bad)
+            self.assertRaises(BadShare, worths.sees, (MARK,), bad)
 
 
 if __name__ == "__main__":
