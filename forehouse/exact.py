@@ -105,3 +105,18 @@ def unlike_in_order(some):
 def ranks(some):
     """For each of them how many unlike ones are less, in a dict."""
     return {one: rank for rank, one in enumerate(unlike_in_order(some))}
+
+
+def is_row_under(one, other):
+    """Whether the first unlike FRACTION of two tuples of as many is less in the first one."""
+    for part, far in zip(one, other):
+        if part != far:
+            return is_under(part, far)
+    return False
+
+
+def rows_in_order(rows):
+    """The list of all unlike tuples of FRACTIONS, ordered thing by thing."""
+    ranked = ranks([part for row in rows for part in row])
+    keys = {tuple([ranked[part] for part in row]): row for row in rows}
+    return [keys[key] for key in sorted(keys)]

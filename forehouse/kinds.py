@@ -29,6 +29,14 @@ def is_called(thing, word, many):
     return is_row(thing, many) and isinstance(thing[0], str) and thing[0] == word
 
 
+def word_of(thing, forms):
+    """The first word of what has one of the forms: pairs of a word and a number of things."""
+    for word, many in forms:
+        if is_called(thing, word, many):
+            return word
+    return None
+
+
 def is_fraction(thing):
     if not is_row(thing, 2):
         return False

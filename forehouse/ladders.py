@@ -12,15 +12,27 @@ def is_rung(thing):
     return is_row(thing, 2) and is_fraction(thing[0]) and is_weight(thing[1])
 
 
+def wrong_rung(thing):
+    """The number of the first thing that is no pair, or not above the one ahead, or None."""
+    for number, rung in enumerate(thing):
+        if not is_rung(rung):
+            return number
+        if number > 0 and not is_under(thing[number - 1][0], rung[0]):
+            return number
+    return None
+
+
+def is_ladder(thing):
+    return is_row_within(thing, 0, MOST_RUNGS) and wrong_rung(thing) is None
+
+
 def sure_ladder(thing):
     """A plain copy of a LADDER."""
     if not is_row_within(thing, 0, MOST_RUNGS):
         raise BadLadder(None)
-    for number, rung in enumerate(thing):
-        if not is_rung(rung):
-            raise BadLadder(number)
-        if number > 0 and not is_under(thing[number - 1][0], rung[0]):
-            raise BadLadder(number)
+    number = wrong_rung(thing)
+    if number is not None:
+        raise BadLadder(number)
     return copied(thing)
 
 

@@ -2,14 +2,14 @@
 
 from forehouse.curtain import left_curtain
 from forehouse.errors import BadPaper
-from forehouse.kinds import copied, is_called, is_fraction
+from forehouse.kinds import copied, is_fraction, word_of
 from forehouse.ratios import sure_fraction
 from forehouse.relation import is_rest_less, rest_of, why_not_wider
 from forehouse.shares import moment_of, sure_share, total_of
 from forehouse.tables import is_between
 
 # Each word of a PAPER, and how many things the PAPER has.
-LENGTHS = {"table": 2, "total": 1, "moment": 1, "mark": 2}
+FORMS = (("table", 2), ("total", 1), ("moment", 1), ("mark", 2))
 
 
 def rest_at(share, mark):
@@ -33,14 +33,6 @@ def wider_paper(one, other):
     return paper
 
 
-def word_of(paper):
-    """The first word of what has the form of a PAPER, else None."""
-    for word in LENGTHS:
-        if is_called(paper, word, LENGTHS[word]):
-            return word
-    return None
-
-
 def does_hold(one, other, word, paper):
     """Whether a PAPER with this word is as told."""
     if word == "total":
@@ -55,7 +47,7 @@ def does_hold(one, other, word, paper):
 def check_wider(one, other, paper):
     one = sure_share(one)
     other = sure_share(other)
-    word = word_of(paper)
+    word = word_of(paper, FORMS)
     if word is None:
         raise BadPaper("form")
     if not does_hold(one, other, word, paper):

@@ -15,13 +15,17 @@ def is_paid(thing):
     return is_integer(thing) and -MOST_PAID <= thing <= MOST_PAID
 
 
+def is_reward(one, other, thing):
+    """Whether any thing is a REWARD for two SHARES."""
+    if not is_row(thing, len(one)) or not all([is_row(row, len(other)) for row in thing]):
+        return False
+    return all([is_paid(paid) for row in thing for paid in row])
+
+
 def sure_reward(one, other, thing):
     """A plain copy of a REWARD for two SHARES."""
-    if not is_row(thing, len(one)):
+    if not is_reward(one, other, thing):
         raise BadReward(thing)
-    for row in thing:
-        if not is_row(row, len(other)) or not all([is_paid(paid) for paid in row]):
-            raise BadReward(thing)
     return copied(thing)
 
 
@@ -86,33 +90,34 @@ def need_prices(one, other, paper):
         raise BadPaper("prices")
 
 
-def spare(one, other, reward, paper):
-    """The list of what is paid at each X and Y beyond what U, V and H are together."""
-    _, near, far, drift = paper
+def together(one, other, prices):
+    """The list of what the prices U, V and H are together at each X and Y."""
+    near, far, drift = prices
     out = []
     for at, number in enumerate(numbers_of(one)):
         for to, later in enumerate(numbers_of(other)):
             moved = multiplied(drift[at], taken(later, number))
-            asked = added(added(near[at], far[to]), moved)
-            out.append(taken((reward[at][to], 1), asked))
+            out.append(added(added(near[at], far[to]), moved))
     return out
 
 
-def prices_sum(one, other, paper):
+def prices_sum(one, other, prices):
     """The sum of all WEIGHTS times U and V."""
-    return added(summed_products(weights_of(one), paper[1]),
-                 summed_products(weights_of(other), paper[2]))
+    return added(summed_products(weights_of(one), prices[0]),
+                 summed_products(weights_of(other), prices[1]))
 
 
 def checked(one, other, reward, paper, side):
     """The VALUE by a PAPER whose prices are on one side of what is paid: 1 below, -1 above."""
     one, other, reward = sure_wide(one, other, reward)
     need_prices(one, other, paper)
-    paper = copied(paper)
-    if any([part[0] * side < 0 for part in spare(one, other, reward, paper)]):
+    table, *prices = copied(paper)
+    paid = [(part, 1) for row in reward for part in row]
+    spare = [taken(part, asked) for part, asked in zip(paid, together(one, other, prices))]
+    if any([part[0] * side < 0 for part in spare]):
         raise BadPaper("bound")
-    value = value_by(one, other, reward, paper[0])
-    if prices_sum(one, other, paper) != value:
+    value = value_by(one, other, reward, table)
+    if prices_sum(one, other, prices) != value:
         raise BadPaper("sum")
     return value
 

@@ -1,4 +1,10 @@
-"""The least of a sum of costs under equations, by exchanging one column at a time.
+"""The least of a sum of costs under equations, by exchanging one amount for another.
+
+A stand is a tuple (rows, heads, sides, scale): in each row the amount that heads
+it, scale times, and all amounts at the sides, each times the integer below it, are
+together the last integer of the row. So the amounts at the sides may be 0, and the
+heads have the last integers, divided by scale. Amounts are told by labels: behind
+those of the many that are asked for comes, for each equation, what it lacks.
 
 All rows hold integers over one common scale, so nothing is ever rounded: each
 division in what follows leaves no rest.
@@ -7,104 +13,127 @@ division in what follows leaves no rest.
 from forehouse.exact import made
 
 
-def opening(matrix, bounds, costs):
-    """The first rows: the equations, each with a column of its own, and the costs."""
-    many = len(matrix)
-    rows = []
-    for at, row in enumerate(matrix):
-        rows.append(row + [1 if own == at else 0 for own in range(many)] + [bounds[at]])
-    rows.append(costs + [0] * (many + 1))
-    return rows
-
-
-def exchanged(rows, at, col, scale):
-    """The rows behind an exchange, the one at that place taking the column; their scale."""
-    chief = rows[at] if rows[at][col] > 0 else [-part for part in rows[at]]
+def exchanged(stand, at, col):
+    """The stand in which the head of a row and the amount at a side have changed places."""
+    rows, heads, sides, scale = stand
+    sign = 1 if rows[at][col] > 0 else -1
+    chief = [sign * part for part in rows[at]]
     lead = chief[col]
     out = []
-    for number, row in enumerate(rows):
-        if number == at:
-            out.append(chief)
-        else:
-            factor = row[col]
-            out.append([(part * lead - factor * by) // scale for part, by in zip(row, chief)])
-    return (out, lead)
+    for row in rows:
+        factor = row[col]
+        new = [(part * lead - factor * by) // scale for part, by in zip(row, chief)]
+        new[col] = -sign * factor
+        out.append(new)
+    out[at] = chief
+    chief[col] = sign * scale
+    heads = list(heads)
+    sides = list(sides)
+    heads[at], sides[col] = sides[col], heads[at]
+    return (out, heads, sides, lead)
 
 
-def first_row(rows, basis, col, many):
-    """The first equation that has no real column yet, and can take this one."""
-    for at in range(len(basis)):
-        if basis[at] >= many and rows[at][col] != 0:
-            return at
-    return None
+def cost_line(stand, costs):
+    """What one more of each amount at the sides costs in all, scale times."""
+    rows, heads, sides, scale = stand
+    line = [scale * costs[side] for side in sides] + [0]
+    for row, head in zip(rows, heads):
+        if costs[head] != 0:
+            line = [part - costs[head] * by for part, by in zip(line, row)]
+    return line
 
 
-def first_col(row, many):
-    for col in range(many):
-        if row[col] != 0:
-            return col
-    return None
-
-
-def seated(rows, start, many):
-    """Rows, their columns and scale, such that the columns of start, and others, are taken."""
-    basis = [many + at for at in range(len(rows) - 1)]
-    scale = 1
-    for col in start:
-        at = first_row(rows, basis, col, many)
-        rows, scale = exchanged(rows, at, col, scale)
-        basis[at] = col
-    # The other equations have bound 0 now; those without any column say nothing new.
-    for at in range(len(basis)):
-        col = first_col(rows[at], many) if basis[at] >= many else None
-        if col is not None:
-            rows, scale = exchanged(rows, at, col, scale)
-            basis[at] = col
-    return (rows, basis, scale)
-
-
-def entering(costs, many):
-    """The first column that makes the sum less, or None."""
-    # The first one, not the steepest one: so the exchanges never go in a ring.
-    for col in range(many):
-        if costs[col] < 0:
-            return col
-    return None
-
-
-def leaving(rows, basis, col):
-    """The row that allows least of the column, of several that with the first column."""
+def first_side(line, sides, many):
+    """The side with the first of the amounts that make the costs less, or None."""
     best = None
-    for at in range(len(basis)):
+    for col, side in enumerate(sides):
+        if side < many and line[col] < 0 and (best is None or side < sides[best]):
+            best = col
+    return best
+
+
+def steepest_side(line, sides, many):
+    """The side with the amount of which one more makes the costs least, or None."""
+    best = None
+    for col, side in enumerate(sides):
+        if side < many and line[col] < 0 and (best is None or line[col] < line[best]):
+            best = col
+    return best
+
+
+def leaving(rows, heads, col):
+    """The row that allows least of what enters, of several that with the first head."""
+    best = None
+    for at in range(len(heads)):
         if rows[at][col] > 0:
             if best is None:
                 best = at
                 continue
             gap = rows[at][-1] * rows[best][col] - rows[best][-1] * rows[at][col]
-            if gap < 0 or (gap == 0 and basis[at] < basis[best]):
+            if gap < 0 or (gap == 0 and heads[at] < heads[best]):
                 best = at
     return best
 
 
-def least_sum(matrix, bounds, costs, start):
-    """The amounts, all from 0 on, with the least costs, and the price of each equation.
-
-    matrix, bounds and costs are integers; start has the columns of some amounts that
-    keep the equations, so few that no others of these columns alone do. The amounts
-    come as a dict without those that are 0, the prices as a list.
-    """
-    many = len(costs)
-    rows, basis, scale = seated(opening(matrix, bounds, costs), start, many)
+def lowered(stand, costs, many):
+    """A stand with the least costs, and its line of costs."""
+    rows, heads, sides, scale = stand
+    stand = (rows + [cost_line(stand, costs)], heads, sides, scale)
+    stuck = False
     while True:
-        col = entering(rows[-1], many)
+        rows, heads, sides, scale = stand
+        # Exchanges that change no amount might go in a ring, but not if the first enters.
+        line = rows[-1]
+        col = first_side(line, sides, many) if stuck else steepest_side(line, sides, many)
         if col is None:
-            break
-        at = leaving(rows, basis, col)
-        rows, scale = exchanged(rows, at, col, scale)
-        basis[at] = col
-    amounts = {}
-    for at, col in enumerate(basis):
-        if rows[at][-1] != 0:
-            amounts[col] = made(rows[at][-1], scale)
-    prices = [made(-rows[-1][many + at], scale) for at in range(len(matrix))]
-    return (amounts, prices)
+            return ((rows[:-1], heads, sides, scale), line)
+        at = leaving(rows, heads, col)
+        stuck = rows[at][-1] == 0
+        stand = exchanged(stand, at, col)
+
+
+def seated(stand, many):
+    """The stand in which what an equation lacks, being 0, heads only rows of nothing else."""
+    for at in range(len(stand[1])):
+        rows, heads, sides, _ = stand
+        if heads[at] >= many:
+            cols = [col for col, side in enumerate(sides) if side < many and rows[at][col] != 0]
+            if cols:
+                stand = exchanged(stand, at, cols[0])
+    return stand
+
+
+def lack_costs(many, lacks):
+    return [0] * many + [1] * lacks
+
+
+def begun(matrix, bounds):
+    """A stand that lacks as little as can be, and whether it lacks nothing.
+
+    matrix and bounds are integers, no bound below 0.
+    """
+    many = len(matrix[0])
+    rows = [row + [bound] for row, bound in zip(matrix, bounds)]
+    heads = [many + at for at in range(len(rows))]
+    stand, line = lowered((rows, heads, list(range(many)), 1), lack_costs(many, len(rows)), many)
+    if line[-1] != 0:
+        return (stand, False)
+    return (seated(stand, many), True)
+
+
+def amounts_of(stand, many):
+    """All amounts that are above 0, in a dict."""
+    rows, heads, _, scale = stand
+    return {head: made(row[-1], scale) for row, head in zip(rows, heads)
+            if head < many and row[-1] != 0}
+
+
+def prices_of(stand, costs, many):
+    """For each equation what one more of its bound costs."""
+    line = cost_line(stand, costs)
+    cols = {side: col for col, side in enumerate(stand[2])}
+    out = []
+    for label in range(many, len(costs)):
+        spared = line[cols[label]] if label in cols else 0
+        out.append(made(costs[label] * stand[3] - spared, stand[3]))
+    return out

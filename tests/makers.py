@@ -1,8 +1,10 @@
 """Small things of all sorts for the tests, the same ones in each run."""
 
 from fractions import Fraction
+from math import prod
 
-from forehouse.cells import grouped
+from forehouse.cells import grouped, joined
+from forehouse.dayviews import fair_of
 from forehouse.exact import added, divided, in_order, made, multiplied, taken
 from forehouse.shares import pairs_in_order
 
@@ -85,6 +87,62 @@ class Maker:
     def ladder(self, most=4):
         marks = {self.fraction(): True for _ in range(self.below(most + 1))}
         return tuple((mark, self.weight()) for mark in in_order(list(marks)))
+
+    def houses(self, most=3):
+        return tuple((self.ladder(), self.fraction()) for _ in range(self.between(1, most)))
+
+    def ties(self, many):
+        """TIES that go up a row of all STATES, whichever row."""
+        row = list(range(many))
+        for at in range(many - 1):
+            other = self.between(at, many - 1)
+            row[at], row[other] = row[other], row[at]
+        odds = self.between(1, 4)
+        pairs = [(low, high) for at, low in enumerate(row) for high in row[at + 1:]
+                 if self.below(odds) == 0]
+        return tuple(sorted(pairs))
+
+    def row(self, many, most=3):
+        """VIEWS of so many STATES, each finer than the one ahead."""
+        row = [self.view(many)]
+        for _ in range(self.below(most)):
+            row.append(joined((row[-1], self.view(many))))
+        return tuple(row)
+
+    def fair(self, most=6):
+        """A FAIR SHARE, some NUMBERS of which come in several PATHS."""
+        world = tuple((self.weight(), whole(self.between(0, 3))) for _ in range(self.between(1, most)))
+        return fair_of(world, self.row(len(world)))
+
+    def known(self, most=3, days=3):
+        """SHARES of 1 to 3 days with at most 36 rows."""
+        while True:
+            known = [self.share(most)]
+            for _ in range(self.below(days)):
+                known.append(self.wider(known[-1]))
+            if prod(len(share) for share in known) <= 36:
+                return tuple(known)
+
+    def claim(self, known, least=-9, most=9):
+        many = prod(len(share) for share in known)
+        return tuple(self.between(least, most) for _ in range(many))
+
+    def book(self, known, most=3):
+        return tuple((self.claim(known, -3, 3), self.pick((None, self.between(-3, 1))),
+                      self.pick((None, self.between(1, 3)))) for _ in range(self.below(most + 1)))
+
+    def look(self, most=4):
+        """A LOOK, with some SIGNALS that never come if yes, or if no."""
+        while True:
+            many = self.between(1, most)
+            yes = [self.below(4) for _ in range(many)]
+            no = [self.below(4) for _ in range(many)]
+            if sum(yes) and sum(no) and all(y + n for y, n in zip(yes, no)):
+                return tuple((made(y, sum(yes)), made(n, sum(no))) for y, n in zip(yes, no))
+
+    def prior(self):
+        bottom = self.between(2, 6)
+        return made(self.between(1, bottom - 1), bottom)
 
     def reward(self, one, other):
         return tuple(tuple(self.between(-9, 9) for _ in other) for _ in one)

@@ -276,7 +276,7 @@ class LanguageTest(unittest.TestCase):
         for name, text in texts.items():
             for node in ast.parse(text).body:
                 if isinstance(node, ast.FunctionDef) and words.count(node.name) == 1:
-                    self.assertIn(node.name, asked, name)
+                    self.assertTrue(node.name in asked, (name, node.name))
 
     def test_the_checker_finds_faults(self):
         for text in ("import os\n", "from os import path\n", "x = 1.5\n", "x = y = 1\n",

@@ -4,8 +4,10 @@ import copy
 import inspect
 import unittest
 
-from forehouse import (agree, coarser, errors, knows, ladders, lefts, moves, ratios, rests, rewards,
-                       scores, shares, spans, tables, talks, tellers, views, worths)
+from forehouse import (agree, coarser, dayviews, errors, fairshares, flows, houses, knows, ladders,
+                       laddersback, lefts, moves, onetables, orders, ordersback, ownviews, ratios,
+                       rests, rewards, scores, shares, spans, tables, talks, tellback, tellers,
+                       views, worths)
 from tests import wrongs
 from tests.makers import share_of_integers, whole, world_of_integers
 from tests.wrongs import ODD
@@ -23,6 +25,11 @@ KINDS = {
     "far": ("BadNumber", wrongs.FRACTIONS + ((7, 1), (1, 2))),
     "times": ("BadNumber", (-1, (1,), -10 ** 30)), "integer": ("BadNumber", ((1, 1), "1")),
     "bottom": ("BadNumber", ((1, 1), 0)), "fractions": ("BadFractions", ((1, 1), 1)),
+    "houses": ("BadHouses", wrongs.HOUSES), "deals": ("BadDeals", wrongs.DEALS),
+    "points": ("BadPoints", wrongs.POINTS), "ties": ("BadTies", wrongs.TIES),
+    "row": ("BadRow", wrongs.ROWS), "chain": ("BadRow", wrongs.CHAINS),
+    "fair": ("BadFair", wrongs.FAIRS), "day": ("BadDay", wrongs.STATES),
+    "shares": ("BadShare", wrongs.SOME_SHARES),
     "paper": ("BadPaper", (7, [()])), "any": (None, ())}
 
 WORLD = world_of_integers((1, 0), (1, 1), (2, 2))
@@ -38,7 +45,16 @@ MARK = (1, 2)
 SCORE = (("mark", (0, 1), (1, 1)), ("stretch", (0, 1), (1, 1), (1, 2)))
 LADDER = (((0, 1), (1, 1)), ((1, 1), (2, 1)))
 
-GOOD = {"world": WORLD, "view": VIEW, "views": VIEWS, "event": (0, 1), "cell": (0, 2), "state": 0,
+HOUSES = ((((whole(1), (2, 1)), (whole(5), (1, 1)), (whole(6), (3, 1))), (11, 2)),
+          (((whole(3), (2, 1)), (whole(7), (4, 1))), whole(2)))
+DEALS = ((0, 1, (1, 1)), (1, 0, (1, 1)))
+POINTS = laddersback.points_of(LADDER, MARK)
+TIES = ((0, 1), (2, 1))
+ROW = (((0, 1, 2),), VIEW, ((0,), (1,), (2,)))
+FAIR = dayviews.fair_of(WORLD, ROW)
+
+GOOD = {"houses": HOUSES, "deals": DEALS, "points": POINTS, "ties": TIES, "row": ROW, "fair": FAIR,
+        "chain": (TABLE, LATER), "day": 1, "shares": (ONE, WIDE), "world": WORLD, "view": VIEW, "views": VIEWS, "event": (0, 1), "cell": (0, 2), "state": 0,
         "bet": BET, "guesses": BET, "share": ONE, "table": TABLE, "fraction": MARK, "score": SCORE,
         "ladder": LADDER, "reward": REWARD, "near": whole(1), "far": whole(0), "times": 2,
         "integer": 3, "bottom": -2, "fractions": (MARK, MARK), "any": None}
@@ -167,6 +183,55 @@ CALLS = (
          high=(2, 1)),
     Call(moves.earns, "ladder fraction share", "ladder report share"),
     Call(moves.mark_by, "ladder share share", "ladder one other", **PAIR),
+    Call(houses.need_houses, "houses", "thing"),
+    Call(houses.bids, "houses", "houses"),
+    Call(houses.asks, "houses", "houses"),
+    Call(houses.are_deals, "houses any", "houses value", value=DEALS),
+    Call(houses.gain_of, "houses deals", "houses deals"),
+    Call(houses.greatest_gain, "houses", "houses"),
+    Call(houses.gain_paper, "houses", "houses"),
+    Call(houses.check_gain, "houses paper", "houses paper", paper=(DEALS, whole(3))),
+    Call(laddersback.need_points, "points", "thing"),
+    Call(laddersback.line_at, "points fraction", "points worth"),
+    Call(laddersback.ladder_back, "points fraction", "points report"),
+    Call(laddersback.points_of, "ladder fraction", "ladder report"),
+    Call(orders.need_ties, "world ties", "world thing"),
+    Call(orders.is_below, "world ties state state", "world ties state other"),
+    Call(orders.up_lots, "world ties", "world ties"),
+    Call(orders.are_within, "world ties ties", "world ties far", far=((0, 1),)),
+    Call(orders.common_ties, "world ties ties", "world ties far", far=((0, 1),)),
+    Call(orders.put_ties, "world ties ties", "world ties far", far=((0, 1),)),
+    Call(onetables.do_rise, "world ties guesses", "world ties guesses"),
+    Call(onetables.best_guesses, "world ties", "world ties"),
+    Call(onetables.gain_at, "world fraction event", "world mark lot"),
+    Call(onetables.best_lot, "world ties fraction", "world ties mark"),
+    Call(onetables.does_view_rise, "world ties view", "world ties view"),
+    Call(onetables.level_view, "world ties", "world ties"),
+    Call(onetables.level_paper, "world ties view", "world ties view"),
+    Call(onetables.check_level, "world ties view paper", "world ties view paper",
+         view=((0, 1, 2),), paper=("mark", (1, 1), (1, 2))),
+    Call(flows.flow_of, "world ties", "world ties"),
+    Call(flows.guesses_paper, "world ties guesses", "world ties guesses"),
+    Call(flows.check_guesses, "world ties guesses paper", "world ties guesses paper",
+         paper=("fall", 0, 1)),
+    Call(ordersback.chain_of, "world view", "world view"),
+    Call(ordersback.chain_ties, "world view", "world view"),
+    Call(ordersback.all_views, "world", "world"),
+    Call(ordersback.all_level_shares, "world", "world"),
+    Call(dayviews.need_row, "world row", "world thing"),
+    Call(dayviews.path_of, "world row state", "world row state"),
+    Call(dayviews.fair_of, "world row", "world row"),
+    Call(ownviews.own_views, "world row", "world row"),
+    Call(ownviews.is_own, "world row", "world row"),
+    Call(fairshares.need_fair, "fair", "thing"),
+    Call(fairshares.many_days, "fair", "fair"),
+    Call(fairshares.day_share, "fair day", "fair day"),
+    Call(fairshares.day_table, "fair day", "fair day"),
+    Call(fairshares.leave_out, "fair day", "fair day"),
+    Call(fairshares.chained, "chain", "chain"),
+    Call(fairshares.fair_by, "shares", "shares"),
+    Call(tellback.world_of, "fair", "fair"),
+    Call(tellback.row_of, "fair", "fair"),
 )
 
 # What the interface lists under each file.
@@ -189,25 +254,41 @@ LISTED = {
     worths: "weighed_rest sees world_rest weighed_world step_cost mark_of",
     tellers: "need_guesses charge loss own_guesses is_own parts",
     ladders: "need_ladder as_score ladder_of",
-    moves: "position paid earned loss_at greatest_loss earns mark_by"}
+    moves: "position paid earned loss_at greatest_loss earns mark_by",
+    houses: "need_houses bids asks are_deals gain_of greatest_gain gain_paper check_gain",
+    laddersback: "need_points line_at ladder_back points_of",
+    orders: "need_ties is_below up_lots are_within common_ties put_ties",
+    onetables: "do_rise best_guesses gain_at best_lot does_view_rise level_view level_paper "
+               "check_level",
+    flows: "flow_of guesses_paper check_guesses",
+    ordersback: "chain_of chain_ties all_views all_level_shares",
+    dayviews: "need_row path_of fair_of",
+    ownviews: "own_views is_own",
+    fairshares: "need_fair many_days day_share day_table leave_out chained fair_by",
+    tellback: "world_of row_of"}
+
+# What tells a number of a part, or else a word or None: the function that needs it, and how many
+# parts there are at least and at most.
+PARTED = {"world": (views.need_world, 1, 36), "score": (scores.need_score, 0, 10),
+          "ladder": (ladders.need_ladder, 0, 10), "houses": (houses.need_houses, 1, 6)}
+
+# Where anything that is a pair has the form of a PAPER.
+PAIRS = (agree.check_bet, houses.check_gain)
 
 
 def wanted_part(kind, thing):
     """The field of the errors that do not tell the thing itself."""
     if kind == "paper":
         return "form"
-    most = {"world": 36, "score": 10, "ladder": 10}[kind]
-    if not isinstance(thing, tuple) or len(thing) > most or (kind == "world" and not thing):
+    need, least, most = PARTED[kind]
+    if not isinstance(thing, tuple) or not least <= len(thing) <= most:
         return "form" if kind == "world" else None
-    return next(at for at in range(len(thing)) if not is_right(kind, thing, at))
+    return next(at for at in range(len(thing)) if not is_right(need, thing[:at + 1]))
 
 
-def is_right(kind, thing, at):
-    """Whether a WORLD, a SCORE, a LADDER is right up to that place."""
-    need = {"world": views.need_world, "score": scores.need_score,
-            "ladder": ladders.need_ladder}[kind]
+def is_right(need, thing):
     try:
-        need(thing[:at + 1])
+        need(thing)
     except errors.ForeError:
         return False
     return True
@@ -222,9 +303,11 @@ class RefusalsTest(unittest.TestCase):
             call.function(*args)
         except errors.ForeError as error:
             self.assertIs(type(error), wanted, (call.function, at, thing))
-            if kind in ("world", "score", "ladder", "paper"):
-                part = error.number if kind in ("score", "ladder") else error.part
+            if kind in PARTED or kind == "paper":
+                part = error.part if kind in ("world", "paper") else error.number
                 self.assertEqual(part, wanted_part(kind, thing), (call.function, at, thing))
+            elif kind == "shares" and isinstance(thing, tuple) and 0 < len(thing) < 4:
+                self.assertIs(error.given, next(part for part in thing if not shares.is_share(part)))
             else:
                 self.assertIs(error.given, thing)
         else:
@@ -236,8 +319,8 @@ class RefusalsTest(unittest.TestCase):
         if kind == "any":
             return ()
         things = ODD + KINDS[kind][1]
-        if call.function is agree.check_bet and kind == "paper":
-            return [thing for thing in things if not isinstance(thing, tuple)]
+        if call.function in PAIRS and kind == "paper":
+            return [thing for thing in things if not (isinstance(thing, tuple) and len(thing) == 2)]
         if call.function is talks.check_talk and kind == "paper":
             return [thing for thing in things if not (
                 isinstance(thing, tuple) and all(isinstance(part, tuple) for part in thing))]
