@@ -3,7 +3,7 @@
 from fractions import Fraction
 from math import prod
 
-from forehouse.cells import grouped, joined
+from forehouse.cells import grouped, joined, share_by
 from forehouse.dayviews import fair_of
 from forehouse.exact import added, divided, in_order, made, multiplied, taken
 from forehouse.shares import pairs_in_order
@@ -114,14 +114,18 @@ class Maker:
         world = tuple((self.weight(), whole(self.between(0, 3))) for _ in range(self.between(1, most)))
         return fair_of(world, self.row(len(world)))
 
-    def known(self, most=3, days=3):
+    def known(self, most=6, days=3):
         """SHARES of 1 to 3 days with at most 36 rows."""
         while True:
-            known = [self.share(most)]
-            for _ in range(self.below(days)):
-                known.append(self.wider(known[-1]))
+            many = self.pick((self.between(1, most), most - 1, most))
+            world = tuple((self.weight(), self.fraction(bottom=2)) for _ in range(many))
+            row = [grouped([self.below(self.between(1, 3)) for _ in range(many)])]
+            for _ in range(max(self.below(days), self.below(days))):
+                last = self.pick((self.view(many), grouped(range(many))))
+                row.append(joined((row[-1], last)))
+            known = tuple(share_by(world, view) for view in row)
             if prod(len(share) for share in known) <= 36:
-                return tuple(known)
+                return known
 
     def claim(self, known, least=-9, most=9):
         many = prod(len(share) for share in known)

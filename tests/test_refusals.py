@@ -4,10 +4,11 @@ import copy
 import inspect
 import unittest
 
-from forehouse import (agree, coarser, dayviews, errors, fairshares, flows, houses, knows, ladders,
-                       laddersback, lefts, moves, onetables, orders, ordersback, ownviews, ratios,
-                       rests, rewards, scores, shares, spans, tables, talks, tellback, tellers,
-                       views, worths)
+from forehouse import (agree, between, books, bounds, coarser, dayviews, errors, fairshares, flows,
+                       holdings, houses, known, knows, ladders, laddersback, lefts, looks, market,
+                       moves, neighbours, onetables, orders, ordersback, ownviews, ratios, rests,
+                       rewards, scores, shares, spans, tables, talks, tellback, tellers,
+                       toldclaims, views, worths)
 from tests import wrongs
 from tests.makers import share_of_integers, whole, world_of_integers
 from tests.wrongs import ODD
@@ -30,6 +31,12 @@ KINDS = {
     "row": ("BadRow", wrongs.ROWS), "chain": ("BadRow", wrongs.CHAINS),
     "fair": ("BadFair", wrongs.FAIRS), "day": ("BadDay", wrongs.STATES),
     "shares": ("BadShare", wrongs.SOME_SHARES),
+    "known": ("BadKnown", wrongs.KNOWNS), "claim": ("BadClaim", wrongs.CLAIMS),
+    "holding": ("BadHolding", wrongs.HOLDINGS), "hedge": ("BadHolding", wrongs.HOLDINGS),
+    "book": ("BadBook", wrongs.BOOKS), "pairs": ("BadReward", wrongs.PAIR_CLAIMS),
+    "fair_of": ("BadFair", wrongs.FAIRS + ((((whole(0),), whole(1)),),)),
+    "gain": ("BadGain", (7, ())), "look": ("BadLook", wrongs.LOOKS),
+    "prior": ("BadPrior", wrongs.PRIORS), "case": ("BadCase", wrongs.CASES),
     "paper": ("BadPaper", (7, [()])), "any": (None, ())}
 
 WORLD = world_of_integers((1, 0), (1, 1), (2, 2))
@@ -53,7 +60,18 @@ TIES = ((0, 1), (2, 1))
 ROW = (((0, 1, 2),), VIEW, ((0,), (1,), (2,)))
 FAIR = dayviews.fair_of(WORLD, ROW)
 
-GOOD = {"houses": HOUSES, "deals": DEALS, "points": POINTS, "ties": TIES, "row": ROW, "fair": FAIR,
+KNOWN = (ONE, WIDE)
+CLAIM = (0, 0, 8, 0, 0, -3)
+HOLDING = (((whole(1), whole(2)), (whole(0), whole(3), whole(4))), (whole(5), whole(6)))
+BOOK = ((CLAIM, -3, None), ((1, 2, 3, 4, 5, 6), None, 5))
+HEDGE = (HOLDING, (whole(0), whole(2)), ((1, 2), whole(0)))
+GAIN = market.gain_by(WIDE, ONE, ("mark", whole(1)))
+LOOK = (((1, 4), (3, 4)), ((3, 4), (1, 4)))
+CASE_WORLD = world_of_integers((1, 0), (1, 1), (2, 1))
+
+GOOD = {"known": KNOWN, "claim": CLAIM, "holding": HOLDING, "hedge": HEDGE, "book": BOOK,
+        "pairs": (REWARD,), "fair_of": fairshares.fair_by(KNOWN), "gain": GAIN, "look": LOOK,
+        "prior": (1, 3), "case": looks.share_by(LOOK, (1, 3)), "houses": HOUSES, "deals": DEALS, "points": POINTS, "ties": TIES, "row": ROW, "fair": FAIR,
         "chain": (TABLE, LATER), "day": 1, "shares": (ONE, WIDE), "world": WORLD, "view": VIEW, "views": VIEWS, "event": (0, 1), "cell": (0, 2), "state": 0,
         "bet": BET, "guesses": BET, "share": ONE, "table": TABLE, "fraction": MARK, "score": SCORE,
         "ladder": LADDER, "reward": REWARD, "near": whole(1), "far": whole(0), "times": 2,
@@ -232,6 +250,57 @@ CALLS = (
     Call(fairshares.fair_by, "shares", "shares"),
     Call(tellback.world_of, "fair", "fair"),
     Call(tellback.row_of, "fair", "fair"),
+    Call(between.can_be_between, "share share share", "one share other", share=ONE, **PAIR),
+    Call(between.view_between, "world view view share", "world view other share",
+         view=((0, 1, 2),), other=((0,), (1,), (2,)), share=views.share_of(WORLD, VIEW)),
+    Call(known.need_known, "known", "thing"),
+    Call(known.rows_of, "known", "known"),
+    Call(known.beginnings, "known", "known"),
+    Call(known.is_fair_of, "known any", "known value"),
+    Call(known.need_claim, "known claim", "known thing"),
+    Call(known.mean_by, "known fair_of claim", "known fair claim", fair=fairshares.fair_by(KNOWN)),
+    Call(holdings.pays, "known holding", "known holding"),
+    Call(holdings.cost, "known holding", "known holding"),
+    Call(bounds.least_mean, "known claim", "known claim"),
+    Call(bounds.greatest_mean, "known claim", "known claim"),
+    Call(bounds.least_means_paper, "known claim", "known claim"),
+    Call(bounds.greatest_means_paper, "known claim", "known claim"),
+    Call(bounds.check_least_mean, "known claim paper", "known claim paper",
+         paper=bounds.least_means_paper(KNOWN, CLAIM)),
+    Call(bounds.check_greatest_mean, "known claim paper", "known claim paper",
+         paper=bounds.greatest_means_paper(KNOWN, CLAIM)),
+    Call(neighbours.claim_of, "known pairs", "known pairs"),
+    Call(neighbours.least_of, "known pairs", "known pairs"),
+    Call(neighbours.greatest_of, "known pairs", "known pairs"),
+    Call(neighbours.low_chain, "known", "known"),
+    Call(neighbours.high_chain, "known", "known"),
+    Call(market.is_gain, "share share any", "one other value", **PAIR),
+    Call(market.gain_by, "share share paper", "one other paper", one=WIDE, other=ONE,
+         paper=("mark", whole(1))),
+    Call(market.paper_by, "share share gain", "one other gain", one=WIDE, other=ONE),
+    Call(market.above, "share fraction", "share mark"),
+    Call(books.need_book, "known book", "known thing"),
+    Call(books.does_keep, "known fair_of book", "known fair book", fair=fairshares.fair_by(KNOWN)),
+    Call(books.hedge_pays, "known book hedge", "known book hedge"),
+    Call(books.hedge_cost, "known book hedge", "known book hedge"),
+    Call(books.book_paper, "known book", "known book"),
+    Call(books.check_book, "known book paper", "known book paper",
+         paper=books.book_paper(KNOWN, BOOK)),
+    Call(books.least_under, "known book claim", "known book claim"),
+    Call(books.greatest_under, "known book claim", "known book claim"),
+    Call(books.under_paper, "known book claim", "known book claim"),
+    Call(books.check_under, "known book claim paper", "known book claim paper",
+         paper=books.under_paper(KNOWN, BOOK, CLAIM)),
+    Call(toldclaims.is_told, "known claim", "known claim"),
+    Call(toldclaims.reached, "known", "known"),
+    Call(toldclaims.replica, "known claim", "known claim"),
+    Call(looks.need_look, "look", "thing"),
+    Call(looks.share_by, "look prior", "look prior"),
+    Call(looks.look_of, "case", "case"),
+    Call(looks.is_plain, "look", "look"),
+    Call(looks.plain, "look", "look"),
+    Call(looks.both_of, "look look", "look other", other=LOOK),
+    Call(looks.view_look, "world view", "world view", world=CASE_WORLD),
 )
 
 # What the interface lists under each file.
@@ -265,15 +334,28 @@ LISTED = {
     dayviews: "need_row path_of fair_of",
     ownviews: "own_views is_own",
     fairshares: "need_fair many_days day_share day_table leave_out chained fair_by",
-    tellback: "world_of row_of"}
+    tellback: "world_of row_of",
+    between: "can_be_between view_between",
+    known: "need_known rows_of beginnings is_fair_of need_claim mean_by",
+    holdings: "pays cost",
+    bounds: "least_mean greatest_mean least_means_paper greatest_means_paper check_least_mean "
+            "check_greatest_mean",
+    neighbours: "claim_of least_of greatest_of low_chain high_chain",
+    market: "is_gain gain_by paper_by above",
+    books: "need_book does_keep hedge_pays hedge_cost book_paper check_book least_under "
+           "greatest_under under_paper check_under",
+    toldclaims: "is_told reached replica",
+    looks: "need_look share_by look_of is_plain plain both_of view_look"}
 
 # What tells a number of a part, or else a word or None: the function that needs it, and how many
 # parts there are at least and at most.
 PARTED = {"world": (views.need_world, 1, 36), "score": (scores.need_score, 0, 10),
-          "ladder": (ladders.need_ladder, 0, 10), "houses": (houses.need_houses, 1, 6)}
+          "ladder": (ladders.need_ladder, 0, 10), "houses": (houses.need_houses, 1, 6),
+          "book": (lambda thing: books.need_book(KNOWN, thing), 0, 6)}
 
 # Where anything that is a pair has the form of a PAPER.
-PAIRS = (agree.check_bet, houses.check_gain)
+PAIRS = (agree.check_bet, houses.check_gain, bounds.check_least_mean, bounds.check_greatest_mean,
+         books.check_under)
 
 
 def wanted_part(kind, thing):

@@ -1,0 +1,126 @@
+"""BOOKS of QUOTES: FAIR SHARES that keep them, HEDGES, and means under them."""
+
+from forehouse.errors import BadPaper, SureGain
+from forehouse.exact import NOUGHT, is_under, taken
+from forehouse.fairlines import rows_by
+from forehouse.kinds import copied, is_row, word_of
+from forehouse.known import is_of, mean_of_claim, sure_claim, sure_fair_of, sure_known
+from forehouse.limits import greatest_pair, hedge_from, least_fair, task_of
+from forehouse.quotes import hedge_costs, hedge_paid, is_hedge, is_kept, sure_book, sure_hedge
+
+FORMS = (("fair", 2), ("gain", 2))
+
+
+def sure_booked(known, book):
+    """Plain copies of what is KNOWN, and of a BOOK on it."""
+    known = sure_known(known)
+    return (known, sure_book(known, book))
+
+
+def sure_under(known, book, claim):
+    """Likewise, with a CLAIM."""
+    known, book = sure_booked(known, book)
+    return (known, book, sure_claim(known, claim))
+
+
+def kept_task(known, book):
+    """The Task of FAIR SHARES that keep a BOOK, there being such."""
+    task = task_of(known, book)
+    if not task.can_be:
+        raise SureGain(("gain", hedge_from(known, book, task.why_not())))
+    return task
+
+
+def need_book(known, thing):
+    sure_book(sure_known(known), thing)
+    return thing
+
+
+def does_keep(known, fair, book):
+    known = sure_known(known)
+    fair = sure_fair_of(known, fair)
+    book = sure_book(known, book)
+    return is_kept(known, fair, book)
+
+
+def hedge_pays(known, book, hedge):
+    known, book = sure_booked(known, book)
+    hedge = sure_hedge(known, book, hedge)
+    return tuple(hedge_paid(known, book, hedge))
+
+
+def hedge_cost(known, book, hedge):
+    known, book = sure_booked(known, book)
+    hedge = sure_hedge(known, book, hedge)
+    return hedge_costs(known, book, hedge)
+
+
+def book_paper(known, book):
+    known, book = sure_booked(known, book)
+    task = task_of(known, book)
+    if not task.can_be:
+        return ("gain", hedge_from(known, book, task.why_not()))
+    return ("fair", least_fair(known, book, task, [0] * len(rows_by(known))))
+
+
+def does_gain(known, book, thing):
+    """Whether any thing is a HEDGE that nowhere PAYS less than nought, and COSTS less."""
+    if not is_hedge(known, book, thing):
+        return False
+    hedge = copied(thing)
+    if any([is_under(part, NOUGHT) for part in hedge_paid(known, book, hedge)]):
+        return False
+    return is_under(hedge_costs(known, book, hedge), NOUGHT)
+
+
+def does_keep_it(known, book, thing):
+    """Whether any thing is a FAIR SHARE that keeps the BOOK."""
+    return is_of(known, thing) and is_kept(known, copied(thing), book)
+
+
+def check_book(known, book, paper):
+    known, book = sure_booked(known, book)
+    word = word_of(paper, FORMS)
+    if word is None:
+        raise BadPaper("form")
+    if word == "fair" and not does_keep_it(known, book, paper[1]):
+        raise BadPaper("fair")
+    if word == "gain" and not does_gain(known, book, paper[1]):
+        raise BadPaper("gain")
+    return word
+
+
+def least_under(known, book, claim):
+    known, book, claim = sure_under(known, book, claim)
+    fair = least_fair(known, book, kept_task(known, book), claim)
+    return mean_of_claim(known, fair, claim)
+
+
+def greatest_under(known, book, claim):
+    known, book, claim = sure_under(known, book, claim)
+    fair = greatest_pair(known, book, kept_task(known, book), claim)[0]
+    return mean_of_claim(known, fair, claim)
+
+
+def under_paper(known, book, claim):
+    known, book, claim = sure_under(known, book, claim)
+    return greatest_pair(known, book, kept_task(known, book), claim)
+
+
+def check_under(known, book, claim, paper):
+    known, book, claim = sure_under(known, book, claim)
+    kept_task(known, book)
+    if not is_row(paper, 2):
+        raise BadPaper("form")
+    if not does_keep_it(known, book, paper[0]):
+        raise BadPaper("fair")
+    if not is_hedge(known, book, paper[1]):
+        raise BadPaper("holding")
+    fair, hedge = copied(paper)
+    spare = [taken(paid, (part, 1)) for paid, part in zip(hedge_paid(known, book, hedge), claim)]
+    if any([is_under(part, NOUGHT) for part in spare]):
+        raise BadPaper("holding")
+    mean = mean_of_claim(known, fair, claim)
+    if hedge_costs(known, book, hedge) != mean:
+        raise BadPaper("cost")
+    return mean
