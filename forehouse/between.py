@@ -5,7 +5,7 @@ from forehouse.coarser import labellings, need_few
 from forehouse.errors import BadView
 from forehouse.exact import added_up
 from forehouse.relation import why_not_wider
-from forehouse.shares import sure_share
+from forehouse.shares import numbers_of, sure_share
 from forehouse.worlds import sure_view, sure_world
 
 MOST_CELLS = 7
@@ -30,6 +30,22 @@ def labellings_within(homes):
             if all([homes[at] == homes[row.index(part)] for at, part in enumerate(row)])]
 
 
+def views_with(world, views, share):
+    """The VIEWS with this SHARE."""
+    numbers = numbers_of(share)
+    # Far fewer CELLS than VIEWS: what no FORECAST can be is asked of each of them once.
+    cells = {cell: True for view in views for cell in view}
+    fits = {cell: mean_in(world, cell, worths(world)) in numbers for cell in cells}
+    return [view for view in views
+            if all([fits[cell] for cell in view]) and share_by(world, view) == share]
+
+
+def spread_over(view, cells):
+    """The VIEW of STATES, of each of which the number of its CELL is told."""
+    numbers = places(view)
+    return grouped([numbers[cell] for cell in cells])
+
+
 def view_between(world, view, other, share):
     world = sure_world(world)
     view = sure_view(world, view)
@@ -38,9 +54,7 @@ def view_between(world, view, other, share):
         raise BadView(other)
     share = sure_share(share)
     need_few(fine, MOST_CELLS)
-    small = pooled(world, fine)
-    homes = [places(view)[cell[0]] for cell in fine]
-    cells = places(fine)
-    found = [grouped([row[cell] for cell in cells]) for row in labellings_within(homes)
-             if share_by(small, grouped(row)) == share]
-    return min(found) if found else None
+    homes = places(view)
+    rows = labellings_within([homes[cell[0]] for cell in fine])
+    found = views_with(pooled(world, fine), [grouped(row) for row in rows], share)
+    return min([spread_over(small, places(fine)) for small in found]) if found else None

@@ -2,10 +2,10 @@
 
 from forehouse.errors import BadPaper, SureGain
 from forehouse.exact import NOUGHT, is_under, taken
-from forehouse.fairlines import rows_by
+from forehouse.fairlines import fair_with
 from forehouse.kinds import copied, is_row, word_of
 from forehouse.known import is_of, mean_of_claim, sure_claim, sure_fair_of, sure_known
-from forehouse.limits import greatest_pair, hedge_from, least_fair, task_of
+from forehouse.limits import greatest_pair, hedge_from, task_of
 from forehouse.quotes import hedge_costs, hedge_paid, is_hedge, is_kept, sure_book, sure_hedge
 
 FORMS = (("fair", 2), ("gain", 2))
@@ -23,12 +23,25 @@ def sure_under(known, book, claim):
     return (known, book, sure_claim(known, claim))
 
 
-def kept_task(known, book):
-    """The Task of FAIR SHARES that keep a BOOK, there being such."""
+def gain_paper_of(known, book, task):
+    """The PAPER on a BOOK of which has come out that no FAIR SHARE keeps it."""
+    return ("gain", hedge_from(known, book, task.why_not()))
+
+
+def need_kept(known, book):
+    """Raises the error of a BOOK that no FAIR SHARE keeps."""
     task = task_of(known, book)
-    if not task.can_be:
-        raise SureGain(("gain", hedge_from(known, book, task.why_not())))
-    return task
+    if task.find() is None:
+        raise SureGain(gain_paper_of(known, book, task))
+
+
+def kept_pair(known, book, claim):
+    """A FAIR SHARE with the GREATEST MEAN under a BOOK, and a HEDGE that shows it."""
+    task = task_of(known, book)
+    pair = greatest_pair(known, book, task, claim)
+    if pair is None:
+        raise SureGain(gain_paper_of(known, book, task))
+    return pair
 
 
 def need_book(known, thing):
@@ -58,9 +71,10 @@ def hedge_cost(known, book, hedge):
 def book_paper(known, book):
     known, book = sure_booked(known, book)
     task = task_of(known, book)
-    if not task.can_be:
-        return ("gain", hedge_from(known, book, task.why_not()))
-    return ("fair", least_fair(known, book, task, [0] * len(rows_by(known))))
+    amounts = task.find()
+    if amounts is None:
+        return gain_paper_of(known, book, task)
+    return ("fair", fair_with(known, amounts))
 
 
 def does_gain(known, book, thing):
@@ -92,24 +106,24 @@ def check_book(known, book, paper):
 
 def least_under(known, book, claim):
     known, book, claim = sure_under(known, book, claim)
-    fair = least_fair(known, book, kept_task(known, book), claim)
+    fair = kept_pair(known, book, [-part for part in claim])[0]
     return mean_of_claim(known, fair, claim)
 
 
 def greatest_under(known, book, claim):
     known, book, claim = sure_under(known, book, claim)
-    fair = greatest_pair(known, book, kept_task(known, book), claim)[0]
+    fair = kept_pair(known, book, claim)[0]
     return mean_of_claim(known, fair, claim)
 
 
 def under_paper(known, book, claim):
     known, book, claim = sure_under(known, book, claim)
-    return greatest_pair(known, book, kept_task(known, book), claim)
+    return kept_pair(known, book, claim)
 
 
 def check_under(known, book, claim, paper):
     known, book, claim = sure_under(known, book, claim)
-    kept_task(known, book)
+    need_kept(known, book)
     if not is_row(paper, 2):
         raise BadPaper("form")
     if not does_keep_it(known, book, paper[0]):

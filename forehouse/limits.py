@@ -46,15 +46,13 @@ def hedge_from(known, book, prices):
 
 
 def greatest_pair(known, book, task, claim):
-    """A FAIR SHARE with the GREATEST MEAN of a CLAIM, and a HEDGE that shows it."""
+    """A FAIR SHARE with the GREATEST MEAN of a CLAIM, and a HEDGE that shows it, or None."""
     spare = [0] * len(sides_of(book))
-    amounts, prices = task.least([-part for part in claim] + spare)
+    found = task.least([-part for part in claim] + spare)
+    if found is None:
+        return None
+    amounts, prices = found
     return (fair_with(known, amounts), hedge_from(known, book, prices))
-
-
-def least_fair(known, book, task, claim):
-    """A FAIR SHARE with the LEAST MEAN of a CLAIM."""
-    return greatest_pair(known, book, task, [-part for part in claim])[0]
 
 
 def reached_by(known):

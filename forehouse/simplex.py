@@ -75,47 +75,88 @@ def leaving(rows, heads, col):
     return best
 
 
+def next_step(stand, many, stuck):
+    """The row and the side that change places next, by the last row of costs, or None."""
+    rows, heads, sides, _ = stand
+    line = rows[-1]
+    # Exchanges that change no amount might go in a ring, but not if the first enters.
+    col = first_side(line, sides, many) if stuck else steepest_side(line, sides, many)
+    at = None if col is None else leaving(rows, heads, col)
+    return None if at is None else (at, col)
+
+
+def without_last(stand):
+    rows, heads, sides, scale = stand
+    return (rows[:-1], heads, sides, scale)
+
+
 def lowered(stand, costs, many):
-    """A stand with the least costs, and its line of costs."""
+    """A stand with the least costs, there being such, and its line of costs."""
     rows, heads, sides, scale = stand
     stand = (rows + [cost_line(stand, costs)], heads, sides, scale)
-    stuck = False
-    while True:
-        rows, heads, sides, scale = stand
-        # Exchanges that change no amount might go in a ring, but not if the first enters.
-        line = rows[-1]
-        col = first_side(line, sides, many) if stuck else steepest_side(line, sides, many)
-        if col is None:
-            return ((rows[:-1], heads, sides, scale), line)
-        at = leaving(rows, heads, col)
-        stuck = rows[at][-1] == 0
+    step = next_step(stand, many, False)
+    while step is not None:
+        at, col = step
+        stuck = stand[0][at][-1] == 0
         stand = exchanged(stand, at, col)
+        step = next_step(stand, many, stuck)
+    return (without_last(stand), stand[0][-1])
+
+
+def free_col(stand, at, many):
+    """The first side of an amount of which a row has any, or None."""
+    row = stand[0][at]
+    cols = [col for col, side in enumerate(stand[2]) if side < many and row[col] != 0]
+    return cols[0] if cols else None
 
 
 def seated(stand, many):
     """The stand in which what an equation lacks, being 0, heads only rows of nothing else."""
     for at in range(len(stand[1])):
-        rows, heads, sides, _ = stand
-        if heads[at] >= many:
-            cols = [col for col, side in enumerate(sides) if side < many and rows[at][col] != 0]
-            if cols:
-                stand = exchanged(stand, at, cols[0])
+        col = free_col(stand, at, many) if stand[1][at] >= many else None
+        if col is not None:
+            stand = exchanged(stand, at, col)
     return stand
+
+
+def headed(stand, labels, many):
+    """The stand in which these amounts, that are at sides, head rows, as far as can be."""
+    for label in labels:
+        rows, heads, sides, _ = stand
+        col = sides.index(label)
+        ats = [at for at, head in enumerate(heads) if head >= many and rows[at][col] != 0]
+        if ats:
+            stand = exchanged(stand, ats[0], col)
+    return stand
+
+
+def can_stand(stand):
+    """Whether no amount is below 0."""
+    return all([row[-1] >= 0 for row in stand[0]])
 
 
 def lack_costs(many, lacks):
     return [0] * many + [1] * lacks
 
 
-def begun(matrix, bounds):
-    """A stand that lacks as little as can be, and whether it lacks nothing.
-
-    matrix and bounds are integers, no bound below 0.
-    """
+def opened(matrix, bounds):
+    """The stand in which each equation lacks all of its bound."""
     many = len(matrix[0])
     rows = [row + [bound] for row, bound in zip(matrix, bounds)]
-    heads = [many + at for at in range(len(rows))]
-    stand, line = lowered((rows, heads, list(range(many)), 1), lack_costs(many, len(rows)), many)
+    return (rows, [many + at for at in range(len(rows))], list(range(many)), 1)
+
+
+def begun(matrix, bounds, labels):
+    """A stand that lacks as little as can be, and whether it lacks nothing.
+
+    matrix and bounds are integers, no bound below 0. Of labels is hoped that these
+    amounts head the rows at last: if that can be, it is begun there.
+    """
+    many = len(matrix[0])
+    stand = headed(opened(matrix, bounds), labels, many)
+    if not can_stand(stand):
+        stand = opened(matrix, bounds)
+    stand, line = lowered(stand, lack_costs(many, len(matrix)), many)
     if line[-1] != 0:
         return (stand, False)
     return (seated(stand, many), True)

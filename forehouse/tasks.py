@@ -3,6 +3,7 @@
 from math import gcd, lcm
 
 from forehouse.exact import NOUGHT, divided, is_under, multiplied
+from forehouse.near import guessed
 from forehouse.simplex import amounts_of, begun, lack_costs, lowered, prices_of
 
 
@@ -46,33 +47,53 @@ class Task:
         self.factors = [factor_of(row, bound) for row, bound in zip(rows, bounds)]
         bounds = [multiplied(bound, factor) for bound, factor in zip(bounds, self.factors)]
         self.bottom = common_bottom(bounds)
-        matrix = [raised([multiplied(part, factor) for part in row], 1)
-                  for row, factor in zip(rows, self.factors)]
-        stand, can_be = begun(matrix, raised(bounds, self.bottom))
-        self.stand = stand
-        self.can_be = can_be
+        self.matrix = [raised([multiplied(part, factor) for part in row], 1)
+                       for row, factor in zip(rows, self.factors)]
+        self.bounds = raised(bounds, self.bottom)
+        self.stand = None
+        self.can_be = False
 
     def prices(self, costs):
         prices = prices_of(self.stand, costs, len(self.units))
         return [multiplied(price, factor) for price, factor in zip(prices, self.factors)]
 
+    def amounts(self):
+        """The amounts above nought, in a dict."""
+        amounts = amounts_of(self.stand, len(self.units))
+        return {at: multiplied(amounts[at], (self.units[at], self.bottom)) for at in amounts}
+
+    def begin(self, costs):
+        """Makes a stand that lacks nothing, if that can be; tells whether it can.
+
+        The stand may be near the one with the least costs.
+        """
+        labels = guessed(self.matrix, self.bounds, costs)
+        # Without a guess an earlier stand is as good as a new one.
+        if labels or self.stand is None:
+            self.stand, self.can_be = begun(self.matrix, self.bounds, labels)
+        return self.can_be
+
+    def find(self):
+        """Amounts from nought on, in a dict, None if there are none."""
+        return self.amounts() if self.begin([0] * len(self.units)) else None
+
+    def least(self, costs):
+        """The amounts above nought with the least costs, in a dict, and the prices, or None.
+
+        costs are integers. For each amount the prices, times what it has there, are
+        together no more than what it costs; times the bounds they are the least costs.
+        """
+        costs = [cost * unit for cost, unit in zip(costs, self.units)]
+        if not self.begin(costs):
+            return None
+        costs = costs + [0] * len(self.factors)
+        self.stand = lowered(self.stand, costs, len(self.units))[0]
+        return (self.amounts(), self.prices(costs))
+
     def why_not(self):
-        """Prices of equations that cannot be kept.
+        """Prices of equations that cannot be kept, when this has come out.
 
         For each amount they are together, times what it has there, not above nought; but
         their sum times the bounds is.
         """
         return self.prices(lack_costs(len(self.units), len(self.factors)))
-
-    def least(self, costs):
-        """The amounts above nought with the least costs, in a dict, and the prices.
-
-        costs are integers. For each amount the prices, times what it has there, are
-        together no more than what it costs; times the bounds they are the least costs.
-        """
-        many = len(self.units)
-        costs = [cost * unit for cost, unit in zip(costs, self.units)] + [0] * len(self.factors)
-        self.stand = lowered(self.stand, costs, many)[0]
-        amounts = amounts_of(self.stand, many)
-        amounts = {at: multiplied(amounts[at], (self.units[at], self.bottom)) for at in amounts}
-        return (amounts, self.prices(costs))

@@ -538,6 +538,38 @@ class ToldTest(unittest.TestCase):
         claim = (1, -2, 3, 4, 5, -6)
         self.assertEqual(bounds.greatest_mean(scaled, claim), bounds.greatest_mean(THREE, claim))
 
+    def test_numbers_and_weights_of_60_figures(self):
+        big = 10 ** 58
+        one = ((pair_of(Fraction(big + 9, big + 7)), pair_of(Fraction(big + 1, 3 * big + 2))),
+               (pair_of(Fraction(5 * big + 3, 2 * big + 1)), pair_of(Fraction(7 * big - 1, big - 6))))
+        maker = Maker(106)
+        long = 0
+        for _ in range(2):
+            some = [one]
+            while len(some) < 3:
+                wide = maker.wider(some[-1])
+                if len(wide) < 7 - len(some):
+                    some.append(wide)
+            some = tuple(some)
+            known.need_known(some)
+            long = max(long, len(known.rows_of(some)))
+            claim = maker.claim(some, -10 ** 6, 10 ** 6)
+            low = bounds.check_least_mean(some, claim, bounds.least_means_paper(some, claim))
+            high = bounds.check_greatest_mean(some, claim, bounds.greatest_means_paper(some, claim))
+            middle = floor((worth(low) + worth(high)) / 2)
+            for bid in (middle, floor(worth(high)) + 1):
+                book = ((claim, bid, None), (claim, None, 10 ** 6))
+                paper = books.book_paper(some, book)
+                self.assertEqual(books.check_book(some, book, paper), paper[0])
+                self.assertEqual(paper[0], "fair" if bid <= worth(high) else "gain")
+                if paper[0] == "fair":
+                    under = books.under_paper(some, book, claim)
+                    self.assertEqual(books.check_under(some, book, claim, under), high)
+            self.assertEqual(toldclaims.is_told(some, claim), low == high)
+            for row in toldclaims.reached(some):
+                self.assertIn(row, known.rows_of(some))
+        self.assertGreater(long, 12)
+
 
 if __name__ == "__main__":
     unittest.main()
