@@ -31,7 +31,7 @@ def gain_paper_of(known, book, task):
 def need_kept(known, book):
     """Raises the error of a BOOK that no FAIR SHARE keeps."""
     task = task_of(known, book)
-    if task.find() is None:
+    if task.some_amounts() is None:
         raise SureGain(gain_paper_of(known, book, task))
 
 
@@ -71,7 +71,7 @@ def hedge_cost(known, book, hedge):
 def book_paper(known, book):
     known, book = sure_booked(known, book)
     task = task_of(known, book)
-    amounts = task.find()
+    amounts = task.some_amounts()
     if amounts is None:
         return gain_paper_of(known, book, task)
     return ("fair", fair_with(known, amounts))

@@ -25,15 +25,13 @@ def rise_by(above, guesses):
 
 
 def next_step(world, lots, done):
-    """What the UP LOT with the greatest mean has beside an UP LOT, and this mean."""
+    """The STATES of some UP LOT, but those that are done, with the greatest mean; this mean."""
     best = None
     for lot in lots:
         step = tuple([state for state in lot if state not in done])
-        if step and all([state in lot for state in done]):
+        if step:
             mean = mean_in(world, step, worths(world))
-            # Of several the longest: it has all of them, and the next mean is less.
-            if best is None or is_under(best[1], mean) or (
-                    mean == best[1] and len(step) > len(best[0])):
+            if best is None or is_under(best[1], mean):
                 best = (step, mean)
     return best
 

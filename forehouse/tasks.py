@@ -73,7 +73,7 @@ class Task:
             self.stand, self.can_be = begun(self.matrix, self.bounds, labels)
         return self.can_be
 
-    def find(self):
+    def some_amounts(self):
         """Amounts from nought on, in a dict, None if there are none."""
         return self.amounts() if self.begin([0] * len(self.units)) else None
 

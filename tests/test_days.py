@@ -245,6 +245,10 @@ class FairTest(unittest.TestCase):
                       for at in range(7) for side in (-1, 1))
         self.assertEqual(fairshares.day_share(first, 1), share_of_integers((-9, 42), (9, 84)))
         self.assertRaises(TooMany, fairshares.day_table, first, 0)
+        middle = tuple(((whole(3),) + row, weight) for row, weight in first)
+        self.assertEqual(len(fairshares.day_share(middle, 2)), 2)
+        for day in (0, 1):
+            self.assertRaises(TooMany, fairshares.day_table, middle, day)
 
     def test_days_by_the_words(self):
         maker = Maker(83)

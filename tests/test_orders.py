@@ -298,6 +298,12 @@ class LevelTest(unittest.TestCase):
                           ((0, 1), (1, 2)), ((1, 1), (2, 1)), ((1, 1), (3,)), ((1, 1), (0,))):
             self.refuse(THREE, ties, whole_view, ("mark", mark, lot), "mark")
         self.refuse(THREE, ties, each, ("mark", (1, 1), (2,)), "mark")
+        # This one has the SHARE of the LEVEL VIEW, but does not rise.
+        world = world_of_integers((1, 0), (1, 2), (1, 0), (1, 2))
+        ties, fallen = ((1, 0),), ((0,), (1,), (2, 3))
+        self.assertEqual(share_of(world, fallen), share_of(world, onetables.level_view(world, ties)))
+        self.refuse(world, ties, fallen, ("level",), "level")
+        ties = ((0, 1),)
         for thing in ODD + FRACTIONS:
             self.refuse(THREE, ties, whole_view, ("mark", thing, (2,)), "mark")
         for thing in ODD + LOTS:

@@ -93,7 +93,7 @@ class ExactTest(unittest.TestCase):
             told = task.least(costs)
             seen[bool(found)] += 1
             self.assertEqual(told is not None, bool(found))
-            self.assertEqual(task.find() is not None, bool(found))
+            self.assertEqual(task.some_amounts() is not None, bool(found))
             if not found:
                 self.shows_that_none_are(matrix, bounds, task.why_not())
                 continue
@@ -102,7 +102,7 @@ class ExactTest(unittest.TestCase):
                         for corner in found)
             self.assertEqual(sum(costs[at] * worth(amounts[at]) for at in amounts), least)
             self.keeps(matrix, bounds, amounts)
-            self.keeps(matrix, bounds, task.find())
+            self.keeps(matrix, bounds, task.some_amounts())
             self.assertEqual(sum(worth(price) * bound for price, bound in zip(prices, bounds)), least)
             for at, cost in enumerate(costs):
                 self.assertLessEqual(
@@ -136,8 +136,8 @@ class ExactTest(unittest.TestCase):
                                        for amounts, _ in (told, fresh)])
 
     def test_no_amounts_at_all(self):
-        self.assertEqual(Task([(), ()], [(0, 1), (0, 1)], []).find(), {})
-        self.assertIsNone(Task([(), ()], [(0, 1), (1, 2)], []).find())
+        self.assertEqual(Task([(), ()], [(0, 1), (0, 1)], []).some_amounts(), {})
+        self.assertIsNone(Task([(), ()], [(0, 1), (1, 2)], []).some_amounts())
 
 
 class GuessTest(unittest.TestCase):
