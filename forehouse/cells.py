@@ -1,6 +1,6 @@
 """VIEWS and their means, of WORLDS and VIEWS that are known to be such."""
 
-from forehouse.exact import NOUGHT, added, divided, in_order, multiplied
+from forehouse.exact import NOUGHT, added, added_up, divided, in_order, multiplied
 
 
 def whole(many):
@@ -61,11 +61,8 @@ def met(views, many):
 
 def mean_in(world, cell, things):
     """The mean, by WEIGHTS, over a CELL of what things has for each STATE."""
-    weight = NOUGHT
-    weighed = NOUGHT
-    for state in cell:
-        weight = added(weight, world[state][0])
-        weighed = added(weighed, multiplied(world[state][0], things[state]))
+    weight = added_up([world[state][0] for state in cell])
+    weighed = added_up([multiplied(world[state][0], things[state]) for state in cell])
     return divided(weighed, weight)
 
 

@@ -13,20 +13,32 @@ def made(top, bottom):
 
 
 def added(one, other):
-    return made(one[0] * other[1] + other[0] * one[1], one[1] * other[1])
+    top, bottom = one
+    far_top, far_bottom = other
+    # What both bottoms share is all that can be left to shorten: less to divide at once.
+    shared = gcd(bottom, far_bottom)
+    part = bottom // shared
+    whole = top * (far_bottom // shared) + far_top * part
+    rest = gcd(whole, shared)
+    return (whole // rest, part * (far_bottom // rest))
 
 
 def taken(one, other):
     """The first one less the second one."""
-    return made(one[0] * other[1] - other[0] * one[1], one[1] * other[1])
+    return added(one, contrary(other))
 
 
 def multiplied(one, other):
-    return made(one[0] * other[0], one[1] * other[1])
+    top, bottom = one
+    far_top, far_bottom = other
+    near = gcd(top, far_bottom)
+    far = gcd(far_top, bottom)
+    return ((top // near) * (far_top // far), (bottom // far) * (far_bottom // near))
 
 
 def divided(one, other):
-    return made(one[0] * other[1], one[1] * other[0])
+    top, bottom = other
+    return multiplied(one, (bottom, top) if top > 0 else (-bottom, -top))
 
 
 def contrary(one):
@@ -55,14 +67,19 @@ def excess(one, other):
 
 
 def half_square(one):
-    return made(one[0] * one[0], 2 * one[1] * one[1])
+    top, bottom = one
+    shared = gcd(top, 2)
+    return (top * (top // shared), bottom * bottom * (2 // shared))
 
 
 def added_up(some):
-    whole = NOUGHT
-    for part in some:
-        whole = added(whole, part)
-    return whole
+    """The sum of a list."""
+    # Two by two: so few sums have to do with an immense common denominator.
+    parts = list(some)
+    while len(parts) > 1:
+        sums = [added(parts[at], parts[at + 1]) for at in range(0, len(parts) - 1, 2)]
+        parts = sums + parts[2 * len(sums):]
+    return parts[0] if parts else NOUGHT
 
 
 def summed_products(some, others):

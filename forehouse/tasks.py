@@ -2,7 +2,7 @@
 
 from math import gcd, lcm
 
-from forehouse.exact import NOUGHT, divided, is_under, multiplied
+from forehouse.exact import NOUGHT, divided, is_under, made, multiplied
 from forehouse.near import guessed
 from forehouse.simplex import amounts_of, begun, lack_costs, lowered, prices_of
 
@@ -60,7 +60,7 @@ class Task:
     def amounts(self):
         """The amounts above nought, in a dict."""
         amounts = amounts_of(self.stand, len(self.units))
-        return {at: multiplied(amounts[at], (self.units[at], self.bottom)) for at in amounts}
+        return {at: multiplied(amounts[at], made(self.units[at], self.bottom)) for at in amounts}
 
     def begin(self, costs):
         """Makes a stand that lacks nothing, if that can be; tells whether it can.
