@@ -2,10 +2,10 @@
 
 from forehouse.errors import BadPaper, SureGain
 from forehouse.exact import NOUGHT, is_under, taken
-from forehouse.fairlines import fair_with
+from forehouse.fairlines import rows_by
 from forehouse.kinds import copied, is_row, word_of
 from forehouse.known import is_of, mean_of_claim, sure_claim, sure_fair_of, sure_known
-from forehouse.limits import greatest_pair, hedge_from, task_of
+from forehouse.limits import greatest_pair
 from forehouse.quotes import hedge_costs, hedge_paid, is_hedge, is_kept, sure_book, sure_hedge
 
 FORMS = (("fair", 2), ("gain", 2))
@@ -23,24 +23,22 @@ def sure_under(known, book, claim):
     return (known, book, sure_claim(known, claim))
 
 
-def gain_paper_of(known, book, task):
-    """The PAPER on a BOOK of which has come out that no FAIR SHARE keeps it."""
-    return ("gain", hedge_from(known, book, task.why_not()))
+def some_pair(known, book):
+    """A FAIR SHARE that keeps a BOOK, or None and a HEDGE that shows that there is none."""
+    return greatest_pair(known, book, [0] * len(rows_by(known)))
 
 
-def need_kept(known, book):
-    """Raises the error of a BOOK that no FAIR SHARE keeps."""
-    task = task_of(known, book)
-    if task.some_amounts() is None:
-        raise SureGain(gain_paper_of(known, book, task))
+def need_kept(pair):
+    """Raises the error of a BOOK of which has come out that no FAIR SHARE keeps it."""
+    fair, hedge = pair
+    if fair is None:
+        raise SureGain(("gain", hedge))
 
 
 def kept_pair(known, book, claim):
     """A FAIR SHARE with the GREATEST MEAN under a BOOK, and a HEDGE that shows it."""
-    task = task_of(known, book)
-    pair = greatest_pair(known, book, task, claim)
-    if pair is None:
-        raise SureGain(gain_paper_of(known, book, task))
+    pair = greatest_pair(known, book, claim)
+    need_kept(pair)
     return pair
 
 
@@ -70,11 +68,8 @@ def hedge_cost(known, book, hedge):
 
 def book_paper(known, book):
     known, book = sure_booked(known, book)
-    task = task_of(known, book)
-    amounts = task.some_amounts()
-    if amounts is None:
-        return gain_paper_of(known, book, task)
-    return ("fair", fair_with(known, amounts))
+    fair, hedge = some_pair(known, book)
+    return ("gain", hedge) if fair is None else ("fair", fair)
 
 
 def does_gain(known, book, thing):
@@ -123,7 +118,7 @@ def under_paper(known, book, claim):
 
 def check_under(known, book, claim, paper):
     known, book, claim = sure_under(known, book, claim)
-    need_kept(known, book)
+    need_kept(some_pair(known, book))
     if not is_row(paper, 2):
         raise BadPaper("form")
     if not does_keep_it(known, book, paper[0]):

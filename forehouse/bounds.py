@@ -5,7 +5,7 @@ from forehouse.exact import contrary, taken
 from forehouse.holdings import cost_by, is_holding, paid_by
 from forehouse.kinds import copied, is_row
 from forehouse.known import is_of, mean_of_claim, sure_claim, sure_known
-from forehouse.limits import greatest_pair, task_of
+from forehouse.limits import greatest_pair
 
 
 def sure_claimed(known, claim):
@@ -16,7 +16,7 @@ def sure_claimed(known, claim):
 
 def greatest_of_claim(known, claim):
     """The PAPER on the GREATEST MEAN."""
-    fair, hedge = greatest_pair(known, (), task_of(known, ()), claim)
+    fair, hedge = greatest_pair(known, (), claim)
     return (fair, hedge[0])
 
 

@@ -32,7 +32,8 @@ def best_flow(world, ties, guesses):
     roads = roads_of(all_above(len(world), ties), guesses)
     equations = [[ONE if low == state else LESS_ONE if high == state else NOUGHT
                   for low, high in roads] for state in range(len(world))]
-    amounts = Task(equations, needs_of(world, guesses), [1] * len(roads)).some_amounts()
+    task = Task(equations, needs_of(world, guesses), [1] * len(roads))
+    amounts = task.least([0] * len(roads))[0]
     return tuple([(low, high, amounts[at]) for at, (low, high) in enumerate(roads) if at in amounts])
 
 

@@ -45,14 +45,15 @@ def hedge_from(known, book, prices):
     return (holding, tuple(buys), tuple(sells))
 
 
-def greatest_pair(known, book, task, claim):
-    """A FAIR SHARE with the GREATEST MEAN of a CLAIM, and a HEDGE that shows it, or None."""
-    spare = [0] * len(sides_of(book))
-    found = task.least([-part for part in claim] + spare)
-    if found is None:
-        return None
-    amounts, prices = found
-    return (fair_with(known, amounts), hedge_from(known, book, prices))
+def greatest_pair(known, book, claim):
+    """A FAIR SHARE with the GREATEST MEAN of a CLAIM under a BOOK, and a HEDGE that shows it.
+
+    If no FAIR SHARE keeps the BOOK, the first is None, and the HEDGE shows this.
+    """
+    costs = [-part for part in claim] + [0] * len(sides_of(book))
+    amounts, prices = task_of(known, book).least(costs)
+    fair = None if amounts is None else fair_with(known, amounts)
+    return (fair, hedge_from(known, book, prices))
 
 
 def reached_by(known):

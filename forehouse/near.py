@@ -1,24 +1,23 @@
 """A guess which amounts head the rows of a stand with the least costs.
 
 It is made by the same exchanges as in simplex.py, but with rounded numbers: integers
-over one scale, a power of two, that stays. So it may be wrong, and only tells where the
-exact reckoning begins. Where all integers are short, that needs no guess.
+over one scale, a power of two, that stays. So it may be wrong, and has to be proved.
 """
 
+from forehouse.exact import NOUGHT
 from forehouse.simplex import free_col, next_step, opened, without_last
 
-SHORT = 64
 MOST_EXCHANGES = 400
-
-
-def longest(some):
-    """How many bits the longest of some integers has."""
-    return max([part.bit_length() for part in some], default=0)
 
 
 def shifted(part, bits):
     """An integer with so many bits more, or less."""
     return part << bits if bits >= 0 else part >> -bits
+
+
+def longest(some):
+    """How many bits the longest of some integers has."""
+    return max([part.bit_length() for part in some], default=0)
 
 
 def evened(rows, bits):
@@ -27,10 +26,17 @@ def evened(rows, bits):
     return [list(row) for row in zip(*cols)]
 
 
-def near_opened(matrix, bounds, costs, bits):
+def near_row(row, bound, bits):
+    """A rounded equation with its bound, this not below 0."""
+    line = [(top << bits) // bottom for top, bottom in list(row) + [bound]]
+    return [-part for part in line] if line[-1] < 0 else line
+
+
+def near_opened(equations, bounds, costs, bits):
     """The rounded stand in which each equation lacks all, with a row of costs, and of lacks."""
-    rows, heads, sides, _ = opened(matrix + [costs], bounds + [0])
-    rows = [[shifted(part, bits - longest(row[:-1])) for part in row] for row in rows]
+    rows = [near_row(row, bound, bits) for row, bound in zip(equations, bounds)]
+    asked = [(cost, 1) for cost in costs]
+    rows, heads, sides, _ = opened(rows + [near_row(asked, NOUGHT, bits)])
     rows = evened(rows, bits)
     equations = rows[:-1]
     lacks = [-sum(col) for col in zip(*equations)]
@@ -80,13 +86,13 @@ def near_seated(stand, many):
     return stand
 
 
-def guessed(matrix, bounds, costs):
-    """The labels of the amounts that may head the rows at last; of short integers none."""
+def guessed(equations, bounds, costs, bits):
+    """The heads that a stand with the least costs may have, and whether it may lack nothing.
+
+    equations and bounds are FRACTIONS, costs integers.
+    """
     many = len(costs)
-    length = longest([part for row in matrix for part in row])
-    if length <= SHORT:
-        return []
-    stand = near_lowered(near_opened(matrix, bounds, costs, 2 * length + SHORT), many)
-    if stand[0][-1][-1] == 0:
-        stand = near_lowered(near_seated(without_last(stand), many), many)
-    return [head for head in stand[1] if head < many]
+    stand = near_lowered(near_opened(equations, bounds, costs, bits), many)
+    if stand[0][-1][-1] != 0:
+        return (stand[1], False)
+    return (near_lowered(near_seated(without_last(stand), many), many)[1], True)

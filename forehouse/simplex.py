@@ -119,44 +119,21 @@ def seated(stand, many):
     return stand
 
 
-def headed(stand, labels, many):
-    """The stand in which these amounts, that are at sides, head rows, as far as can be."""
-    for label in labels:
-        rows, heads, sides, _ = stand
-        col = sides.index(label)
-        ats = [at for at, head in enumerate(heads) if head >= many and rows[at][col] != 0]
-        if ats:
-            stand = exchanged(stand, ats[0], col)
-    return stand
-
-
-def can_stand(stand):
-    """Whether no amount is below 0."""
-    return all([row[-1] >= 0 for row in stand[0]])
-
-
 def lack_costs(many, lacks):
     return [0] * many + [1] * lacks
 
 
-def opened(matrix, bounds):
-    """The stand in which each equation lacks all of its bound."""
-    many = len(matrix[0])
-    rows = [row + [bound] for row, bound in zip(matrix, bounds)]
+def opened(rows):
+    """The stand in which each equation lacks all of its bound, which is last in its row."""
+    many = len(rows[0]) - 1
     return (rows, [many + at for at in range(len(rows))], list(range(many)), 1)
 
 
-def begun(matrix, bounds, labels):
-    """A stand that lacks as little as can be, and whether it lacks nothing.
-
-    matrix and bounds are integers, no bound below 0. Of labels is hoped that these
-    amounts head the rows at last: if that can be, it is begun there.
-    """
+def begun(matrix, bounds):
+    """A stand that lacks as little as can be, and whether it lacks nothing."""
     many = len(matrix[0])
-    stand = headed(opened(matrix, bounds), labels, many)
-    if not can_stand(stand):
-        stand = opened(matrix, bounds)
-    stand, line = lowered(stand, lack_costs(many, len(matrix)), many)
+    rows = [row + [bound] for row, bound in zip(matrix, bounds)]
+    stand, line = lowered(opened(rows), lack_costs(many, len(matrix)), many)
     if line[-1] != 0:
         return (stand, False)
     return (seated(stand, many), True)
@@ -178,3 +155,20 @@ def prices_of(stand, costs, many):
         spared = line[cols[label]] if label in cols else 0
         out.append(made(costs[label] * stand[3] - spared, stand[3]))
     return out
+
+
+def least_sum(matrix, bounds, costs):
+    """The amounts above 0 that keep equations with the least costs, in a dict, and prices.
+
+    All are integers, no bound is below 0. For each amount the prices of the equations,
+    times what it has there, are together no more than what it costs; times the bounds
+    they are the least costs. If no amounts keep the equations, the first is None, and
+    the prices are, likewise, together not above 0, but times the bounds above 0.
+    """
+    many = len(costs)
+    stand, can_be = begun(matrix, bounds)
+    if not can_be:
+        return (None, prices_of(stand, lack_costs(many, len(matrix)), many))
+    costs = costs + [0] * len(matrix)
+    stand = lowered(stand, costs, many)[0]
+    return (amounts_of(stand, many), prices_of(stand, costs, many))

@@ -4,7 +4,14 @@ from math import gcd, lcm
 
 from forehouse.exact import NOUGHT, divided, is_under, made, multiplied
 from forehouse.near import guessed
-from forehouse.simplex import amounts_of, begun, lack_costs, lowered, prices_of
+from forehouse.proofs import shown_least, shown_none
+from forehouse.simplex import least_sum
+
+# More bits than these make a guess worth its while.
+LONG = 64
+
+# With how many bits it is guessed.
+ALL_BITS = (640, 2560)
 
 
 def common_bottom(some):
@@ -33,6 +40,17 @@ def factor_of(row, bound):
     return (-factor[0], factor[1]) if is_under(bound, NOUGHT) else factor
 
 
+def lacks_of(factors):
+    """What it costs to lack, in integers, if that costs the same in all equations as they were."""
+    shares = [(bottom, abs(top)) for top, bottom in factors]
+    return raised(shares, common_bottom(shares))
+
+
+def are_long(matrix):
+    """Whether some integer is so long that a guess is worth its while."""
+    return any([part.bit_length() > LONG for row in matrix for part in row])
+
+
 class Task:
     """Equations, a tuple of FRACTIONS each, with a bound for each.
 
@@ -42,6 +60,8 @@ class Task:
 
     def __init__(self, equations, bounds, units):
         self.units = units
+        self.equations = equations
+        self.own_bounds = bounds
         rows = [[multiplied(part, (unit, 1)) for part, unit in zip(row, units)]
                 for row in equations]
         self.factors = [factor_of(row, bound) for row, bound in zip(rows, bounds)]
@@ -50,50 +70,36 @@ class Task:
         self.matrix = [raised([multiplied(part, factor) for part in row], 1)
                        for row, factor in zip(rows, self.factors)]
         self.bounds = raised(bounds, self.bottom)
-        self.stand = None
-        self.can_be = False
 
-    def prices(self, costs):
-        prices = prices_of(self.stand, costs, len(self.units))
-        return [multiplied(price, factor) for price, factor in zip(prices, self.factors)]
-
-    def amounts(self):
-        """The amounts above nought, in a dict."""
-        amounts = amounts_of(self.stand, len(self.units))
-        return {at: multiplied(amounts[at], made(self.units[at], self.bottom)) for at in amounts}
-
-    def begin(self, costs):
-        """Makes a stand that lacks nothing, if that can be; tells whether it can.
-
-        The stand may be near the one with the least costs.
-        """
-        labels = guessed(self.matrix, self.bounds, costs)
-        # Without a guess an earlier stand is as good as a new one.
-        if labels or self.stand is None:
-            self.stand, self.can_be = begun(self.matrix, self.bounds, labels)
-        return self.can_be
-
-    def some_amounts(self):
-        """Amounts from nought on, in a dict, None if there are none."""
-        return self.amounts() if self.begin([0] * len(self.units)) else None
+    def proved(self, costs, dear):
+        """What least_sum tells, of costs in the units, if a guess is right; else None."""
+        if not are_long(self.matrix):
+            return None
+        for bits in ALL_BITS:
+            heads, can_be = guessed(self.equations, self.own_bounds, costs, bits)
+            if can_be:
+                told = shown_least(self.matrix, self.bounds, dear, heads)
+            else:
+                told = shown_none(self.matrix, self.bounds, lacks_of(self.factors), heads)
+            if told is not None:
+                return told
+        return None
 
     def least(self, costs):
-        """The amounts above nought with the least costs, in a dict, and the prices, or None.
+        """The amounts above nought with the least costs, in a dict, and the prices.
 
         costs are integers. For each amount the prices, times what it has there, are
         together no more than what it costs; times the bounds they are the least costs.
+        If no amounts keep the equations, the first is None, and the prices are,
+        likewise, together not above nought, but times the bounds above nought.
         """
-        costs = [cost * unit for cost, unit in zip(costs, self.units)]
-        if not self.begin(costs):
-            return None
-        costs = costs + [0] * len(self.factors)
-        self.stand = lowered(self.stand, costs, len(self.units))[0]
-        return (self.amounts(), self.prices(costs))
-
-    def why_not(self):
-        """Prices of equations that cannot be kept, when this has come out.
-
-        For each amount they are together, times what it has there, not above nought; but
-        their sum times the bounds is.
-        """
-        return self.prices(lack_costs(len(self.units), len(self.factors)))
+        dear = [cost * unit for cost, unit in zip(costs, self.units)]
+        told = self.proved(costs, dear)
+        if told is None:
+            told = least_sum(self.matrix, self.bounds, dear)
+        amounts, prices = told
+        prices = [multiplied(price, factor) for price, factor in zip(prices, self.factors)]
+        if amounts is None:
+            return (None, prices)
+        units = {at: made(self.units[at], self.bottom) for at in amounts}
+        return ({at: multiplied(amounts[at], units[at]) for at in amounts}, prices)

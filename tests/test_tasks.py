@@ -4,14 +4,14 @@ import unittest
 from fractions import Fraction
 from itertools import combinations
 
+from forehouse import tasks
 from forehouse.near import guessed
-from forehouse.simplex import (amounts_of, begun, can_stand, headed, lack_costs, lowered, opened,
-                               prices_of)
-from forehouse.tasks import Task
+from forehouse.proofs import amounts_at, prices_at, shown_least, shown_none, solved
+from forehouse.simplex import begun, least_sum, lowered, seated
 from tests.makers import Maker, pair_of, whole, worth
 
 
-def solved(rows, bounds):
+def solution(rows, bounds):
     """The one solution of equations, None if there is none or are several."""
     rows = [[Fraction(part) for part in row] + [Fraction(bound)] for row, bound in zip(rows, bounds)]
     many = len(rows[0]) - 1
@@ -41,7 +41,7 @@ def corners(matrix, bounds):
                 if not any(bounds):
                     yield {}
                 continue
-            told = solved([[row[col] for col in cols] for row in matrix], bounds)
+            told = solution([[row[col] for col in cols] for row in matrix], bounds)
             if told is not None and min(told) >= 0:
                 yield dict(zip(cols, told))
 
@@ -63,20 +63,21 @@ def small(maker):
     return matrix, bounds, costs
 
 
-def turned(matrix, bounds):
-    """The same with no bound below 0."""
-    pairs = [([-part for part in row], -bound) if bound < 0 else (row, bound)
-             for row, bound in zip(matrix, bounds)]
-    return [row for row, _ in pairs], [bound for _, bound in pairs]
+def fractions_of(rows):
+    return [tuple(pair_of(part) for part in row) for row in rows]
+
+
+def task_of(matrix, bounds, units):
+    return tasks.Task(fractions_of(matrix), [pair_of(bound) for bound in bounds], units)
 
 
 def stretched(matrix, bounds, costs):
-    """The same with immense integers: each row and column times something."""
-    units = [3 ** (41 + 7 * col) for col in range(len(costs))]
-    rows = [[part * unit * 7 ** (30 + 11 * at) for part, unit in zip(row, units)]
-            for at, row in enumerate(matrix)]
-    wide = [bound * 7 ** (30 + 11 * at) for at, bound in enumerate(bounds)]
-    return rows, wide, [cost * unit for cost, unit in zip(costs, units)]
+    """The same with long fractions: each equation and each amount times something."""
+    units = [Fraction(3 ** (31 * col), 5 ** (21 * col)) for col in range(len(costs))]
+    scales = [Fraction(7 ** (30 + at), 11 ** (25 + at)) for at in range(len(matrix))]
+    rows = [[part * unit * scale for part, unit in zip(row, units)]
+            for row, scale in zip(matrix, scales)]
+    return rows, [bound * scale for bound, scale in zip(bounds, scales)], units
 
 
 class ExactTest(unittest.TestCase):
@@ -87,123 +88,140 @@ class ExactTest(unittest.TestCase):
         for _ in range(300):
             matrix, bounds, costs = small(maker)
             found = list(corners(matrix, bounds))
-            rows = [tuple(whole(part) for part in row) for row in matrix]
-            task = Task(rows, [whole(bound) for bound in bounds],
-                        [maker.between(1, 4) for _ in costs])
-            told = task.least(costs)
+            task = task_of(matrix, bounds, [maker.between(1, 4) for _ in costs])
+            amounts, prices = task.least(costs)
             seen[bool(found)] += 1
-            self.assertEqual(told is not None, bool(found))
-            self.assertEqual(task.some_amounts() is not None, bool(found))
-            if not found:
-                self.shows_that_none_are(matrix, bounds, task.why_not())
-                continue
-            amounts, prices = told
-            least = min(sum(costs[at] * amount for at, amount in corner.items())
-                        for corner in found)
-            self.assertEqual(sum(costs[at] * worth(amounts[at]) for at in amounts), least)
-            self.keeps(matrix, bounds, amounts)
-            self.keeps(matrix, bounds, task.some_amounts())
-            self.assertEqual(sum(worth(price) * bound for price, bound in zip(prices, bounds)), least)
-            for at, cost in enumerate(costs):
-                self.assertLessEqual(
-                    sum(worth(price) * row[at] for price, row in zip(prices, matrix)), cost)
+            self.compare(matrix, bounds, costs, amounts, prices, found)
         self.assertGreater(min(seen), 30)
 
-    def keeps(self, matrix, bounds, amounts):
+    def compare(self, matrix, bounds, costs, amounts, prices, found):
+        self.assertEqual(amounts is not None, bool(found))
+        if not found:
+            self.shows_that_none_are(matrix, bounds, prices)
+            return
+        least = min(sum(costs[at] * amount for at, amount in corner.items()) for corner in found)
+        self.assertEqual(sum(costs[at] * worth(amounts[at]) for at in amounts), least)
         self.assertTrue(all(amount[0] > 0 for amount in amounts.values()))
         for row, bound in zip(matrix, bounds):
             self.assertEqual(sum(row[at] * worth(amounts[at]) for at in amounts), bound)
+        self.assertEqual(sum(worth(price) * bound for price, bound in zip(prices, bounds)), least)
+        for at, cost in enumerate(costs):
+            self.assertLessEqual(
+                sum(worth(price) * row[at] for price, row in zip(prices, matrix)), cost)
 
     def shows_that_none_are(self, matrix, bounds, prices):
         for at in range(len(matrix[0])):
             self.assertLessEqual(sum(worth(price) * row[at] for price, row in zip(prices, matrix)), 0)
         self.assertGreater(sum(worth(price) * bound for price, bound in zip(prices, bounds)), 0)
 
-    def test_one_task_after_another(self):
+    def test_long_fractions(self):
         maker = Maker(121)
-        for _ in range(100):
+        seen = [0, 0]
+        for _ in range(300):
             matrix, bounds, costs = small(maker)
-            rows = [tuple(whole(part) for part in row) for row in matrix]
-            bounds = [whole(bound) for bound in bounds]
-            task = Task(rows, bounds, [1] * len(costs))
-            for _ in range(3):
-                costs = [maker.between(-9, 9) for _ in costs]
-                fresh = Task(rows, bounds, [1] * len(costs)).least(costs)
-                told = task.least(costs)
-                self.assertEqual(told is None, fresh is None)
-                if told is not None:
-                    self.assertEqual(*[sum(costs[at] * worth(amounts[at]) for at in amounts)
-                                       for amounts, _ in (told, fresh)])
+            found = list(corners(matrix, bounds))
+            rows, wide, units = stretched(matrix, bounds, costs)
+            task = task_of(rows, wide, [1] * len(costs))
+            if not tasks.are_long(task.matrix):
+                continue
+            # A cost must be an integer, so it is the same whatever the amount is times.
+            amounts, prices = task.least(costs)
+            found = [{at: amount / units[at] for at, amount in corner.items()} for corner in found]
+            seen[bool(found)] += 1
+            self.compare(rows, wide, costs, amounts, prices, found)
+            # A guess was right.
+            self.assertIsNotNone(task.proved(costs, costs))
+        self.assertGreater(min(seen), 15)
+
+    def test_one_task_after_another(self):
+        maker = Maker(122)
+        for _ in range(60):
+            matrix, bounds, costs = small(maker)
+            task = task_of(matrix, bounds, [1] * len(costs))
+            first = task.least(costs)
+            task.least([-cost for cost in costs])
+            self.assertEqual(task.least(costs), first)
 
     def test_no_amounts_at_all(self):
-        self.assertEqual(Task([(), ()], [(0, 1), (0, 1)], []).some_amounts(), {})
-        self.assertIsNone(Task([(), ()], [(0, 1), (1, 2)], []).some_amounts())
-
-
-class GuessTest(unittest.TestCase):
-
-    def test_short_integers_need_no_guess(self):
-        self.assertEqual(guessed([[1, 2 ** 63]], [1], [5, 5]), [])
-        self.assertNotEqual(guessed([[1, 2 ** 64]], [1], [5, 5]), [])
-
-    def test_any_labels_lead_to_the_same(self):
-        maker = Maker(122)
-        for _ in range(150):
-            matrix, bounds, costs = small(maker)
-            matrix, bounds = turned(matrix, bounds)
-            many = len(costs)
-            own = costs + [0] * len(matrix)
-            told = []
-            labels = sorted({maker.below(many) for _ in range(maker.below(4))})
-            for some in ([], labels):
-                stand, can_be = begun(matrix, bounds, some)
-                least = None
-                if can_be:
-                    stand = lowered(stand, own, many)[0]
-                    self.assertTrue(can_stand(stand))
-                    amounts = amounts_of(stand, many)
-                    least = sum(costs[at] * worth(amounts[at]) for at in amounts)
-                    prices = prices_of(stand, own, many)
-                    self.assertEqual(least, sum(worth(price) * bound
-                                                for price, bound in zip(prices, bounds)))
-                told.append((can_be, least))
-            self.assertEqual(told[0], told[1])
-
-    def test_guesses_lead_to_the_least_costs(self):
-        maker = Maker(123)
-        right = wrong = 0
-        for _ in range(150):
-            matrix, bounds, costs = small(maker)
-            matrix, bounds = turned(matrix, bounds)
-            rows, wide, dear = stretched(matrix, bounds, costs)
-            many = len(costs)
-            stand, can_be = begun(matrix, bounds, [])
-            labels = guessed(rows, wide, dear)
-            near = headed(opened(rows, wide), labels, many)
-            far, could_be = begun(rows, wide, labels)
-            self.assertEqual(can_be, could_be)
-            if can_be:
-                amounts = amounts_of(lowered(stand, costs + [0] * len(matrix), many)[0], many)
-                least = sum(costs[at] * worth(amounts[at]) for at in amounts)
-                stand = lowered(far, dear + [0] * len(matrix), many)[0]
-                amounts = amounts_of(stand, many)
-                self.assertEqual(sum(dear[at] * worth(amounts[at]) for at in amounts), least)
-                own = [amounts_of(near, many).get(at, (0, 1)) for at in range(many)]
-                fits = can_stand(near) and sum(
-                    cost * worth(amount) for cost, amount in zip(dear, own)) == least
-                right += fits
-                wrong += not fits
-        # Nearly all guesses are right.
-        self.assertGreater(right, 60)
-        self.assertLess(wrong, 5)
+        self.assertEqual(tasks.Task([(), ()], [(0, 1), (0, 1)], []).least([])[0], {})
+        self.assertIsNone(tasks.Task([(), ()], [(0, 1), (1, 2)], []).least([])[0])
 
     def test_lacks(self):
-        matrix, bounds = [[1, 1], [1, 1]], [2, 3]
-        stand, can_be = begun(matrix, bounds, [])
+        stand, can_be = begun([[1, 1], [1, 1]], [2, 3])
         self.assertFalse(can_be)
-        prices = prices_of(stand, lack_costs(2, 2), 2)
-        self.assertEqual(sum(worth(price) * bound for price, bound in zip(prices, bounds)), 1)
-        self.assertEqual(pair_of(Fraction(1)), (1, 1))
+        amounts, prices = least_sum([[1, 1], [1, 1]], [2, 3], [0, 0])
+        self.assertIsNone(amounts)
+        self.shows_that_none_are([[1, 1], [1, 1]], [2, 3], prices)
+        stand, can_be = begun([[1, 1], [2, 2]], [2, 4])
+        self.assertTrue(can_be)
+        self.assertEqual(seated(stand, 2), stand)
+        self.assertEqual(lowered(stand, [5, 3, 0, 0], 2)[1][-1], -6 * stand[3])
+
+
+class ProofTest(unittest.TestCase):
+
+    def test_solved_by_hand(self):
+        # 2x + y = 5, x - y = 1.
+        self.assertEqual(solved([[2, 1, 5], [1, -1, 1]]), ([-6, -3], -3))
+        self.assertEqual(solved([[0, 3, 6], [5, 1, 7]]), ([15, 30], 15))
+        self.assertIsNone(solved([[1, 2, 3], [2, 4, 6]]))
+        self.assertIsNone(solved([[0, 0, 1], [0, 1, 1]]))
+        self.assertEqual(solved([]), ([], 1))
+
+    def test_solved_against_fractions(self):
+        maker = Maker(123)
+        for _ in range(200):
+            many = maker.between(1, 5)
+            rows = [[maker.between(-9, 9) for _ in range(many + 1)] for _ in range(many)]
+            wanted = solution([row[:-1] for row in rows], [row[-1] for row in rows])
+            told = solved(rows)
+            self.assertEqual(told is None, wanted is None)
+            if told is not None:
+                self.assertEqual([Fraction(top, told[1]) for top in told[0]], wanted)
+
+    def test_only_right_heads_are_shown(self):
+        maker = Maker(124)
+        seen = {}
+        for _ in range(400):
+            matrix, bounds, costs = small(maker)
+            pairs = [([-part for part in row], -bound) if bound < 0 else (row, bound)
+                     for row, bound in zip(matrix, bounds)]
+            matrix, bounds = [row for row, _ in pairs], [bound for _, bound in pairs]
+            labels = list(range(len(costs) + len(matrix)))
+            heads = []
+            for _ in matrix:
+                heads.append(labels.pop(maker.below(len(labels))))
+            own = least_sum(matrix, bounds, costs)
+            told = shown_least(matrix, bounds, costs, heads)
+            if told is not None:
+                self.assertEqual(*[sum(costs[at] * worth(amounts[at]) for at in amounts)
+                                   for amounts in (told[0], own[0])])
+                self.assertEqual(*[sum(worth(price) * bound for price, bound in zip(prices, bounds))
+                                   for prices in (told[1], own[1])])
+            none = shown_none(matrix, bounds, [1] * len(matrix), heads)
+            if none is not None:
+                self.assertIsNone(own[0])
+                ExactTest().shows_that_none_are(matrix, bounds, none[1])
+            key = (own[0] is None, told is None, none is None)
+            seen[key] = seen.get(key, 0) + 1
+        self.assertGreater(seen[(False, False, True)], 10)
+        self.assertGreater(seen[(True, True, False)], 10)
+
+    def test_heads_that_cannot_be(self):
+        # Both columns are alike, so they cannot head both rows.
+        self.assertIsNone(amounts_at([[1, 1], [2, 2]], [2, 4], [0, 1]))
+        self.assertIsNone(prices_at([[1, 1], [2, 2]], [1, 1, 0, 0], [0, 1]))
+        self.assertEqual(amounts_at([[1, 1], [2, 2]], [2, 4], [0, 3]), ({0: 2}, 1))
+        self.assertIsNone(amounts_at([[1, 1], [2, 2]], [2, 5], [0, 3]))
+
+    def test_guesses_of_too_few_bits(self):
+        # Far apart in size: with few bits the lesser one is taken as nought.
+        equations = [((1, 1), (1, 1)), ((1, 1), (1, 2 ** 99))]
+        bounds = [(2, 1), (2 ** 99 + 1, 2 ** 99)]
+        heads, can_be = guessed(equations, bounds, [1, 2], 400)
+        self.assertEqual((sorted(heads), can_be), ([0, 1], True))
+        task = tasks.Task(equations, bounds, [1, 1])
+        self.assertEqual(task.least([1, 2])[0], {0: (1, 1), 1: (1, 1)})
 
 
 if __name__ == "__main__":
