@@ -544,7 +544,7 @@ class ToldTest(unittest.TestCase):
                (pair_of(Fraction(5 * big + 3, 2 * big + 1)), pair_of(Fraction(7 * big - 1, big - 6))))
         maker = Maker(106)
         long = 0
-        for _ in range(2):
+        for _ in range(8):
             some = [one]
             while len(some) < 3:
                 wide = maker.wider(some[-1])

@@ -223,6 +223,23 @@ class ProofTest(unittest.TestCase):
         task = tasks.Task(equations, bounds, [1, 1])
         self.assertEqual(task.least([1, 2])[0], {0: (1, 1), 1: (1, 1)})
 
+    def test_where_no_guess_is_right(self):
+        # Both equations are as good as alike, so one amount seems to be enough.
+        tiny = 2 ** 3000
+        equations = [((1, 1), (1, 1)), ((1, 1), (tiny + 1, tiny))]
+        task = tasks.Task(equations, [(2, 1), (2 * tiny + 1, tiny)], [1, 1])
+        self.assertIsNone(task.proved([1, 2], [1, 2]))
+        amounts, prices = task.least([1, 2])
+        self.assertEqual(amounts, {0: (1, 1), 1: (1, 1)})
+        self.assertEqual(prices, [(1 - tiny, 1), (tiny, 1)])
+        # None at all, but by a hair.
+        task = tasks.Task(equations, [(2, 1), (2 * tiny - 1, tiny)], [1, 1])
+        amounts, prices = task.least([1, 2])
+        self.assertIsNone(amounts)
+        ExactTest().shows_that_none_are(
+            [[worth(part) for part in row] for row in equations],
+            [Fraction(2), Fraction(2 * tiny - 1, tiny)], prices)
+
 
 if __name__ == "__main__":
     unittest.main()
