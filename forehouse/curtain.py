@@ -8,7 +8,7 @@ NUMBER then goes strictly between two to which an earlier one goes.
 from forehouse.exact import NOUGHT, added, added_up, divided, greater, is_under, lesser
 from forehouse.exact import multiplied, summed_products, taken, unlike_in_order
 from forehouse.shares import numbers_of
-from forehouse.tables import table_by
+from forehouse.tables import table_from
 
 
 def edges_of(weights):
@@ -68,7 +68,7 @@ def stepped(pairs, other):
             if part != NOUGHT:
                 steps[(number, far)] = part
         weights = [taken(whole, part) for whole, part in zip(weights, parts)]
-    return table_by(steps)
+    return table_from(steps)
 
 
 def left_curtain(one, other):

@@ -3,6 +3,8 @@
 from math import gcd
 
 NOUGHT = (0, 1)
+ONE = (1, 1)
+HALF = (1, 2)
 
 
 def made(top, bottom):

@@ -2,7 +2,7 @@
 
 from forehouse.exact import contrary
 from forehouse.fairlines import dealt_by, fair_task, fair_with, held_by
-from forehouse.tables import table_by
+from forehouse.tables import table_from
 
 
 def least_four(one, other, reward):
@@ -12,7 +12,7 @@ def least_four(one, other, reward):
     amounts, prices = task.least([paid for row in reward for paid in row])
     near, far = held_by(shares, prices)
     steps = {path: weight for path, weight in fair_with(shares, amounts)}
-    return (table_by(steps), near, far, dealt_by(shares, prices))
+    return (table_from(steps), near, far, dealt_by(shares, prices))
 
 
 def greatest_four(one, other, reward):

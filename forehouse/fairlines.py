@@ -1,9 +1,7 @@
 """The equations that FAIR SHARES keep whose days have certain SHARES."""
 
-from forehouse.exact import NOUGHT, taken
+from forehouse.exact import NOUGHT, ONE, taken
 from forehouse.tasks import Task, common_top
-
-ONE = (1, 1)
 
 
 def rows_by(shares):

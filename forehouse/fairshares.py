@@ -7,7 +7,7 @@ from forehouse.exact import NOUGHT, added, divided, is_row_under, multiplied, ta
 from forehouse.kinds import are_fractions, copied, is_place, is_row, is_row_within, is_weight
 from forehouse.relation import need_wider
 from forehouse.shares import MOST_PAIRS, is_share, pairs_in_order
-from forehouse.tables import is_table, left_of, right_of, table_by
+from forehouse.tables import is_table, left_of, right_of, table_from
 
 MOST_PATHS = 36
 MOST_TABLES = 2
@@ -128,7 +128,7 @@ def day_table(fair, day):
     few_share_on(fair, day)
     few_share_on(fair, day + 1)
     pairs = fair_from([(path[day:day + 2], weight) for path, weight in fair])
-    return table_by({path: weight for path, weight in pairs})
+    return table_from({path: weight for path, weight in pairs})
 
 
 def leave_out(fair, day):

@@ -1,7 +1,8 @@
 """FLOWS between STATES with the same GUESS, and what shows that GUESSES are not the BEST."""
 
 from forehouse.errors import BadPaper
-from forehouse.exact import NOUGHT, added, is_under, multiplied, taken, unlike_in_order
+from forehouse.exact import HALF, NOUGHT, ONE, added, is_under, multiplied, taken
+from forehouse.exact import unlike_in_order
 from forehouse.kinds import copied, is_fraction, is_place, is_row, is_weight, word_of
 from forehouse.onetables import best_by, first_fall, gain_by, lot_from, rise_by, sure_tied
 from forehouse.orders import all_above, is_up_lot
@@ -11,9 +12,7 @@ from forehouse.worlds import is_lot
 
 # Each word of a PAPER, and how many things the PAPER has.
 FORMS = (("best", 2), ("fall", 3), ("mark", 3))
-ONE = (1, 1)
 LESS_ONE = (-1, 1)
-HALF = (1, 2)
 
 
 def needs_of(world, guesses):

@@ -1,7 +1,7 @@
 """LOSS LINES as POINTS, and the LADDERS that have them."""
 
 from forehouse.errors import BadPoints
-from forehouse.exact import NOUGHT, added, divided, do_ascend, is_under, multiplied, taken
+from forehouse.exact import NOUGHT, ONE, added, divided, do_ascend, is_under, multiplied, taken
 from forehouse.exact import unlike_in_order
 from forehouse.kinds import copied, is_fraction, is_row, is_row_within
 from forehouse.ladders import sure_ladder
@@ -10,7 +10,6 @@ from forehouse.ratios import sure_fraction
 
 LEAST_POINTS = 2
 MOST_POINTS = 12
-ONE = (1, 1)
 
 
 def is_point(thing):

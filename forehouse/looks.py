@@ -1,15 +1,13 @@
 """LOOKS at one case, and CASE SHARES."""
 
 from forehouse.errors import BadCase, BadLook, BadPrior, TooMany
-from forehouse.exact import NOUGHT, added, added_up, divided, do_ascend, is_under, multiplied
-from forehouse.exact import taken
+from forehouse.exact import HALF, NOUGHT, ONE, added, added_up, divided, do_ascend, is_under
+from forehouse.exact import multiplied, taken
 from forehouse.kinds import copied, is_fraction, is_price, is_row, is_row_within
 from forehouse.shares import is_share, moment_of, pairs_in_order, total_of
 from forehouse.worlds import sure_view, sure_world
 
 MOST_SIGNALS = 6
-ONE = (1, 1)
-HALF = (1, 2)
 
 
 def is_signal(thing):
@@ -30,6 +28,12 @@ def sure_look(thing):
     if not is_look(thing):
         raise BadLook(thing)
     return copied(thing)
+
+
+def sure_looks(look, other):
+    """Plain copies of two LOOKS."""
+    look = sure_look(look)
+    return (look, sure_look(other))
 
 
 def sure_prior(thing):
@@ -105,8 +109,7 @@ def plain(look):
 
 
 def both_of(look, other):
-    look = sure_look(look)
-    other = sure_look(other)
+    look, other = sure_looks(look, other)
     signals = [(multiplied(yes, far_yes), multiplied(no, far_no))
                for yes, no in look for far_yes, far_no in other]
     both = plain_by([signal for signal in signals if signal != (NOUGHT, NOUGHT)])

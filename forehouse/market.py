@@ -1,7 +1,7 @@
 """GAINS in the market of all claims "above"."""
 
 from forehouse.errors import BadGain, BadPaper
-from forehouse.exact import NOUGHT, contrary, excess, is_under
+from forehouse.exact import NOUGHT, ONE, contrary, excess, is_under
 from forehouse.kinds import are_fractions, copied, is_row, word_of
 from forehouse.ratios import sure_fraction
 from forehouse.relation import why_not_wider
@@ -9,7 +9,6 @@ from forehouse.rests import FORMS, does_hold
 from forehouse.rewards import prices_sum, together
 from forehouse.shares import moment_of, numbers_of, sure_share, total_of
 
-ONE = (1, 1)
 LESS_ONE = (-1, 1)
 
 
@@ -38,10 +37,14 @@ def same_for(share, part):
     return tuple([part for _ in share])
 
 
+def sold_above(share, mark):
+    """For each pair of a SHARE -1, if its NUMBER is greater than the MARK, else nought."""
+    return tuple([LESS_ONE if is_under(mark, number) else NOUGHT for number in numbers_of(share)])
+
+
 def gain_at_mark(one, other, mark):
     """The GAIN where other has a lesser REST at the MARK."""
-    deals = [LESS_ONE if is_under(mark, number) else NOUGHT for number in numbers_of(one)]
-    return (contraries(above_by(one, mark)), above_by(other, mark), tuple(deals))
+    return (contraries(above_by(one, mark)), above_by(other, mark), sold_above(one, mark))
 
 
 def gain_of_totals(one, other):

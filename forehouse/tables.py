@@ -30,12 +30,18 @@ def is_fair(steps):
     return all([drifts[near] == NOUGHT for near in drifts])
 
 
-def is_table(thing):
+def are_steps(thing):
+    """Whether it is an ascending tuple of STEPS, no two with the same X and Y."""
     if not is_row_within(thing, 1, MOST_STEPS) or not all([is_step(step) for step in thing]):
         return False
     steps = copied(thing)
-    if not all([is_ahead(steps[at], steps[at + 1]) for at in range(len(steps) - 1)]):
+    return all([is_ahead(steps[at], steps[at + 1]) for at in range(len(steps) - 1)])
+
+
+def is_table(thing):
+    if not are_steps(thing):
         return False
+    steps = copied(thing)
     if len({step[0]: True for step in steps}) > MOST_PAIRS:
         return False
     return len({step[1]: True for step in steps}) <= MOST_PAIRS and is_fair(steps)
@@ -68,7 +74,7 @@ def is_between(one, other, thing):
     return left_of(table) == one and right_of(table) == other
 
 
-def table_by(weights):
+def table_from(weights):
     """The TABLE with these WEIGHTS, in a dict, for pairs of X and Y."""
     rows = unlike_in_order([near for near, _ in weights])
     cols = unlike_in_order([far for _, far in weights])
@@ -102,4 +108,4 @@ def behind(table, later):
             if start == middle:
                 part = divided(multiplied(weight, onward), parts[middle])
                 weights[(near, far)] = added(weights.get((near, far), NOUGHT), part)
-    return table_by(weights)
+    return table_from(weights)

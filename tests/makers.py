@@ -1,11 +1,12 @@
 """Small things of all sorts for the tests, the same ones in each run."""
 
 from fractions import Fraction
+from itertools import product
 from math import prod
 
 from forehouse.cells import grouped, joined, share_by
 from forehouse.dayviews import fair_of
-from forehouse.exact import added, divided, in_order, made, multiplied, taken
+from forehouse.exact import added, added_up, divided, in_order, made, multiplied, taken
 from forehouse.shares import pairs_in_order
 
 
@@ -143,6 +144,60 @@ class Maker:
             no = [self.below(4) for _ in range(many)]
             if sum(yes) and sum(no) and all(y + n for y, n in zip(yes, no)):
                 return tuple((made(y, sum(yes)), made(n, sum(no))) for y, n in zip(yes, no))
+
+    def parting(self, many):
+        """So many FRACTIONS from nought on, together 1, some of them nought."""
+        parts = [self.below(4) for _ in range(many)]
+        parts[self.below(many)] += self.between(1, 3)
+        return tuple(made(part, sum(parts)) for part in parts)
+
+    def coarse(self, look, most=4):
+        """A LOOK that is had of another one, and the BLUR that leads to it."""
+        while True:
+            many = self.between(1, most)
+            rows = tuple(self.parting(many) for _ in look)
+            sums = [[added_up([multiplied(signal[side], row[at]) for signal, row in zip(look, rows)])
+                     for side in (0, 1)] for at in range(many)]
+            if all(yes[0] or no[0] for yes, no in sums):
+                return tuple((yes, no) for yes, no in sums), rows
+
+    def decision(self, most=6):
+        """A DECISION, sometimes with DEEDS that are alike."""
+        deeds = [self.fractions(2) for _ in range(self.between(1, most))]
+        return tuple(self.pick(deeds) for _ in deeds) if self.below(3) == 0 else tuple(deeds)
+
+    def chance(self, least=0):
+        """A FRACTION from 0 to 1, or strictly between."""
+        return made(self.between(least, 6 - least), 6)
+
+    def forecaster(self, length):
+        """A FORECASTER, some of whose RANGES reach 0 or 1, some of one FRACTION."""
+        out = []
+        for _ in range(2 ** length - 1):
+            low, high = in_order([self.chance(), self.chance()])
+            out.append((low, low) if self.below(3) == 0 else (low, high))
+        return tuple(out)
+
+    def mild(self, length):
+        return tuple((part, part) for part in [self.chance(1) for _ in range(2 ** length - 1)])
+
+    def chances(self, forecaster):
+        """CHANCES, some of them the LOW or the HIGH of their RANGES."""
+        out = []
+        for low, high in forecaster:
+            part = self.pick(((0, 1), (1, 1), (1, 3)))
+            out.append(added(low, multiplied(part, taken(high, low))))
+        return tuple(out)
+
+    def goal(self, length):
+        return tuple(run for run in product((0, 1), repeat=length) if self.below(3) == 0)
+
+    def alike(self, one, most=4):
+        """A SHARE with the TOTAL of another one, whatever its MOMENT."""
+        share = self.share(most)
+        factor = divided(added_up([weight for _, weight in one]),
+                         added_up([weight for _, weight in share]))
+        return tuple((number, multiplied(weight, factor)) for number, weight in share)
 
     def prior(self):
         bottom = self.between(2, 6)

@@ -4,11 +4,12 @@ import copy
 import inspect
 import unittest
 
-from forehouse import (agree, between, books, bounds, coarser, dayviews, errors, fairshares, flows,
-                       holdings, houses, known, knows, ladders, laddersback, lefts, looks, market,
-                       moves, neighbours, onetables, orders, ordersback, ownviews, ratios, rests,
-                       rewards, scores, shares, spans, tables, talks, tellback, tellers,
-                       toldclaims, views, worths)
+from forehouse import (agree, bets, between, blurs, books, bounds, coarser, dayviews, decisions,
+                       errors, fairshares, flows, holdings, houses, known, knows, ladders,
+                       laddersback, lefts, looks, market, moves, neighbours, onetables, orders,
+                       ordersback, ownviews, polygons, prices, ratios, rests, rewards, rivals, runs,
+                       scores, shares, spans, tables, takes, talks, tellback, tellers, toldclaims,
+                       views, ville, worths)
 from tests import wrongs
 from tests.makers import share_of_integers, whole, world_of_integers
 from tests.wrongs import ODD
@@ -37,6 +38,22 @@ KINDS = {
     "fair_of": ("BadFair", wrongs.FAIRS + ((((whole(0),), whole(1)),),)),
     "gain": ("BadGain", (7, ())), "look": ("BadLook", wrongs.LOOKS),
     "prior": ("BadPrior", wrongs.PRIORS), "case": ("BadCase", wrongs.CASES),
+    "blur": ("BadBlur", wrongs.BLURS + ((((0, 1), (1, 1)),) * 2,)),
+    "rows": ("BadBlur", wrongs.BLURS[4:13] + ((((0, 1), (1, 1)),) * 2,)),
+    "decision": ("BadDecision", wrongs.DECISIONS),
+    "at": ("BadFraction", wrongs.FRACTIONS + ((-1, 2), (3, 2))),
+    "length": ("BadNumber", wrongs.LENGTHS), "forecaster": ("BadForecaster", wrongs.FORECASTERS),
+    "mild": ("BadForecaster", wrongs.FORECASTERS + ((wrongs.RANGE,) * 3, (((0, 1), (0, 1)),) * 3,
+                                                    (((1, 1), (1, 1)),) * 3)),
+    "chances": ("BadChances", wrongs.CHANCES), "run": ("BadRun", wrongs.RUNS),
+    "bets": ("BadStakes", wrongs.STAKES), "payoff": ("BadPayoff", wrongs.PAYOFFS),
+    "safe": ("BadStakes", wrongs.STAKES + (((4, 1), (0, 1), (0, 1)), ((0, 1), (0, 1), (-4, 1)))),
+    "goal": ("BadGoal", wrongs.GOALS), "aim": ("BadGoal", wrongs.GOALS + ((),)),
+    "multiple": ("BadTimes", wrongs.TIMES), "part": ("BadParts", wrongs.PART),
+    "several": ("BadForecaster", wrongs.SOME_FORECASTERS), "parts": ("BadParts", wrongs.PARTS),
+    "stakes": ("BadStakes", wrongs.SHARE_STAKES), "joint": ("BadTable", wrongs.TABLES),
+    # Of the TOTAL 8.
+    "alike": ("BadShare", wrongs.SHARES + ((((0, 1), (7, 1)),),)),
     "paper": ("BadPaper", (7, [()])), "any": (None, ())}
 
 WORLD = world_of_integers((1, 0), (1, 1), (2, 2))
@@ -68,8 +85,22 @@ HEDGE = (HOLDING, (whole(0), whole(2)), ((1, 2), whole(0)))
 GAIN = market.gain_by(WIDE, ONE, ("mark", whole(1)))
 LOOK = (((1, 4), (3, 4)), ((3, 4), (1, 4)))
 CASE_WORLD = world_of_integers((1, 0), (1, 1), (2, 1))
+LESS = (((1, 2), (1, 2)), ((1, 2), (1, 2)))
+BLUR = (((1, 2), (1, 2)), ((1, 2), (1, 2)))
+CASE_TABLE = blurs.table_by(LOOK, LESS, BLUR, (1, 3))
+DECISION = ((whole(1), whole(-1)), (whole(0), whole(0)))
+FORECASTER = (wrongs.RANGE,) * 3
+BETS = ((1, 2), whole(-1), whole(1))
+PAYOFF = (whole(3), whole(0), whole(-1), (1, 2))
+JOINT = ((whole(-1), whole(-2), whole(2)), (whole(-1), whole(0), whole(2)),
+         (whole(1), whole(-2), whole(1)), (whole(1), whole(2), whole(3)))
 
-GOOD = {"known": KNOWN, "claim": CLAIM, "holding": HOLDING, "hedge": HEDGE, "book": BOOK,
+GOOD = {"blur": BLUR, "rows": BLUR, "decision": DECISION, "at": (1, 3), "length": 2,
+        "forecaster": FORECASTER, "mild": wrongs.MILD, "chances": ((1, 3), (1, 2), (2, 5)),
+        "run": (0, 1), "bets": BETS, "payoff": PAYOFF, "safe": BETS, "goal": ((0, 0), (1, 0)),
+        "aim": ((0, 0),), "multiple": (3, 2), "part": (1, 3),
+        "several": (wrongs.MILD, (((1, 4), (1, 4)),) * 3), "parts": ((1, 3), (2, 3)),
+        "stakes": (whole(1), whole(-2)), "joint": JOINT, "alike": WIDE, "known": KNOWN, "claim": CLAIM, "holding": HOLDING, "hedge": HEDGE, "book": BOOK,
         "pairs": (REWARD,), "fair_of": fairshares.fair_by(KNOWN), "gain": GAIN, "look": LOOK,
         "prior": (1, 3), "case": looks.share_by(LOOK, (1, 3)), "houses": HOUSES, "deals": DEALS, "points": POINTS, "ties": TIES, "row": ROW, "fair": FAIR,
         "chain": (TABLE, LATER), "day": 1, "shares": (ONE, WIDE), "world": WORLD, "view": VIEW, "views": VIEWS, "event": (0, 1), "cell": (0, 2), "state": 0,
@@ -301,6 +332,67 @@ CALLS = (
     Call(looks.plain, "look", "look"),
     Call(looks.both_of, "look look", "look other", other=LOOK),
     Call(looks.view_look, "world view", "world view", world=CASE_WORLD),
+    Call(blurs.is_blur, "look look any", "look other value", value=BLUR),
+    Call(blurs.is_had, "look look", "look other", other=LESS),
+    Call(blurs.blur_paper, "look look", "look other", other=LESS),
+    Call(blurs.check_blur, "look look paper", "look other paper", other=LESS,
+         paper=("blur", BLUR)),
+    Call(blurs.blurred, "look rows", "look rows"),
+    Call(blurs.blur_by, "table", "table", table=CASE_TABLE),
+    Call(blurs.table_by, "look look blur prior", "look other blur prior", other=LESS),
+    Call(blurs.view_blur, "world view view", "world view other", world=CASE_WORLD,
+         view=((0,), (1,), (2,)), other=VIEW),
+    Call(decisions.need_decision, "decision", "thing"),
+    Call(decisions.worth_for, "look prior decision", "look prior decision"),
+    Call(decisions.line_of, "decision", "decision"),
+    Call(decisions.bends, "decision", "decision"),
+    Call(decisions.of_mark, "fraction", "mark"),
+    Call(decisions.mark_by, "look look prior decision", "look other prior decision", look=LESS,
+         other=LOOK),
+    Call(polygons.corners, "look", "look"),
+    Call(polygons.line_at, "look at", "look at"),
+    Call(polygons.is_over, "look look", "look other", other=LESS),
+    Call(polygons.over_paper, "look look", "look other", other=LESS),
+    Call(polygons.check_over, "look look paper", "look other paper", look=LESS, other=LOOK,
+         paper=("corner", 1)),
+    Call(runs.runs, "length", "length"),
+    Call(runs.whole_runs, "length", "length"),
+    Call(runs.need_forecaster, "length forecaster", "length thing"),
+    Call(runs.is_exact, "length forecaster", "length forecaster"),
+    Call(runs.is_mild, "length forecaster", "length forecaster"),
+    Call(runs.chance, "length forecaster chances run", "length forecaster chances run"),
+    Call(runs.mean_by, "length forecaster chances payoff", "length forecaster chances payoff"),
+    Call(bets.capital, "length forecaster fraction bets run", "length forecaster start bets run"),
+    Call(bets.is_safe, "length forecaster fraction bets", "length forecaster start bets"),
+    Call(bets.do_bring, "length forecaster fraction bets payoff",
+         "length forecaster start bets payoff"),
+    Call(bets.mix, "length bets bets part", "length bets others part", others=BETS[::-1]),
+    Call(bets.scaled, "length bets fraction", "length bets factor"),
+    Call(prices.price, "length forecaster payoff", "length forecaster payoff"),
+    Call(prices.sale, "length forecaster payoff", "length forecaster payoff"),
+    Call(prices.prices_behind, "length forecaster payoff", "length forecaster payoff"),
+    Call(prices.price_paper, "length forecaster payoff", "length forecaster payoff"),
+    Call(prices.check_price, "length forecaster payoff paper", "length forecaster payoff paper",
+         paper=prices.price_paper(2, FORECASTER, PAYOFF)),
+    Call(ville.goal_payoff, "length goal", "length goal"),
+    Call(ville.lever, "length forecaster aim", "length forecaster goal"),
+    Call(ville.reached, "length forecaster safe multiple", "length forecaster bets times",
+         times=(5, 4)),
+    Call(ville.stopped, "length forecaster safe multiple", "length forecaster bets times",
+         times=(5, 4)),
+    Call(takes.is_joint, "share alike any", "one other value", value=JOINT),
+    Call(takes.take_by, "share alike stakes joint", "one other stakes joint"),
+    Call(takes.least_take, "share alike stakes", "one other stakes"),
+    Call(takes.take_paper, "share alike stakes", "one other stakes"),
+    Call(takes.check_take, "share alike stakes paper", "one other stakes paper",
+         paper=takes.take_paper(ONE, WIDE, (whole(1), whole(-2)))),
+    Call(takes.stakes_by, "share alike", "one other", other=share_of_integers((0, 8))),
+    Call(rivals.rival_bets, "length mild mild", "length forecaster rival",
+         forecaster=wrongs.MILD),
+    Call(rivals.rival_capital, "length mild mild run", "length forecaster rival run",
+         forecaster=wrongs.MILD),
+    Call(rivals.blend, "length several parts", "length some parts"),
+    Call(rivals.leaders, "length several run", "length some run"),
 )
 
 # What the interface lists under each file.
@@ -345,7 +437,16 @@ LISTED = {
     books: "need_book does_keep hedge_pays hedge_cost book_paper check_book least_under "
            "greatest_under under_paper check_under",
     toldclaims: "is_told reached replica",
-    looks: "need_look share_by look_of is_plain plain both_of view_look"}
+    looks: "need_look share_by look_of is_plain plain both_of view_look",
+    blurs: "is_blur is_had blur_paper check_blur blurred blur_by table_by view_blur",
+    decisions: "need_decision worth_for line_of bends of_mark mark_by",
+    polygons: "corners line_at is_over over_paper check_over",
+    runs: "runs whole_runs need_forecaster is_exact is_mild chance mean_by",
+    bets: "capital is_safe do_bring mix scaled",
+    prices: "price sale prices_behind price_paper check_price",
+    ville: "goal_payoff lever reached stopped",
+    takes: "is_joint take_by least_take take_paper check_take stakes_by",
+    rivals: "rival_bets rival_capital blend leaders"}
 
 # What tells a number of a part, or else a word or None: the function that needs it, and how many
 # parts there are at least and at most.
@@ -355,7 +456,7 @@ PARTED = {"world": (views.need_world, 1, 36), "score": (scores.need_score, 0, 10
 
 # Where anything that is a pair has the form of a PAPER.
 PAIRS = (agree.check_bet, houses.check_gain, bounds.check_least_mean, bounds.check_greatest_mean,
-         books.check_under)
+         books.check_under, prices.check_price)
 
 
 def wanted_part(kind, thing):
@@ -390,6 +491,9 @@ class RefusalsTest(unittest.TestCase):
                 self.assertEqual(part, wanted_part(kind, thing), (call.function, at, thing))
             elif kind == "shares" and isinstance(thing, tuple) and 0 < len(thing) < 4:
                 self.assertIs(error.given, next(part for part in thing if not shares.is_share(part)))
+            elif kind == "several" and isinstance(thing, tuple) and 0 < len(thing) < 5:
+                self.assertIs(error.given,
+                              next(part for part in thing if not rivals.is_mild_one(2, part)))
             else:
                 self.assertIs(error.given, thing)
         else:
