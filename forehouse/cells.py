@@ -61,8 +61,13 @@ def met(views, many):
 
 def mean_in(world, cell, things):
     """The mean, by WEIGHTS, over a CELL of what things has for each STATE."""
-    weight = added_up([world[state][0] for state in cell])
-    weighed = added_up([multiplied(world[state][0], things[state]) for state in cell])
+    # What has the same is put together first: where it is long, few long sums are left.
+    weights = {}
+    for state in cell:
+        weights.setdefault(things[state], []).append(world[state][0])
+    sums = {thing: added_up(weights[thing]) for thing in weights}
+    weight = added_up(list(sums.values()))
+    weighed = added_up([multiplied(sums[thing], thing) for thing in sums])
     return divided(weighed, weight)
 
 

@@ -60,6 +60,15 @@ def gain_of_moments(one, other):
     return (numbers_of(one), contraries(numbers_of(other)), same_for(one, ONE))
 
 
+def gain_of(one, other, paper):
+    """The GAIN that comes of a PAPER that other is not WIDER."""
+    if paper[0] == "total":
+        return gain_of_totals(one, other)
+    if paper[0] == "moment":
+        return gain_of_moments(one, other)
+    return gain_at_mark(one, other, paper[1])
+
+
 def is_gain(one, other, value):
     one = sure_share(one)
     other = sure_share(other)
@@ -74,11 +83,7 @@ def gain_by(one, other, paper):
         raise BadPaper("form")
     if not does_hold(one, other, word, paper):
         raise BadPaper(word)
-    if word == "total":
-        return gain_of_totals(one, other)
-    if word == "moment":
-        return gain_of_moments(one, other)
-    return gain_at_mark(one, other, copied(paper[1]))
+    return gain_of(one, other, copied(paper))
 
 
 def paper_by(one, other, gain):

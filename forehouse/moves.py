@@ -42,11 +42,16 @@ def paid(ladder, report, later):
     return paid_of(ladder, report, later)
 
 
+def earned_from(ladder, report, later, worth):
+    """What a MOVE has EARNED at a worth."""
+    got = multiplied(worth, position_of(ladder, report, later))
+    return taken(got, paid_of(ladder, report, later))
+
+
 def earned(ladder, report, later, worth):
     ladder, report, later = sure_move(ladder, report, later)
     worth = sure_fraction(worth)
-    got = multiplied(worth, position_of(ladder, report, later))
-    return taken(got, paid_of(ladder, report, later))
+    return earned_from(ladder, report, later, worth)
 
 
 def line_of(ladder, report, worth):
@@ -72,10 +77,8 @@ def greatest_loss(ladder, report, low, high):
     return greater(line_of(ladder, report, low), line_of(ladder, report, high))
 
 
-def earns(ladder, report, share):
-    ladder = sure_ladder(ladder)
-    report = sure_fraction(report)
-    share = sure_share(share)
+def earned_by(ladder, report, share):
+    """What a hand with a SHARE EARNS, if it moves the REPORT to its FORECAST."""
     out = []
     for mark, units in ladder:
         rest = rest_of(share, mark)
@@ -86,11 +89,23 @@ def earns(ladder, report, share):
     return added_up(out)
 
 
-def mark_by(ladder, one, other):
-    ladder = sure_ladder(ladder)
-    one = sure_share(one)
-    other = sure_share(other)
+def first_lesser(ladder, one, other):
+    """The least MARK of a LADDER at which other has a lesser REST than one, or None."""
     for mark, _ in ladder:
         if is_rest_less(one, other, mark):
             return mark
     return None
+
+
+def earns(ladder, report, share):
+    ladder = sure_ladder(ladder)
+    report = sure_fraction(report)
+    share = sure_share(share)
+    return earned_by(ladder, report, share)
+
+
+def mark_by(ladder, one, other):
+    ladder = sure_ladder(ladder)
+    one = sure_share(one)
+    other = sure_share(other)
+    return first_lesser(ladder, one, other)

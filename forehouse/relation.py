@@ -19,12 +19,20 @@ def all_numbers(one, other):
     return unlike_in_order(numbers_of(one) + numbers_of(other))
 
 
-def why_not_wider(one, other):
-    """A PAPER that other is not WIDER than one, None if it is."""
+def unlike(one, other):
+    """A PAPER that the TOTALS, or the MOMENTS, are unlike, None if they are alike."""
     if total_of(one) != total_of(other):
         return ("total",)
     if moment_of(one) != moment_of(other):
         return ("moment",)
+    return None
+
+
+def why_not_wider(one, other):
+    """A PAPER that other is not WIDER than one, None if it is."""
+    paper = unlike(one, other)
+    if paper is not None:
+        return paper
     # Both RESTS are straight between neighbouring NUMBERS, and alike beyond all.
     for mark in all_numbers(one, other):
         if is_rest_less(one, other, mark):

@@ -24,13 +24,18 @@ def is_wider(one, other):
     return why_not_wider(one, other) is None
 
 
-def wider_paper(one, other):
-    one = sure_share(one)
-    other = sure_share(other)
+def wider_hub(one, other):
+    """A PAPER on whether other is WIDER than one."""
     paper = why_not_wider(one, other)
     if paper is None:
         return ("table", left_curtain(one, other))
     return paper
+
+
+def wider_paper(one, other):
+    one = sure_share(one)
+    other = sure_share(other)
+    return wider_hub(one, other)
 
 
 def does_hold(one, other, word, paper):
@@ -44,12 +49,17 @@ def does_hold(one, other, word, paper):
     return is_fraction(paper[1]) and is_rest_less(one, other, copied(paper[1]))
 
 
-def check_wider(one, other, paper):
-    one = sure_share(one)
-    other = sure_share(other)
+def sure_hub(one, other, paper):
+    """A plain copy of a PAPER on that, if it holds."""
     word = word_of(paper, FORMS)
     if word is None:
         raise BadPaper("form")
     if not does_hold(one, other, word, paper):
         raise BadPaper(word)
-    return word
+    return (word,) + copied(paper[1:])
+
+
+def check_wider(one, other, paper):
+    one = sure_share(one)
+    other = sure_share(other)
+    return sure_hub(one, other, paper)[0]

@@ -19,6 +19,11 @@ def is_piece(thing):
     return is_under(thing[1], thing[2])
 
 
+def is_score(thing):
+    """Whether any thing is a SCORE."""
+    return is_row_within(thing, 0, MOST_PIECES) and all([is_piece(piece) for piece in thing])
+
+
 def sure_score(thing):
     """A plain copy of a SCORE."""
     if not is_row_within(thing, 0, MOST_PIECES):

@@ -1,8 +1,9 @@
 """TALKS: speakers tell their FORECASTS by turns, and all hear them."""
 
 from forehouse.cells import forecasts_by, grouped, joined, places, whole
-from forehouse.errors import BadNumber, BadPaper, NothingLeft
-from forehouse.kinds import is_integer, is_place, is_same
+from forehouse.errors import BadNumber, BadPaper
+from forehouse.kinds import is_place, is_same
+from forehouse.trials import Trial, shortened
 from forehouse.worlds import sure_state, sure_views, sure_world
 
 
@@ -53,22 +54,6 @@ def check_talk(world, views, paper):
     return public
 
 
-class Trial:
-    """Leads a Talk on for a while, and puts it back behind that."""
-
-    def __init__(self, talk):
-        self._talk = talk
-        self._begun = ()
-
-    def __enter__(self):
-        self._begun = self._talk._past
-        return self._talk
-
-    def __exit__(self, kind, value, trace):
-        self._talk._past = self._begun
-        return False
-
-
 class Talk:
     """A TALK that is led."""
 
@@ -104,11 +89,7 @@ class Talk:
         return tuple([step[1][state] for step in self._past])
 
     def undo(self, many=1):
-        if not is_integer(many) or many < 1:
-            raise BadNumber(many)
-        if many > len(self._past):
-            raise NothingLeft(many)
-        self._past = self._past[:len(self._past) - many]
+        self._past = shortened(self._past, many)
 
     def copy(self):
         other = Talk(self._world, self._views)

@@ -12,6 +12,11 @@ def is_state(thing):
     return is_row(thing, 2) and is_weight(thing[0]) and is_fraction(thing[1])
 
 
+def is_world(thing):
+    """Whether any thing is a WORLD."""
+    return is_row_within(thing, 1, MOST_STATES) and all([is_state(state) for state in thing])
+
+
 def sure_world(thing):
     if not is_row_within(thing, 1, MOST_STATES):
         raise BadWorld("form")

@@ -20,12 +20,17 @@ def weighed_rest(score, share):
     return weighed_by(score, share)
 
 
-def sees(score, share):
-    score = sure_score(score)
-    share = sure_share(share)
+def seen_by(score, share):
+    """What a SHARE SEES."""
     total = total_of(share)
     mean = divided(moment_of(share), total)
     return taken(weighed_by(score, share), multiplied(total, bend_by(score, mean)))
+
+
+def sees(score, share):
+    score = sure_score(score)
+    share = sure_share(share)
+    return seen_by(score, share)
 
 
 def world_rest(world, mark):
@@ -56,10 +61,8 @@ def marks_of(piece, numbers):
     return [piece[1]] + inner + [piece[2]]
 
 
-def mark_of(score, one, other):
-    score = sure_score(score)
-    one = sure_share(one)
-    other = sure_share(other)
+def lesser_mark(score, one, other):
+    """A MARK of a SCORE, or within a stretch of it, at which other has a lesser REST, or None."""
     if not is_under(weighed_by(score, other), weighed_by(score, one)):
         return None
     # Some piece has less of other's REST; over a stretch that is so at one of these.
@@ -67,3 +70,10 @@ def mark_of(score, one, other):
     lesser = [mark for piece in score for mark in marks_of(piece, numbers)
               if is_rest_less(one, other, mark)]
     return lesser[0]
+
+
+def mark_of(score, one, other):
+    score = sure_score(score)
+    one = sure_share(one)
+    other = sure_share(other)
+    return lesser_mark(score, one, other)

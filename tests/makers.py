@@ -203,6 +203,46 @@ class Maker:
         bottom = self.between(2, 6)
         return made(self.between(1, bottom - 1), bottom)
 
+    def term(self, most=6):
+        """A TERM of so many words at most, and how many STATES it has."""
+        if most == 1 or self.below(4) == 0:
+            world = self.world(4)
+            return ("states", world), len(world)
+        kind = self.pick(("beside", "scaled", "moved", "split", "spread", "pooled"))
+        if kind == "beside":
+            one, many = self.term(most // 2)
+            other, more = self.term(most - most // 2 - 1 or 1)
+            return ("beside", one, other), many + more
+        one, many = self.term(most - 1)
+        at = self.below(many)
+        if kind == "scaled":
+            return ("scaled", one, self.weight(), self.fraction()), many
+        if kind == "moved":
+            return ("moved", one, self.fraction()), many
+        if kind == "split":
+            parts = tuple(self.weight() for _ in range(self.between(2, 4)))
+            return ("split", one, at, parts), many + len(parts) - 1
+        if kind == "spread":
+            # Farther out than whatever stands within it.
+            far = 10 ** (most + 3)
+            return ("spread", one, at, whole(-far), whole(far + self.below(9))), many + 1
+        return ("pooled", one, self.lot(many) or (at,)), many
+
+    def view_words(self, many, deep=4):
+        """VIEW WORDS for a WORLD of so many STATES."""
+        kind = self.below(8 if deep > 1 else 5)
+        if kind == 3:
+            marks = in_order(list({self.fraction(): True for _ in range(self.between(1, 5))}))
+            return ("marks", tuple(marks))
+        if kind == 4:
+            return ("cells", self.view(many))
+        if kind < 3:
+            return (("none",), ("each",), ("worths",))[kind]
+        inner = self.view_words(many, deep - 1)
+        if kind == 7:
+            return ("core", inner)
+        return (("join", "meet")[kind - 5], inner, self.view_words(many, deep - 1))
+
     def reward(self, one, other):
         return tuple(tuple(self.between(-9, 9) for _ in other) for _ in one)
 

@@ -38,6 +38,9 @@ AT_ONCE = {"zip", "enumerate", "reversed", "range", "items", "keys", "values"}
 TAKERS = {"list", "tuple", "dict", "sorted", "sum", "any", "all", "enumerate", "zip", "reversed"}
 FOLDERS = {"any", "all", "min", "max", "sum", "sorted"}
 
+# Those of the package that it catches itself.
+OWN_ERRORS = {"ForeError"}
+
 
 def sources():
     for name in sorted(os.listdir(PACKAGE)):
@@ -205,7 +208,12 @@ class Checker:
             self.fault(node, "star")
 
     def see_Try(self, node):
-        self.fault(node, "try: look at L19 first")
+        # Own errors may be caught around anything; of Python's own see L19 first.
+        for handler in node.handlers:
+            if not isinstance(handler.type, ast.Name) or handler.type.id not in OWN_ERRORS:
+                self.fault(node, "try: look at L19 first")
+        if node.finalbody:
+            self.fault(node, "finally: look at L6 first")
 
     def see_GeneratorExp(self, node):
         self.fault(node, "generator expression: look at L7 first")
@@ -288,7 +296,10 @@ class LanguageTest(unittest.TestCase):
                      "def f(x):\n    return '5 %'\n", "x = '\u00e9'\n",
                      "def f(x):\n" + "    x = 1\n" * 41, "x = 1\n" * 401,
                      "from math import gcd\ndef f(x):\n    gcd = 1\n",
-                     "def f(x):\n    try:\n        pass\n    except KeyError:\n        pass\n"):
+                     "def f(x):\n    try:\n        pass\n    except KeyError:\n        pass\n",
+                     "def f(x):\n    try:\n        pass\n    except (ForeError, KeyError):\n"
+                     "        pass\n",
+                     "def f(x):\n    try:\n        pass\n    finally:\n        pass\n"):
             self.assertNotEqual(Checker(text).check(), [], text)
 
 

@@ -251,3 +251,34 @@ PARTS = (7, (), ((1, 1),), ((1, 2), (1, 3)), ((1, 3),) * 3, ((1, 1), (0, 1)), ((
 # On a SHARE of two pairs.
 SHARE_STAKES = (7, (), ((1, 1),), ((1, 1),) * 3, [(1, 1)] * 2, ((1, 1), (2, 2)), ((1, 1), None),
                 (1, 1), ((1, 1), (True, 1)))
+
+SIDES = ("", "Marks", "mark", "market ", "no", b"marks", ("marks",), 0)
+
+# Wrong as a whole: the path is ().
+TERMS = (7, (), ("states",), ("states", ()), ("states", (((1, 1), (1, 1)),), 1), ("states", None),
+         ["states", (((1, 1), (1, 1)),)], ("state", (((1, 1), (1, 1)),)),
+         ("states", (((0, 1), (1, 1)),)), ("beside",), ("beside", None), ("beside", 1, 2, 3),
+         ("scaled", None, (0, 1), (1, 1)), ("scaled", None, (1, 1), 1), ("scaled", None, (1, 1)),
+         ("moved", None, (2, 2)), ("moved", None), ("split", None, 36, ((1, 1),) * 2),
+         ("split", None, -1, ((1, 1),) * 2), ("split", None, True, ((1, 1),) * 2),
+         ("split", None, 0, ((1, 1),)), ("split", None, 0, ((1, 1),) * 7),
+         ("split", None, 0, ((1, 1), (0, 1))), ("split", None, 0, [(1, 1)] * 2),
+         ("spread", None, 36, (0, 1), (1, 1)), ("spread", None, 0, 0, (1, 1)),
+         ("spread", None, 0, (0, 1), None), ("spread", None, 0, (0, 1)),
+         ("spread", None, None, (0, 1), (1, 1)), ("pooled", None, ()), ("pooled", None, (1, 0)),
+         ("pooled", None, (36,)), ("pooled", None, (0, 0)), ("pooled", None, [0]),
+         ("pooled", None, (0, True)), ("pooled", None, 0))
+
+# Likewise, for a WORLD of three STATES.
+VIEW_WORDS = (7, (), "each", ("all",), ("each", 1), ["each"], ("none", ()), ("worths", None),
+              ("marks",), ("marks", ()), ("marks", ((1, 1), (0, 1))), ("marks", ((0, 1), (0, 1))),
+              ("marks", tuple(((n, 1)) for n in range(6))), ("marks", [(0, 1)]), ("marks", (0, 1)),
+              ("marks", ((0, 1), (2, 2))), ("cells",), ("cells", ((0, 1),)),
+              ("cells", ((0, 1), (2,), (3,))), ("cells", [(0, 1, 2)]), ("cells", None),
+              ("join", ("each",)), ("join", ("each",), ("each",), ("each",)), ("meet", ("each",)),
+              ("core",), ("core", ("each",), ("each",)), (b"each",))
+
+# Neither in the first line nor in any other one.
+TEXTS = ("", " ", "State", "\n", "state 1 1 1", " states 1 1 1", "-", "nones")
+
+HANDS = (-1, 2, 10 ** 30, (0,), (), "0", -10 ** 30)
