@@ -4,7 +4,7 @@ from forehouse.errors import BadPaper, SureGain
 from forehouse.exact import NOUGHT, is_under, taken
 from forehouse.fairlines import rows_by
 from forehouse.kinds import copied, is_row, word_of
-from forehouse.known import is_of, mean_of_claim, sure_claim, sure_fair_of, sure_known
+from forehouse.known import fair_of_in, mean_of_claim, sure_claim, sure_fair_of, sure_known
 from forehouse.limits import greatest_pair
 from forehouse.quotes import hedge_costs, hedge_paid, is_hedge, is_kept, sure_book, sure_hedge
 
@@ -84,7 +84,8 @@ def does_gain(known, book, thing):
 
 def does_keep_it(known, book, thing):
     """Whether any thing is a FAIR SHARE that keeps the BOOK."""
-    return is_of(known, thing) and is_kept(known, copied(thing), book)
+    fair = fair_of_in(known, thing)
+    return fair is not None and is_kept(known, fair, book)
 
 
 def check_book(known, book, paper):

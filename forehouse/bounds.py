@@ -4,7 +4,7 @@ from forehouse.errors import BadPaper
 from forehouse.exact import contrary, taken
 from forehouse.holdings import cost_by, is_holding, paid_by
 from forehouse.kinds import copied, is_row
-from forehouse.known import is_of, mean_of_claim, sure_claim, sure_known
+from forehouse.known import fair_of_in, mean_of_claim, sure_claim, sure_known
 from forehouse.limits import greatest_pair
 
 
@@ -57,11 +57,12 @@ def checked(known, claim, paper, side):
     known, claim = sure_claimed(known, claim)
     if not is_row(paper, 2):
         raise BadPaper("form")
-    if not is_of(known, paper[0]):
+    fair = fair_of_in(known, paper[0])
+    if fair is None:
         raise BadPaper("fair")
     if not is_holding(known, paper[1]):
         raise BadPaper("holding")
-    fair, holding = copied(paper)
+    holding = copied(paper[1])
     spare = [taken(paid, (part, 1)) for paid, part in zip(paid_by(known, holding), claim)]
     if any([part[0] * side < 0 for part in spare]):
         raise BadPaper("holding")

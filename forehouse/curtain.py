@@ -42,17 +42,31 @@ def worth_from(numbers, edges, place, weight):
     return summed_products(numbers, covered(edges, place, added(place, weight)))
 
 
+def first_worth(numbers, edges, starts, weight, wanted):
+    """The number of the first place from which so much weight is worth no less than is wanted."""
+    low, high = 0, len(starts) - 1
+    # What is covered is worth no less the later it begins.
+    while low < high:
+        middle = (low + high) // 2
+        if is_under(worth_from(numbers, edges, starts[middle], weight), wanted):
+            low = middle + 1
+        else:
+            high = middle
+    return low
+
+
 def stretch_for(numbers, weights, number, weight):
     """How much of each weight a NUMBER with its WEIGHT goes to, one stretch of it."""
     edges = edges_of(weights)
     wanted = multiplied(number, weight)
     starts = starts_of(edges, weight)
-    found = [worth_from(numbers, edges, place, weight) for place in starts]
-    # What is covered is worth more the later it begins, evenly between such places.
-    at = len([worth for worth in found if is_under(worth, wanted)])
+    at = first_worth(numbers, edges, starts, weight, wanted)
     place = starts[at]
-    if found[at] != wanted:
-        part = divided(taken(wanted, found[at - 1]), taken(found[at], found[at - 1]))
+    found = worth_from(numbers, edges, place, weight)
+    if found != wanted:
+        # Between such places what is covered grows evenly.
+        ahead = worth_from(numbers, edges, starts[at - 1], weight)
+        part = divided(taken(wanted, ahead), taken(found, ahead))
         place = added(starts[at - 1], multiplied(part, taken(place, starts[at - 1])))
     return covered(edges, place, added(place, weight))
 

@@ -91,7 +91,7 @@ def summed_products(some, others):
 
 def do_ascend(some):
     """Whether each is greater than the one ahead."""
-    return all([is_under(some[at], some[at + 1]) for at in range(len(some) - 1)])
+    return all([one[0] * other[1] < other[0] * one[1] for one, other in zip(some, some[1:])])
 
 
 def merged(some, others):

@@ -12,15 +12,17 @@ def rows_by(shares):
     return rows
 
 
+def beginnings_of(rows):
+    """All that some of these rows begins with, but neither () nor a whole row, in order."""
+    return list({row[:many]: True for row in rows for many in range(1, len(row))})
+
+
 def beginnings_by(shares):
-    """All that some row begins with, but neither () nor a whole row, in order."""
-    found = {row[:many]: True for row in rows_by(shares) for many in range(1, len(row))}
-    return list(found)
+    return beginnings_of(rows_by(shares))
 
 
-def share_lines(shares):
+def share_lines(shares, rows):
     """For each pair of each SHARE: at which rows its NUMBER stands."""
-    rows = rows_by(shares)
     return [[ONE if row[day] == number else NOUGHT for row in rows]
             for day, share in enumerate(shares) for number, _ in share]
 
@@ -31,15 +33,10 @@ def drift_line(rows, beginning):
     return [taken(row[many], row[many - 1]) if row[:many] == beginning else NOUGHT for row in rows]
 
 
-def fair_lines(shares):
-    rows = rows_by(shares)
-    return [drift_line(rows, beginning) for beginning in beginnings_by(shares)]
-
-
-def units_of(shares):
+def units_of(rows):
     """For each row an integer that what stands in the equations is to be multiplied by."""
     units = []
-    for row in rows_by(shares):
+    for row in rows:
         unit = 1
         for number in row[1:]:
             unit = unit * number[1]
@@ -53,11 +50,14 @@ def fair_task(shares, lines, bounds, more):
 
     more is how many more amounts those have, behind the rows.
     """
+    rows = rows_by(shares)
+    beginnings = beginnings_of(rows)
+    fair_lines = [drift_line(rows, beginning) for beginning in beginnings]
     spare = [NOUGHT] * more
-    own = [line + spare for line in share_lines(shares) + fair_lines(shares)]
+    own = [line + spare for line in share_lines(shares, rows) + fair_lines]
     own_bounds = [weight for share in shares for _, weight in share]
-    own_bounds = own_bounds + [NOUGHT] * len(beginnings_by(shares))
-    return Task(own + lines, own_bounds + bounds, units_of(shares) + [1] * more)
+    own_bounds = own_bounds + [NOUGHT] * len(beginnings)
+    return Task(own + lines, own_bounds + bounds, units_of(rows) + [1] * more)
 
 
 def fair_with(shares, amounts):

@@ -7,7 +7,7 @@ from forehouse.exact import NOUGHT, added, divided, is_row_under, multiplied, ta
 from forehouse.kinds import are_fractions, copied, is_place, is_row, is_row_within, is_weight
 from forehouse.relation import need_wider
 from forehouse.shares import MOST_PAIRS, is_share, pairs_in_order
-from forehouse.tables import is_table, left_of, right_of, table_from
+from forehouse.tables import left_of, right_of, table_from, table_in
 
 MOST_PATHS = 36
 MOST_TABLES = 2
@@ -31,22 +31,23 @@ def drifts_of(fair):
     return drifts
 
 
-def is_fair(thing):
-    """Whether any thing is a FAIR SHARE."""
+def fair_in(thing):
+    """A plain copy of a FAIR SHARE, or None of any other thing."""
     if not is_row_within(thing, 1, MOST_PATHS) or not have_paths(thing):
-        return False
+        return None
     fair = copied(thing)
-    if not all([is_row_under(fair[at][0], fair[at + 1][0]) for at in range(len(fair) - 1)]):
-        return False
+    if not all([is_row_under(one[0], later[0]) for one, later in zip(fair, fair[1:])]):
+        return None
     drifts = drifts_of(fair)
-    return all([drifts[beginning] == NOUGHT for beginning in drifts])
+    return fair if all([drifts[beginning] == NOUGHT for beginning in drifts]) else None
 
 
 def sure_fair(thing):
     """A plain copy of a FAIR SHARE."""
-    if not is_fair(thing):
+    fair = fair_in(thing)
+    if fair is None:
         raise BadFair(thing)
-    return copied(thing)
+    return fair
 
 
 def days_of(fair):
@@ -84,9 +85,11 @@ def sure_shares(thing):
 
 
 def is_chain(thing):
-    if not is_row_within(thing, 1, MOST_TABLES) or not all([is_table(table) for table in thing]):
+    if not is_row_within(thing, 1, MOST_TABLES):
         return False
-    tables = copied(thing)
+    tables = [table_in(table) for table in thing]
+    if None in tables:
+        return False
     return all([right_of(tables[at]) == left_of(tables[at + 1]) for at in range(len(tables) - 1)])
 
 

@@ -38,12 +38,15 @@ def word_of(thing, forms):
 
 
 def is_fraction(thing):
-    if not is_row(thing, 2):
+    # Asked more often than all else, so it calls nothing of its own.
+    if not isinstance(thing, tuple) or len(thing) != 2:
         return False
     top, bottom = thing
-    if not is_integer(top) or not is_integer(bottom):
+    if not isinstance(top, int) or not isinstance(bottom, int):
         return False
-    return bottom > 0 and gcd(top, bottom) == 1
+    if isinstance(top, bool) or isinstance(bottom, bool):
+        return False
+    return bottom > 0 and (bottom == 1 or gcd(top, bottom) == 1)
 
 
 def is_weight(thing):
@@ -72,7 +75,7 @@ def is_same(thing, told):
 def copied(thing):
     """A copy in which tuples and integers are plain ones, whatever was passed."""
     if isinstance(thing, tuple):
-        return tuple([copied(part) for part in thing])
-    if is_integer(thing):
-        return int(thing)
-    return thing
+        # Integers, of which there are most, are taken at once, without a call for each.
+        return tuple([int(part) if isinstance(part, int) and not isinstance(part, bool)
+                      else copied(part) for part in thing])
+    return int(thing) if is_integer(thing) else thing

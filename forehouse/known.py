@@ -3,34 +3,42 @@
 from forehouse.errors import BadClaim, BadFair, BadKnown
 from forehouse.exact import added_up, divided, multiplied
 from forehouse.fairlines import beginnings_by, rows_by
-from forehouse.fairshares import days_of, is_fair, share_on
+from forehouse.fairshares import days_of, fair_in, share_on
 from forehouse.dayviews import MOST_DAYS
 from forehouse.kinds import copied, is_integer, is_row, is_row_within
 from forehouse.relation import why_not_wider
-from forehouse.shares import is_share, total_of
+from forehouse.shares import MOST_PAIRS, copied_share, is_share, total_of
 
 MOST_ROWS = 36
 MOST_CLAIMED = 1000000
 
 
-def are_known(thing):
-    """Whether any thing is KNOWN."""
-    if not is_row_within(thing, 1, MOST_DAYS) or not all([is_share(share) for share in thing]):
-        return False
+def many_rows(shares):
+    """How many rows there are of one NUMBER of each SHARE."""
     many = 1
-    for share in thing:
+    for share in shares:
         many = many * len(share)
-    if many > MOST_ROWS:
+    return many
+
+
+def are_few_shares(thing):
+    """Whether any thing is a tuple of 1 to 3 SHARES that has few enough rows."""
+    if not is_row_within(thing, 1, MOST_DAYS):
         return False
-    known = copied(thing)
-    return all([why_not_wider(known[at], known[at + 1]) is None for at in range(len(known) - 1)])
+    if not all([is_row_within(share, 1, MOST_PAIRS) for share in thing]):
+        return False
+    return many_rows(thing) <= MOST_ROWS and all([is_share(share) for share in thing])
 
 
 def sure_known(thing):
     """A plain copy of what is KNOWN."""
-    if not are_known(thing):
+    if not are_few_shares(thing):
         raise BadKnown(thing)
-    return copied(thing)
+    known = tuple([copied_share(share) for share in thing])
+    for one, other in zip(known, known[1:]):
+        if why_not_wider(one, other) is not None:
+            raise BadKnown(thing)
+    return known
 
 
 def is_within_a_million(thing):
@@ -39,7 +47,7 @@ def is_within_a_million(thing):
 
 def is_claim(known, thing):
     """Whether any thing is a CLAIM on what is KNOWN."""
-    if not is_row(thing, len(rows_by(known))):
+    if not is_row(thing, many_rows(known)):
         return False
     return all([is_within_a_million(part) for part in thing])
 
@@ -51,19 +59,21 @@ def sure_claim(known, thing):
     return copied(thing)
 
 
-def is_of(known, thing):
-    """Whether any thing is a FAIR SHARE of what is KNOWN."""
-    if not is_fair(thing) or days_of(thing) != len(known):
-        return False
-    fair = copied(thing)
-    return all([share_on(fair, day) == share for day, share in enumerate(known)])
+def fair_of_in(known, thing):
+    """A plain copy of a FAIR SHARE of what is KNOWN, or None of any other thing."""
+    fair = fair_in(thing)
+    if fair is None or days_of(fair) != len(known):
+        return None
+    same = all([share_on(fair, day) == share for day, share in enumerate(known)])
+    return fair if same else None
 
 
 def sure_fair_of(known, thing):
     """A plain copy of a FAIR SHARE of what is KNOWN."""
-    if not is_of(known, thing):
+    fair = fair_of_in(known, thing)
+    if fair is None:
         raise BadFair(thing)
-    return copied(thing)
+    return fair
 
 
 def mean_of_claim(known, fair, claim):
@@ -87,7 +97,7 @@ def beginnings(known):
 
 
 def is_fair_of(known, value):
-    return is_of(sure_known(known), value)
+    return fair_of_in(sure_known(known), value) is not None
 
 
 def need_claim(known, thing):

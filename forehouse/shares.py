@@ -2,27 +2,34 @@
 
 from forehouse.errors import BadShare, TooMany
 from forehouse.exact import added, added_up, do_ascend, in_order, summed_products
-from forehouse.kinds import copied, is_fraction, is_row, is_row_within, is_weight
+from forehouse.kinds import is_fraction, is_row_within
 
 MOST_PAIRS = 6
 
 
-def are_pairs(thing):
-    """Whether it is a tuple of pairs of a NUMBER and a WEIGHT."""
-    return all([is_row(pair, 2) and is_fraction(pair[0]) and is_weight(pair[1])
-                for pair in thing])
+def is_pair(thing):
+    """Whether it is a pair of a NUMBER and a WEIGHT."""
+    if not isinstance(thing, tuple) or len(thing) != 2:
+        return False
+    return is_fraction(thing[0]) and is_fraction(thing[1]) and thing[1][0] > 0
 
 
 def is_share(thing):
-    if not is_row_within(thing, 1, MOST_PAIRS) or not are_pairs(thing):
+    if not is_row_within(thing, 1, MOST_PAIRS) or not all([is_pair(pair) for pair in thing]):
         return False
     return do_ascend([pair[0] for pair in thing])
+
+
+def copied_share(share):
+    """A plain copy of what is a SHARE."""
+    return tuple([((int(top), int(bottom)), (int(weight), int(many)))
+                  for (top, bottom), (weight, many) in share])
 
 
 def sure_share(thing):
     if not is_share(thing):
         raise BadShare(thing)
-    return copied(thing)
+    return copied_share(thing)
 
 
 def need_share(thing):

@@ -5,7 +5,7 @@ from forehouse.cells import is_finer_than, share_by
 from forehouse.decisions import is_decision, worth_by
 from forehouse.errors import BadCase, BadPaper, BadSide
 from forehouse.exact import ONE, added_up, is_under, multiplied, summed_products
-from forehouse.fairshares import days_of, is_fair, share_on
+from forehouse.fairshares import days_of, fair_in, share_on
 from forehouse.kinds import are_fractions, copied, is_fraction, is_price, is_row, is_same, word_of
 from forehouse.ladders import is_ladder
 from forehouse.looks import is_case, look_of_case
@@ -90,9 +90,9 @@ def are_views(one, other, thing):
 
 def are_days(one, other, thing):
     """Whether any thing is a FAIR SHARE of two DAYS with these SHARES."""
-    if not is_fair(thing) or days_of(thing) != 2:
+    fair = fair_in(thing)
+    if fair is None or days_of(fair) != 2:
         return False
-    fair = copied(thing)
     return share_on(fair, 0) == one and share_on(fair, 1) == other
 
 

@@ -22,6 +22,10 @@ def exchanged(stand, at, col):
     out = []
     for row in rows:
         factor = row[col]
+        if factor == 0:
+            # Most rows have nothing there: they stay as they are, but for the scale.
+            out.append(row if lead == scale else [part * lead // scale for part in row])
+            continue
         new = [(part * lead - factor * by) // scale for part, by in zip(row, chief)]
         new[col] = -sign * factor
         out.append(new)

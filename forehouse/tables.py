@@ -30,27 +30,29 @@ def is_fair(steps):
     return all([drifts[near] == NOUGHT for near in drifts])
 
 
-def are_steps(thing):
-    """Whether it is an ascending tuple of STEPS, no two with the same X and Y."""
+def steps_in(thing):
+    """A plain copy of an ascending tuple of unlike STEPS, or None of any other thing."""
     if not is_row_within(thing, 1, MOST_STEPS) or not all([is_step(step) for step in thing]):
-        return False
+        return None
     steps = copied(thing)
-    return all([is_ahead(steps[at], steps[at + 1]) for at in range(len(steps) - 1)])
+    ascend = all([is_ahead(step, later) for step, later in zip(steps, steps[1:])])
+    return steps if ascend else None
 
 
-def is_table(thing):
-    if not are_steps(thing):
-        return False
-    steps = copied(thing)
-    if len({step[0]: True for step in steps}) > MOST_PAIRS:
-        return False
-    return len({step[1]: True for step in steps}) <= MOST_PAIRS and is_fair(steps)
+def table_in(thing):
+    """A plain copy of a TABLE, or None of any other thing."""
+    steps = steps_in(thing)
+    if steps is None or len({step[0]: True for step in steps}) > MOST_PAIRS:
+        return None
+    few = len({step[1]: True for step in steps}) <= MOST_PAIRS
+    return steps if few and is_fair(steps) else None
 
 
 def sure_table(thing):
-    if not is_table(thing):
+    table = table_in(thing)
+    if table is None:
         raise BadTable(thing)
-    return copied(thing)
+    return table
 
 
 def need_table(thing):
@@ -68,9 +70,9 @@ def right_of(table):
 
 def is_between(one, other, thing):
     """Whether any thing is a TABLE from one SHARE to another one."""
-    if not is_table(thing):
+    table = table_in(thing)
+    if table is None:
         return False
-    table = copied(thing)
     return left_of(table) == one and right_of(table) == other
 
 

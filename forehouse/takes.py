@@ -7,7 +7,7 @@ from forehouse.kinds import are_fractions, copied, is_row
 from forehouse.market import LESS_ONE, same_for, sold_above
 from forehouse.relation import why_not_wider
 from forehouse.shares import moment_of, numbers_of, sure_share, total_of, weights_of
-from forehouse.tables import are_steps, left_of, right_of, table_from
+from forehouse.tables import left_of, right_of, steps_in, table_from
 
 
 def sure_alike(one, other):
@@ -21,9 +21,9 @@ def sure_alike(one, other):
 
 def does_join(one, other, thing):
     """Whether any thing is a JOINT of two SHARES."""
-    if not are_steps(thing):
+    joint = steps_in(thing)
+    if joint is None:
         return False
-    joint = copied(thing)
     return left_of(joint) == one and right_of(joint) == other
 
 

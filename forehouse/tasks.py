@@ -2,7 +2,7 @@
 
 from math import gcd, lcm
 
-from forehouse.exact import NOUGHT, divided, is_under, made, multiplied
+from forehouse.exact import made, multiplied
 from forehouse.near import guessed
 from forehouse.proofs import shown_least, shown_none
 from forehouse.simplex import least_sum
@@ -33,11 +33,22 @@ def raised(some, bottom):
     return [top * (bottom // own) for top, own in some]
 
 
-def factor_of(row, bound):
-    """By what a row becomes integers without a common divisor, its bound not below nought."""
-    # Where there is nothing but nought, any will do.
-    factor = divided((common_bottom(row), 1), (max(common_top(row), 1), 1))
-    return (-factor[0], factor[1]) if is_under(bound, NOUGHT) else factor
+def whole_row(row, units, bound):
+    """A row, each part in its unit, as integers without a common divisor, and by what it is so.
+
+    Its bound, multiplied by the same, is not below nought.
+    """
+    sign = -1 if bound[0] < 0 else 1
+    bottom = common_bottom(row)
+    parts = [top * unit * (bottom // own) for (top, own), unit in zip(row, units)]
+    shared = 0
+    for part in parts:
+        shared = gcd(shared, part)
+    if shared == 0:
+        # Where there is nothing but nought, any factor will do.
+        return (parts, (sign, 1))
+    shared = sign * shared
+    return ([part // shared for part in parts], made(bottom, shared))
 
 
 def lacks_of(factors):
@@ -62,13 +73,11 @@ class Task:
         self.units = units
         self.equations = equations
         self.own_bounds = bounds
-        rows = [[multiplied(part, (unit, 1)) for part, unit in zip(row, units)]
-                for row in equations]
-        self.factors = [factor_of(row, bound) for row, bound in zip(rows, bounds)]
+        rows = [whole_row(row, units, bound) for row, bound in zip(equations, bounds)]
+        self.factors = [factor for _, factor in rows]
         bounds = [multiplied(bound, factor) for bound, factor in zip(bounds, self.factors)]
         self.bottom = common_bottom(bounds)
-        self.matrix = [raised([multiplied(part, factor) for part in row], 1)
-                       for row, factor in zip(rows, self.factors)]
+        self.matrix = [parts for parts, _ in rows]
         self.bounds = raised(bounds, self.bottom)
 
     def proved(self, costs, dear):

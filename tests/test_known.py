@@ -146,6 +146,23 @@ class KnownTest(unittest.TestCase):
                     call(thing, *[None] * more)
                 self.assertIs(caught.exception.given, thing)
 
+    def test_refused_whatever_is_asked_of_it(self):
+        one = (((0, 1), (1, 1)),)
+        other = (((-4, 1), (1, 2)), ((4, 1), (1, 2)))
+        six = share_of_integers(*[(at, 1) for at in range(6)])
+        self.assertEqual(known.need_known((one, other)), (one, other))
+        # Not WIDER, too many rows, both; something wrong in what has too many rows.
+        for some in ((one, other, one), (other, one), (six, six, six), (six, one, six),
+                     (six, six[::-1], six), (six, six, six[:5] + (None,)), (six, (None,) * 6),
+                     (one, other + other), (other, [one]), (one, None), (one, ()), (six, six[:3])):
+            with self.assertRaises(BadKnown) as caught:
+                known.need_known(some)
+            self.assertIs(caught.exception.given, some)
+        middle = share_of_integers((-1, 3), (1, 3))
+        three = share_of_integers((-2, 3), (2, 3))
+        self.assertIs(known.need_known((middle, three))[1], three)
+        self.assertEqual(len(known.rows_of((middle, middle, three))), 8)
+
     def test_36_rows_and_more(self):
         # 1 times 6 times 6 rows are 36; 2 times 4 times 5 are 40.
         one = share_of_integers((0, 6))

@@ -1,6 +1,7 @@
 """SHARES, their RESTS, and which one is WIDER."""
 
 import unittest
+from fractions import Fraction
 
 from forehouse import rests, shares
 from forehouse.errors import BadFraction, BadPaper, BadShare, TooMany
@@ -101,6 +102,42 @@ class RestsTest(unittest.TestCase):
                     self.assertEqual(rests.check_wider(one, other, ("mark", mark)), "mark")
                 else:
                     self.refuse(one, other, ("mark", mark), "mark")
+
+    def test_which_word_is_told_and_which_mark(self):
+        """The TOTAL ahead of the MOMENT, this ahead of the least NUMBER with a lesser REST."""
+        maker = Maker(17)
+        told = {}
+        for _ in range(600):
+            one, other = maker.two(4)[::maker.pick((1, -1))]
+            kind = maker.below(5)
+            if kind < 2:
+                other = maker.alike(one, 5) if kind else maker.share(5)
+            if kind == 2:
+                # Bottoms that have nothing in common.
+                other = tuple((pair_of(worth(number) * Fraction(10 ** 40, 10 ** 40 - 1)), weight)
+                              for number, weight in other)
+                one = tuple((pair_of(worth(number) * Fraction(10 ** 40, 10 ** 40 - 1)), weight)
+                            for number, weight in one)
+            totals, moments = [], []
+            for share in (one, other):
+                totals.append(sum(worth(weight) for _, weight in share))
+                moments.append(sum(worth(number) * worth(weight) for number, weight in share))
+            numbers = sorted({worth(number) for number, _ in one + other})
+            lesser = [mark for mark in numbers if rest(other, mark) < rest(one, mark)]
+            if totals[0] != totals[1]:
+                wanted = ("total",)
+            elif moments[0] != moments[1]:
+                wanted = ("moment",)
+            else:
+                wanted = ("mark", pair_of(lesser[0])) if lesser else None
+            paper = rests.wider_paper(one, other)
+            told[paper[0]] = told.get(paper[0], 0) + 1
+            if wanted is None:
+                self.assertEqual(paper[0], "table")
+            else:
+                self.assertEqual(paper, wanted)
+        self.assertGreater(min(told.values()), 40)
+        self.assertEqual(len(told), 4)
 
     def refuse(self, one, other, paper, part):
         with self.assertRaises(BadPaper) as caught:

@@ -3,6 +3,7 @@
 import unittest
 from fractions import Fraction
 from itertools import combinations
+from math import gcd
 
 from forehouse import tasks
 from forehouse.near import guessed
@@ -145,6 +146,26 @@ class ExactTest(unittest.TestCase):
     def test_no_amounts_at_all(self):
         self.assertEqual(tasks.Task([(), ()], [(0, 1), (0, 1)], []).least([])[0], {})
         self.assertIsNone(tasks.Task([(), ()], [(0, 1), (1, 2)], []).least([])[0])
+
+    def test_rows_without_a_common_divisor(self):
+        """What stands in a Task are integers, their bounds not below nought."""
+        maker = Maker(77)
+        for _ in range(150):
+            many = maker.between(1, 5)
+            rows = [maker.fractions(many) for _ in range(3)] + [((0, 1),) * many] * 2
+            bounds = list(maker.fractions(4)) + [(-3, 2)]
+            units = [maker.between(1, 12) for _ in range(many)]
+            task = tasks.Task(rows, bounds, units)
+            self.assertGreaterEqual(min(task.bounds), 0)
+            for row, bound, own, raised, factor in zip(rows, bounds, task.matrix, task.bounds,
+                                                       task.factors):
+                self.assertEqual([worth(factor) * worth(part) * unit for part, unit in zip(row, units)],
+                                 own)
+                self.assertEqual(worth(factor) * worth(bound) * task.bottom, raised)
+                self.assertEqual(gcd(*own), 1 if any(own) else 0)
+                self.assertEqual(factor[0] < 0, bound[0] < 0)
+                if not any(own):
+                    self.assertIn(factor, ((1, 1), (-1, 1)))
 
     def test_lacks(self):
         stand, can_be = begun([[1, 1], [1, 1]], [2, 3])
