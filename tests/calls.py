@@ -99,18 +99,21 @@ WORDS = ("join", ("marks", (whole(1), (3, 2))), ("core", ("cells", VIEW)))
 SHEET = "states 2 1 0 1 1\neach\nnone\nfiner\nrest 0 1/2\ncommon 0 0 1"
 DESK = "states 2 1 0 1 1\n1\neach\n1/2 0 1"
 
-GOOD = {"side": "scores", "term": TERM, "words": WORDS, "text": "core each", "blur": BLUR, "rows": BLUR, "decision": DECISION, "at": (1, 3), "length": 2,
-        "forecaster": FORECASTER, "mild": wrongs.MILD, "chances": ((1, 3), (1, 2), (2, 5)),
-        "run": (0, 1), "bets": BETS, "payoff": PAYOFF, "safe": BETS, "goal": ((0, 0), (1, 0)),
-        "aim": ((0, 0),), "multiple": (3, 2), "part": (1, 3),
-        "several": (wrongs.MILD, (((1, 4), (1, 4)),) * 3), "parts": ((1, 3), (2, 3)),
-        "stakes": (whole(1), whole(-2)), "joint": JOINT, "alike": WIDE, "known": KNOWN, "claim": CLAIM, "holding": HOLDING, "hedge": HEDGE, "book": BOOK,
+GOOD = {"side": "scores", "term": TERM, "words": WORDS, "text": "core each", "blur": BLUR,
+        "rows": BLUR, "decision": DECISION, "at": (1, 3), "length": 2, "forecaster": FORECASTER,
+        "mild": wrongs.MILD, "chances": ((1, 3), (1, 2), (2, 5)), "run": (0, 1), "bets": BETS,
+        "payoff": PAYOFF, "safe": BETS, "goal": ((0, 0), (1, 0)), "aim": ((0, 0),),
+        "multiple": (3, 2), "part": (1, 3), "several": (wrongs.MILD, (((1, 4), (1, 4)),) * 3),
+        "parts": ((1, 3), (2, 3)), "stakes": (whole(1), whole(-2)), "joint": JOINT, "alike": WIDE,
+        "known": KNOWN, "claim": CLAIM, "holding": HOLDING, "hedge": HEDGE, "book": BOOK,
         "pairs": (REWARD,), "fair_of": fairshares.fair_by(KNOWN), "gain": GAIN, "look": LOOK,
-        "prior": (1, 3), "case": looks.share_by(LOOK, (1, 3)), "houses": HOUSES, "deals": DEALS, "points": POINTS, "ties": TIES, "row": ROW, "fair": FAIR,
-        "chain": (TABLE, LATER), "day": 1, "shares": (ONE, WIDE), "world": WORLD, "view": VIEW, "views": VIEWS, "event": (0, 1), "cell": (0, 2), "state": 0,
-        "bet": BET, "guesses": BET, "share": ONE, "table": TABLE, "fraction": MARK, "score": SCORE,
-        "ladder": LADDER, "reward": REWARD, "near": whole(1), "far": whole(0), "times": 2,
-        "integer": 3, "bottom": -2, "fractions": (MARK, MARK), "any": None}
+        "prior": (1, 3), "case": looks.share_by(LOOK, (1, 3)), "houses": HOUSES, "deals": DEALS,
+        "points": POINTS, "ties": TIES, "row": ROW, "fair": FAIR, "chain": (TABLE, LATER), "day": 1,
+        "shares": (ONE, WIDE), "world": WORLD, "view": VIEW, "views": VIEWS, "event": (0, 1),
+        "cell": (0, 2), "state": 0, "bet": BET, "guesses": BET, "share": ONE, "table": TABLE,
+        "fraction": MARK, "score": SCORE, "ladder": LADDER, "reward": REWARD, "near": whole(1),
+        "far": whole(0), "times": 2, "integer": 3, "bottom": -2, "fractions": (MARK, MARK),
+        "any": None}
 
 
 class Call:

@@ -300,12 +300,16 @@ class ViewBlurTest(unittest.TestCase):
         world = tuple((whole(1), whole(at // 4)) for at in range(8))
         many = tuple((at,) for at in range(6)) + ((6, 7),)
         self.assertRaises(BadView, blurs.view_blur, world, many, None)
-        few = ((0, 1), tuple(range(2, 8)))
+        few = ((0, 1), (2, 3, 4, 5, 6, 7))
         # Also where it is not finer.
         for view, other in ((many, few), (few, many), (many, many)):
             with self.assertRaises(TooMany) as caught:
                 blurs.view_blur(world, view, other)
             self.assertEqual(caught.exception.most, 6)
+        six = tuple((at,) for at in range(5)) + ((5, 6, 7),)
+        self.assertEqual(len(blurs.view_blur(world, six, six)), 6)
+        self.assertEqual(len(blurs.view_blur(world, six, few)), 6)
+        self.assertIsNone(blurs.view_blur(world, few, six))
 
     def test_facts(self):
         maker = Maker(124)

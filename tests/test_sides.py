@@ -7,9 +7,11 @@ from forehouse import hub, looks, rests, sides, turn
 from forehouse.blurs import is_blur
 from forehouse.errors import BadCase, BadPaper, BadShare, BadSide
 from forehouse.fairshares import fair_by
+from forehouse.lefts import right_table
 from forehouse.market import gain_by
 from forehouse.shares import total
 from forehouse.views import is_finer, share_of
+from forehouse.worths import sees
 from tests import wrongs
 from tests.makers import (Maker, is_wider_by_rests, pair_of, rest, share_of_integers, whole,
                           world_of_integers, worth)
@@ -287,6 +289,32 @@ class ByHandTest(unittest.TestCase):
                       ((HALF, NOUGHT), (NOUGHT, HALF)), ((HALF, HALF), (NOUGHT, NOUGHT)),
                       (NEARS[:2], NEARS[2:] + (NOUGHT,)), (((1, 2), NOUGHT), ((-1, 8), (5, 8)))):
             self.refuse(ONE, OTHER, ("market", "yes", thing), "market")
+        # All is right but what those of a NUMBER of one are together.
+        self.refuse(ONE, OTHER, ("market", "yes", ((HALF, (1, 8)), (NOUGHT, (3, 8)))), "market")
+        # All is right but what those of a NUMBER of other are together.
+        three = ((NOUGHT, (1, 4)), (HALF, HALF), (whole(1), (1, 4)))
+        last = (NOUGHT, (1, 4), (1, 4))
+        self.assertEqual(sides.check_side(
+            ONE, three, ("market", "yes", (((1, 4), (1, 4), NOUGHT), last))), "yes")
+        self.refuse(ONE, three, ("market", "yes", (((3, 8), NOUGHT, (1, 8)), last)), "market")
+
+    def test_worlds_and_views_that_are_none(self):
+        world, view, finer = YES["views"]
+        for thing in ((world[:3], view, finer), (list(world), view, finer), (world, view[:1], finer),
+                      (world, view, finer[:3]), (world, finer, view), (world, None, finer),
+                      (world, view, None), (None, view, finer), ((), (), ()), (world, view),
+                      (world, ((0, 1), (2, 4)), finer), (world, view, finer, finer)):
+            self.refuse(ONE, OTHER, ("views", "yes", thing), "views")
+
+    def test_a_blur_where_moments_are_unlike(self):
+        look = looks.look_of(OTHER)
+        for prior in ((1, 3), HALF):
+            one = looks.share_by(look, prior)
+            same = ("blur", "yes", ((whole(1), NOUGHT), (NOUGHT, whole(1))))
+            if prior == HALF:
+                self.assertEqual(sides.check_side(one, OTHER, same), "yes")
+            else:
+                self.refuse(one, OTHER, same, "blur")
 
     def test_what_is_no_case_share(self):
         beyond = ((whole(-1), HALF), (whole(2), HALF))
@@ -401,17 +429,17 @@ class FactsTest(unittest.TestCase):
         maker = Maker(172)
         for _ in range(80):
             one, other = maker.two(4)
-            table = rests.wider_paper(one, other)[1]
-            for side in ("views", "days", "market"):
-                paper = hub.side_by(one, other, ("table", table), side)
-                self.assertEqual(hub.hub_of(one, other, paper), ("table", table))
+            for table in (rests.wider_paper(one, other)[1], right_table(one, other)):
+                for side in ("table", "views", "days", "market"):
+                    paper = hub.side_by(one, other, ("table", table), side)
+                    self.assertEqual(hub.hub_of(one, other, paper), ("table", table))
             self.assertEqual(turn.side_paper(one, other, "days")[2], fair_by((one, other)))
             look = maker.look(5)
             coarse, prior = maker.coarse(look)[0], maker.prior()
             near, far = looks.share_by(coarse, prior), looks.share_by(look, prior)
-            table = rests.wider_paper(near, far)[1]
-            paper = hub.side_by(near, far, ("table", table), "blur")
-            self.assertEqual(hub.hub_of(near, far, paper), ("table", table))
+            for table in (rests.wider_paper(near, far)[1], right_table(near, far)):
+                paper = hub.side_by(near, far, ("table", table), "blur")
+                self.assertEqual(hub.hub_of(near, far, paper), ("table", table))
 
     def test_other_papers_that_hold(self):
         maker = Maker(173)
@@ -443,6 +471,31 @@ class FactsTest(unittest.TestCase):
                     there = turn.turned(one, other, paper, later)
                     self.assertEqual(sides.check_side(one, other, there), "no")
         self.assertGreater(min(seen_no.values()), 8)
+
+    def test_scores_with_stretches(self):
+        maker = Maker(175)
+        seen_less = 0
+        for _ in range(300):
+            other, one = maker.two(3)
+            if maker.below(3) == 0:
+                other = maker.alike(one)
+            score = maker.score(4)
+            less = worth(sees(score, other)) < worth(sees(score, one))
+            alike = not (Words(one, other).no("table", ("total",))
+                         or Words(one, other).no("table", ("moment",)))
+            paper = ("scores", "no", score)
+            if not (less and alike):
+                with self.assertRaises(BadPaper) as caught:
+                    hub.hub_of(one, other, paper)
+                self.assertEqual(caught.exception.part, "scores")
+                continue
+            seen_less += any(piece[0] == "stretch" for piece in score)
+            word, mark = hub.hub_of(one, other, paper)
+            self.assertEqual(word, "mark")
+            self.assertLess(rest(other, worth(mark)), rest(one, worth(mark)))
+            self.assertTrue(any(mark == piece[1] if piece[0] == "mark" else
+                                worth(piece[1]) <= worth(mark) <= worth(piece[2]) for piece in score))
+        self.assertGreater(seen_less, 40)
 
     def test_views_of_any_world(self):
         maker = Maker(174)

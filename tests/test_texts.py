@@ -257,7 +257,7 @@ class SheetTest(TextTest):
                 ("states 4", True), ("states 3", False), ("states 0", False), ("cells 2", True),
                 ("cells 4", False), ("together 0 1", True), ("together 1 0", True),
                 ("together 3 3", True), ("together 1 2", False), ("together 0 4", False),
-                ("together 4 4", False), ("forecast 0 1", True), ("forecast 1 2/2", True),
+                ("together 4 0", False), ("together 4 4", False), ("forecast 0 1", True), ("forecast 1 2/2", True),
                 ("forecast 3 10/2", True), ("forecast 3 4", False), ("forecast 4 5", False),
                 ("finer", False), ("wider", False), ("rest 1 8", True), ("rest 2/2 16/2", True),
                 ("rest 1 7", False), ("rest -1 16", True), ("rest 99 0", True), ("knows 0 0 1", True),
